@@ -1,0 +1,1 @@
+"""A language of objects and messages, worked in two ways, and its image."""
