@@ -29,8 +29,8 @@ class Line:
         self.newest = None
 
     def is_fresh(self):
-        """Whether nothing but names to be set has been read."""
-        return self.operand is None and self.left is None and self.head is None
+        """Whether a primary that comes now has nothing but names to be set ahead of it."""
+        return self.left is None and self.head is None
 
     def take(self, tree):
         """A primary has been read."""

@@ -21,7 +21,7 @@ def is_text(thing):
 
 def is_name(thing):
     """Whether it is a str that is a name."""
-    if not isinstance(thing, str) or not 0 < len(thing) <= LONGEST_NAME:
+    if not isinstance(thing, str) or len(thing) > LONGEST_NAME:
         return False
     return thing.isascii() and thing.isalnum() and thing[0].isalpha()
 

@@ -1,7 +1,7 @@
 """Whether any object has the form of a tree of a method."""
 
 from imagetalk.names import MOST_PARAMETERS, SPOKEN_WORDS
-from imagetalk.names import arity_of, is_local_word, is_method_selector, is_name, is_text
+from imagetalk.names import arity_of, is_local_word, is_name, is_text
 from imagetalk.treeparts import DEEPEST
 
 SHAPES = {"int": 2, "str": 2, "sym": 2, "arr": 2, "var": 2, "set": 3, "send": 4, "super": 3, "cascade": 3,
@@ -12,7 +12,7 @@ def kind_of(thing):
     """The kind of what has the outer form of a tree, None for all else."""
     if not isinstance(thing, tuple) or len(thing) == 0 or not isinstance(thing[0], str):
         return None
-    return thing[0] if SHAPES.get(thing[0], 0) == len(thing) else None
+    return thing[0] if SHAPES.get(thing[0]) == len(thing) else None
 
 
 def is_method_form(thing):
@@ -20,9 +20,7 @@ def is_method_form(thing):
     if kind_of(thing) != "method":
         return False
     _, selector, parameters, variables, statements = thing
-    if not is_method_selector(selector) or not isinstance(parameters, tuple):
-        return False
-    if len(parameters) != arity_of(selector):
+    if not isinstance(parameters, tuple) or len(parameters) != arity_of(selector):
         return False
     return body_fits(parameters, variables, statements, {}, DEEPEST - 1)
 
@@ -54,14 +52,14 @@ def declare_all(names, known, as_parameter):
 def last_fits(tree, known, room):
     """Whether it is an expression or a return of one."""
     if kind_of(tree) == "return":
-        return room > 0 and tree_fits(tree[1], known, room - 1)
+        return tree_fits(tree[1], known, room - 1)
     return tree_fits(tree, known, room)
 
 
 def tree_fits(tree, known, room):
     """Whether it is the tree of an expression, with no more trees in one another than there is room for."""
     kind = kind_of(tree)
-    if kind is None or room <= 0:
+    if room <= 0:
         return False
     if kind in ("int", "str", "sym", "arr"):
         return literal_fits(tree, room)
@@ -81,7 +79,7 @@ def tree_fits(tree, known, room):
 def literal_fits(tree, room):
     """Whether it is a literal, of these kinds."""
     kind = kind_of(tree)
-    if kind is None or room <= 0:
+    if room <= 0:
         return False
     if kind == "int":
         return is_short_integer(tree[1])

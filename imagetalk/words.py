@@ -42,7 +42,7 @@ def minus_binds(words, parens):
     if "#(" in parens or not words:
         return True
     kind, value, _ = words[-1]
-    return kind not in VALUE_KINDS and not (kind == "sign" and value in (")", "]"))
+    return kind not in VALUE_KINDS and value not in (")", "]")
 
 
 def note_paren(parens, sign):

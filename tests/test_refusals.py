@@ -48,7 +48,7 @@ class RefusalsTest(unittest.TestCase):
                      "^ x. !y", "^ x. !.", "^ x !^ y", "[^ x. !y]", "!+ x", "x + !+ y", "x + !a: y", "!a: x", "x y !:= 3",
                      "x !7", "x !'a'", "x !#a", "x !#(1)", "x !(y)", "x ![y]", "7 !7", "x !| a |", "| a | !| b |",
                      "| !|", "| a !3 |", "x !:a", "!)", "!]", "!;", "!:", "!:=", "x foo !:= 3", "3 !:= 4",
-                     "x + y !:= 3", "x a: y !:= 3", "(x) !:= 3", "x := 3 !:= 4"):
+                     "x + y !:= 3", "x a: y !:= 3", "x !':='", "x !#':='", "(x) !:= 3", "x := 3 !:= 4"):
             self.marked(text)
 
     def test_blocks(self):
@@ -117,6 +117,7 @@ class RefusalsTest(unittest.TestCase):
         self.marked("super " + " 3 ".join(parts) + " 3 !b: 3. ^ ^")
         self.marked(" ".join(part + name for part, name in zip(parts, "pqrs")) + " !b: x", read_method)
         self.marked("x " + "k: 3 " * 50 + "!k: 3")
+        self.marked("x " + " 3 ".join(parts[:3]) + " 3 !" + "a" * 25 + ": 3")
         read_body("x a: (x " + " 3 ".join(parts) + " 3) b: (x " + " 3 ".join(parts) + " 3)")
         read_body("x " + " 3 ".join(parts) + " 3; " + " 3 ".join(parts) + " 3")
 

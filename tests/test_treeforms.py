@@ -160,11 +160,11 @@ class FormsTest(unittest.TestCase):
             self.no_tree(with_body(("cascade", X, (("foo", ()), (selector, (X,) * (count + 1))))))
         for selector, count in (("", 0), ("a" * 41, 0), ("1a", 0), ("a b", 0), ("!", 1), ("/", 1), ("+-", 1), (":", 1),
                                 ("a::", 2), ("a:b", 1), ("a:b", 2), ("k:" * 51, 51), ("a" * 41 + ":", 1), (None, 0), (3, 0),
-                                (["foo"], 0), (True, 0), (("a" * 24 + ":") * 4 + "b:", 5)):
+                                (["foo"], 0), (True, 0), (("a" * 24 + ":") * 3 + "a" * 25 + ":", 4)):
             self.no_tree(with_body(("send", X, selector, (X,) * count)))
             self.no_tree(with_body(("super", selector, (X,) * count)))
             self.no_tree(with_body(("cascade", X, (("foo", ()), (selector, (X,) * count)))))
-            self.no_tree(("method", selector, ("x", "y", "z")[:count], (), ()))
+            self.no_tree(("method", selector, ("x", "y", "z", "w")[:count], (), ()))
 
     def test_cascades(self):
         for messages in ((), (("foo", ()),), (("foo", ()), ("bar",)), (("foo", ()), ("bar", (), ())), ("foo", "bar"),
@@ -190,10 +190,13 @@ class FormsTest(unittest.TestCase):
         self.no_tree(with_body(("arr", (item,))))
         deep = nested(39)[4][0]
         self.a_tree(with_body(("super", "a:", (deep,))))
+        self.a_tree(with_body(("set", "x", deep)))
+        self.a_tree(with_body(("cascade", deep, (("foo", ()), ("bar", ())))))
+        self.a_tree(with_body(("send", X, "a:", (deep,))))
         self.a_tree(with_body(("cascade", X, (("foo", ()), ("a:", (deep,))))))
         self.a_tree(with_body(("block", (), (), (deep,))))
         self.a_tree(with_body(("return", deep)))
-        for outer in (("super", "a:", (nested(40)[4][0],)), ("cascade", X, (("a:", (nested(40)[4][0],)), ("foo", ()))),
+        for outer in (("send", X, "a:", (nested(40)[4][0],)), ("super", "a:", (nested(40)[4][0],)), ("cascade", X, (("a:", (nested(40)[4][0],)), ("foo", ()))),
                       ("block", (), (), (nested(40)[4][0],)), ("return", nested(40)[4][0]), ("set", "x", nested(40)[4][0]),
                       ("block", (), (), (("return", deep),))):
             self.no_tree(with_body(outer))
