@@ -3,7 +3,7 @@
 from imagetalk.errors import BadSource
 from imagetalk.lines import Line, SUPER
 from imagetalk.names import FIVE_WORDS, LONGEST_SELECTOR, MOST_PARAMETERS, SPOKEN_WORDS
-from imagetalk.words import words_of
+from imagetalk.words import parted, words_of
 
 BODY_SELECTOR = "doIt"
 
@@ -16,14 +16,21 @@ END = 3
 
 def parsed_method(source):
     """The tree of a method, of any depth."""
-    reader = Reader(source)
+    reader = Reader(words_of(source), len(source))
     return reader.read_pattern()
 
 
 def parsed_body(source):
     """The tree of a source without a pattern, of any depth."""
-    reader = Reader(source)
+    reader = Reader(words_of(source), len(source))
     return reader.read_method(BODY_SELECTOR, [])
+
+
+def parsed_array(text):
+    """The array of which this is the text, of any length, that begins with its `#(`."""
+    reader = Reader(parted(text), len(text))
+    reader.at = 1
+    return reader.read_items()
 
 
 class Body:
@@ -50,8 +57,8 @@ class Body:
 class Reader:
     """The words of a source, and what has been read of them."""
 
-    def __init__(self, source):
-        self.words = [*words_of(source), ("end", "", len(source))]
+    def __init__(self, words, length):
+        self.words = [*words, ("end", "", length)]
         self.at = 0
         self.known = {}
         self.frames = []

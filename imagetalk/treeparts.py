@@ -84,3 +84,22 @@ def sent_selectors(tree):
             for selector, _ in part[2]:
                 found[selector] = True
     return sorted(found)
+
+
+def literal_trees(tree):
+    """The strings, symbols and arrays of a method, in the order of the text, like symbols once."""
+    found = []
+    symbols = {}
+    waiting = [tree]
+    while waiting:
+        part = waiting.pop()
+        if part[0] in ("str", "sym", "arr"):
+            if part[0] != "sym" or part[1] not in symbols:
+                found.append(part)
+            if part[0] == "sym":
+                symbols[part[1]] = True
+        else:
+            inner = parts_of(part)
+            inner.reverse()
+            waiting.extend(inner)
+    return found

@@ -13,6 +13,11 @@ def words_of(source):
     """The words of a source, in order, each as (kind, value, place)."""
     if not is_text(source) or len(source) > LONGEST_SOURCE:
         raise BadSource(-1)
+    return parted(source)
+
+
+def parted(source):
+    """The words of a text that may be longer than a source."""
     words = []
     parens = []
     place = past_gap(source, 0)

@@ -1,0 +1,166 @@
+"""What a run consists of: objects, classes, methods, activations and processes."""
+
+
+class Stopped(Exception):
+    """A run would go beyond one of its bounds."""
+
+    def __init__(self, word):
+        super().__init__(f"stopped by {word}")
+        self.word = word
+
+
+class Refused(Exception):
+    """What is done by rule cannot be done: the class of the exception that is signalled in its place."""
+
+    def __init__(self, word):
+        super().__init__(f"refused with {word}")
+        self.word = word
+
+
+class Kind:
+    """A class, as what its instances have in common."""
+
+    def __init__(self, name, parent, fields):
+        self.name = name
+        self.parent = parent
+        self.fields = fields
+        self.line = (name,) if parent is None else (name, *parent.line)
+        self.known = {}
+        self.thing = None
+
+    def is_kind_of(self, name):
+        """Whether it is the class of this name or one below it."""
+        return name in self.line
+
+
+class Thing:
+    """An object of a run. Integers, nil, true and false are those of Python.
+
+    Its data are the signs of a String or Symbol, the list of the items of an Array, the Kind of a class, the Closure of
+    a Block, the Strand of a Process, the Signals of a Semaphore, None for others.
+    """
+
+    def __init__(self, kind, data):
+        self.kind = kind
+        self.fields = [None] * len(kind.fields)
+        self.data = data
+
+    def is_a(self, name):
+        """Whether it is an instance of the class of this name itself."""
+        return self.kind.name == name
+
+
+class Method:
+    """A method with a source: its tree, and its literals as objects, at first; its body when it is needed."""
+
+    def __init__(self, kind, selector, tree, literals):
+        self.kind = kind
+        self.selector = selector
+        self.tree = tree
+        self.literals = literals
+        self.body = None
+
+
+class Rule:
+    """A method that is done by rule; one that is direct returns what it answers."""
+
+    def __init__(self, action, direct):
+        self.action = action
+        self.direct = direct
+
+
+class Closure:
+    """What a Block knows: its body, and the activation in which it was made."""
+
+    def __init__(self, body, around):
+        self.body = body
+        self.around = around
+
+
+class Signals:
+    """What a Semaphore knows: its signals, and the processes that wait for one."""
+
+    def __init__(self):
+        self.count = 0
+        self.waiting = []
+
+
+class Strand:
+    """A process: its activations, the Block that it has to begin with, and what comes when it goes on."""
+
+    def __init__(self, number, block):
+        self.number = number
+        self.acts = []
+        self.thing = None
+        self.block = block
+        self.comes = None
+        self.waits_at = None
+        self.ended = False
+
+
+class Activation:
+    """One of a method or of a Block that is worked: around and block are None for a method.
+
+    after tells what its end leads to, if not to its sender: "process", "receiver", "argument", "way", "handler" or
+    "ended"; held is the Way, the Handling or the Remains that it belongs to then.
+    """
+
+    def __init__(self, method, body, receiver, variables, steps):
+        self.kind = "method"
+        self.method = method
+        self.body = body
+        self.receiver = receiver
+        self.variables = variables
+        self.steps = steps
+        self.place = 0
+        self.stack = []
+        self.around = None
+        self.block = None
+        self.index = 0
+        self.after = None
+        self.held = None
+        self.waits = False
+
+
+class Guard:
+    """An activation of ensure:, ifCurtailed: or on:do:, its kind "ensure", "curtail" or "handle".
+
+    argument is its Block that may be worked later, caught the name of the class that on:do: catches, begun whether the
+    argument of the others has begun, kept what the receiver of ensure: answered.
+    """
+
+    def __init__(self, kind, block, argument, caught):
+        self.kind = kind
+        self.block = block
+        self.argument = argument
+        self.caught = caught
+        self.begun = False
+        self.kept = None
+        self.index = 0
+        self.after = None
+        self.held = None
+
+
+class Way:
+    """A way out: the place of the activation at which it ends, and what comes there."""
+
+    def __init__(self, low, arrival, value):
+        self.low = low
+        self.arrival = arrival
+        self.carried = value
+
+
+class Handling:
+    """An exception that is being handled, and the activation of the on:do: whose Block does that."""
+
+    def __init__(self, exception, guard):
+        self.exception = exception
+        self.guard = guard
+
+
+class Remains:
+    """The arguments of a process that was ended by another one, which works them, that have not begun."""
+
+    def __init__(self, strand, blocks):
+        self.strand = strand
+        self.blocks = blocks
