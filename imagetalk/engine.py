@@ -1,0 +1,93 @@
+"""The machine: the codes of the topmost activation are done one by one."""
+
+from imagetalk.deeds import DEEDS, return_home, taken
+from imagetalk.flatten import flat_body
+from imagetalk.plans import planned
+from imagetalk.run import Run
+from imagetalk.things import Stopped
+
+# More codes than any run has.
+NO_END = 10 ** 12
+
+
+class Machine(Run):
+    """A run that goes over codes."""
+
+    def __init__(self, book, most_sends, in_place, placed):
+        super().__init__(book, most_sends, in_place, placed)
+        self.done = 0
+        self.actions = dict(DEEDS)
+        self.actions["jump"] = jump
+        self.actions["test"] = test
+        self.actions["return"] = return_from_block
+        self.actions["tail"] = tail
+        self.actions["tailsuper"] = tail_super
+
+    def prepared(self, method, is_main, in_place):
+        """The body of a method, made of its tree."""
+        plan, _ = planned(method.tree, method.kind.fields, is_main, in_place)
+        return flat_body(plan)
+
+    def steps_of(self, body):
+        """The codes that an activation has to do."""
+        return body[2]
+
+    def go(self, count):
+        """Does so many codes, or fewer if the run ends."""
+        actions = self.actions
+        last = self.done + count
+        try:
+            while self.ended is None and self.done < last:
+                act = self.acts[-1]
+                code = act.steps[act.place]
+                act.place += 1
+                self.done += 1
+                action = actions[code[0]]
+                action(self, act, code)
+        except Stopped as stop:
+            self.end("stopped", stop.word)
+
+
+def go_to(run, act, place):
+    """Goes on at a place; one that is not above the code's own is a round."""
+    if place < act.place:
+        run.count_round()
+    act.place = place
+
+
+def jump(run, act, code):
+    """Goes on elsewhere."""
+    go_to(run, act, code[1])
+
+
+def test(run, act, code):
+    """Goes on here, or elsewhere, as a value tells."""
+    _, wanted, other, out = code
+    value = act.stack.pop()
+    if not isinstance(value, bool):
+        go_to(run, act, out)
+        run.send(value, "mustBeBoolean", ())
+    elif value != wanted:
+        go_to(run, act, other)
+
+
+def return_from_block(run, act, code):
+    """The return of a Block, at which it stays if it has to wait."""
+    act.place -= 1
+    return_home(run, act, code)
+
+
+def tail(run, act, code):
+    """Ends the activation and sends a message."""
+    arguments = taken(act.stack, code[2])
+    receiver = act.stack.pop()
+    run.acts.pop()
+    run.send(receiver, code[1], arguments)
+
+
+def tail_super(run, act, code):
+    """Ends the activation and sends a message to super."""
+    arguments = taken(act.stack, code[2])
+    receiver = act.stack.pop()
+    run.acts.pop()
+    run.send_from(act.method.kind.parent, receiver, run.kind_of(receiver), code[1], arguments)
