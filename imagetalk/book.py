@@ -1,19 +1,24 @@
-"""A program that has been read: its classes beside the kernel's, with their methods as trees."""
+"""A program that has been read: its classes beside the kernel's, with their methods."""
 
-from imagetalk.kernel import CLASSES, kernel_selectors
+from imagetalk.kernel import FIELDS_OF, PARENT_OF, kernel_selectors
 
 CLASS_WORD = " class"
 
 
 class Book:
-    """The classes of a program and of the kernel."""
+    """The classes of a program and of the kernel.
+
+    methods has what was read of the program's methods, by class and selector, sources what was read of each source.
+    """
 
     def __init__(self):
-        self.parents = {name: parent for name, parent, _ in CLASSES}
-        self.own_fields = {name: fields for name, _, fields in CLASSES}
+        self.parents = dict(PARENT_OF)
+        self.own_fields = dict(FIELDS_OF)
+        self.all_fields = {}
         self.own_names = []
-        self.trees = {}
+        self.methods = {}
         self.main = None
+        self.sources = {}
 
     def put_class(self, name, parent, fields, class_fields):
         """A class of the program, without methods so far."""
@@ -51,11 +56,16 @@ class Book:
 
     def fields_of_class(self, name):
         """All fields of its instances, those of the highest class first."""
-        fields = []
-        for above in reversed(self.line_of_class(name)):
-            fields.extend(list(self.own_fields.get(above, ())))
-        return tuple(fields)
+        if name not in self.all_fields:
+            parent = self.parent_of_class(name)
+            above = () if parent is None else self.fields_of_class(parent)
+            self.all_fields[name] = above + self.own_fields.get(name, ())
+        return self.all_fields[name]
+
+    def own_methods(self, name):
+        """The methods with a source that a class of the program's own has itself, by their selectors."""
+        return self.methods.get(name, {})
 
     def selectors_of_class(self, name):
         """The selectors of the methods that the class itself has."""
-        return kernel_selectors(name) + list(self.trees.get(name, {}))
+        return list(self.methods[name]) if name in self.methods else kernel_selectors(name)

@@ -92,9 +92,9 @@ def method_of(program, name, selector):
     """The tree of a method that the class itself has, None if it has none with a source."""
     book = book_with(program, name)
     check_selector(selector)
-    trees = book.trees.get(name, {})
-    if selector in trees:
-        return trees[selector]
+    methods = book.own_methods(name)
+    if selector in methods:
+        return methods[selector].tree
     source = kernel_source(name, selector)
     return read_method(source) if source is not None else None
 

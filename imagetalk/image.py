@@ -3,10 +3,9 @@
 from imagetalk.book import CLASS_WORD
 from imagetalk.classes import class_of_class
 from imagetalk.kernel import kernel_source
-from imagetalk.reader import parsed_method
+from imagetalk.parsing import parsed_method
 from imagetalk.rules import rule_of
 from imagetalk.things import Kind, Method, Rule, Signals, Stopped, Thing
-from imagetalk.treeparts import literal_trees
 
 MOST_OBJECTS = 2000
 MOST_SIGNS = 2000
@@ -70,15 +69,15 @@ class Image:
 
     def own_method(self, kind, selector):
         """The method that a class has itself, None if it has none."""
-        tree = self.book.trees.get(kind.name, {}).get(selector)
-        if tree is not None:
-            return self.method_of_program(kind, selector, tree)
+        parsed = self.book.own_methods(kind.name).get(selector)
+        if parsed is not None:
+            return self.method_of_program(kind, selector, parsed.tree)
         action, direct = rule_of(kind.name, selector)
         if action is not None:
             return Rule(action, direct)
         source = kernel_source(kind.name, selector)
         if source is not None:
-            return Method(kind, selector, parsed_method(source), [])
+            return Method(kind, selector, parsed_method(source).tree, [])
         return None
 
     def method_of_program(self, kind, selector, tree):
@@ -89,10 +88,10 @@ class Image:
             method.body = self.placed[key][2]
         return method
 
-    def put_literals(self, name, selector, tree):
+    def put_literals(self, name, selector, parsed):
         """The literals of a method become objects."""
         key = (name, selector)
-        trees = self.placed[key][1] if key in self.placed else literal_trees(tree)
+        trees = self.placed[key][1] if key in self.placed else parsed.literals
         if trees:
             self.literals[key] = [self.literal(tree) for tree in trees]
 
@@ -100,10 +99,9 @@ class Image:
         """The literals of all methods of the program become objects; returns those of main."""
         for name in self.book.own_names:
             for owner in (name, name + CLASS_WORD):
-                trees = self.book.trees[owner]
-                for selector in trees:
-                    self.put_literals(owner, selector, trees[selector])
-        return [self.literal(tree) for tree in literal_trees(self.book.main)]
+                for selector, parsed in self.book.methods[owner].items():
+                    self.put_literals(owner, selector, parsed)
+        return [self.literal(tree) for tree in self.book.main.literals]
 
     def literal(self, tree):
         """The object or integer that a literal is."""

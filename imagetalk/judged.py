@@ -101,4 +101,4 @@ def can_have(book, name, made):
     """Whether a class of the program's own has a method that a made method can stand in the place of."""
     if not book.has_own_class(name) or not is_sound_for(book, name, made):
         return False
-    return made[0] in book.trees[name]
+    return made[0] in book.methods[name]

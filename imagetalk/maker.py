@@ -5,22 +5,21 @@ from imagetalk.errors import NoMethod
 from imagetalk.flatten import flat_body
 from imagetalk.kernel import kernel_source
 from imagetalk.plans import planned
+from imagetalk.parsing import parsed_method
 from imagetalk.programread import read_program
-from imagetalk.programs import with_method
-from imagetalk.reader import BODY_SELECTOR, parsed_method
+from imagetalk.programs import changed_by_method
 
 
 def make(program, name, source, *, in_place=True):
     """The made method that a source becomes in a class of the program's own."""
-    book = read_program(with_method(program, name, source))
-    tree = parsed_method(source)
-    return made_from(tree, book.fields_of_class(name), False, in_place)
+    _, book = changed_by_method(program, name, source)
+    return made_from(book.sources[source].tree, book.fields_of_class(name), False, in_place)
 
 
 def make_main(program, *, in_place=True):
     """The made method of main."""
     book = read_program(program)
-    return made_from(book.main, (), True, in_place)
+    return made_from(book.main.tree, (), True, in_place)
 
 
 def made_of(program, name, selector, *, in_place=True):
@@ -29,16 +28,16 @@ def made_of(program, name, selector, *, in_place=True):
     if not isinstance(selector, str):
         raise NoMethod("no method that the class itself has")
     fields = book.fields_of_class(name)
-    trees = book.trees.get(name, {})
-    if selector in trees:
-        return made_from(trees[selector], fields, False, in_place)
+    methods = book.own_methods(name)
+    if selector in methods:
+        return made_from(methods[selector].tree, fields, False, in_place)
     source = kernel_source(name, selector)
     if source is None:
         raise NoMethod("no method with a source that the class itself has")
-    return made_from(parsed_method(source), fields, False, True)
+    return made_from(parsed_method(source).tree, fields, False, True)
 
 
 def made_from(tree, fields, is_main, in_place):
     """The made method of the tree of a method of a class with these fields."""
     plan, literals = planned(tree, fields, is_main, in_place)
-    return (tree[1] if not is_main else BODY_SELECTOR, literals, flat_body(plan))
+    return (tree[1], literals, flat_body(plan))

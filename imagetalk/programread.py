@@ -4,17 +4,30 @@ from imagetalk.book import CLASS_WORD, Book
 from imagetalk.errors import BadProgram, BadSource
 from imagetalk.kernel import IN_PLACE, PARENTS
 from imagetalk.names import are_fields, is_class_word
-from imagetalk.reader import parsed_body, parsed_method
-from imagetalk.treeparts import DEEPEST, declared_names, depth_of, free_names
+from imagetalk.parsing import parsed_body, parsed_method
 
 MOST_CLASSES = 12
 MOST_METHODS = 20
 DEFINITION_PARTS = 6
 
 
-def read_program(thing, any_depth=False):
-    """The Book of a program; with any_depth, sources that TooMany would refuse are taken as well."""
-    judge = Judge(any_depth)
+def read_program(thing):
+    """The Book of a program."""
+    judge = Judge({}, False)
+    judge.read(thing)
+    return judge.book
+
+
+def read_beside(thing, book):
+    """The Book of a program that has perhaps the sources of another one, too."""
+    judge = Judge(book.sources, False)
+    judge.read(thing)
+    return judge.book
+
+
+def read_changed(thing, book):
+    """The Book of a program that another one became; sources that are too deep are taken as well."""
+    judge = Judge(book.sources, True)
     judge.read(thing)
     return judge.book
 
@@ -30,12 +43,13 @@ def are_sources(thing):
 
 
 class Judge:
-    """What has been read of an object that should be a program."""
+    """What has been read of an object that should be a program; sources has what was read of each source, None if bad."""
 
-    def __init__(self, any_depth):
+    def __init__(self, sources, any_depth):
         self.any_depth = any_depth
         self.book = Book()
-        self.defined = []
+        self.book.sources = sources
+        self.defined = {}
 
     def read(self, thing):
         """Reads the whole, as far as it is right."""
@@ -44,15 +58,15 @@ class Judge:
         classes, main = thing
         if not isinstance(classes, tuple) or len(classes) > MOST_CLASSES:
             raise BadProgram(())
-        self.defined = [definition[0] for definition in classes if is_definition(definition)]
+        self.defined = {definition[0]: True for definition in classes if is_definition(definition)}
         for index, definition in enumerate(classes):
             if not self.definition_fits(definition):
                 raise BadProgram((index,))
             name, parent, fields, class_fields, methods, class_methods = definition
             self.book.put_class(name, parent, fields, class_fields)
-            self.read_methods((index, 0), name, methods)
-            self.read_methods((index, 1), name + CLASS_WORD, class_methods)
-        self.book.main = self.tree_of(parsed_body, main)
+            self.read_methods(index, 0, name, methods)
+            self.read_methods(index, 1, name + CLASS_WORD, class_methods)
+        self.book.main = self.parsed_main(main)
         if self.book.main is None or not self.names_fit(self.book.main, ()):
             raise BadProgram(("main",))
 
@@ -78,28 +92,53 @@ class Judge:
         above = self.book.fields_of_class(parent)
         return not any([field in above for field in thing])
 
-    def read_methods(self, place, owner, sources):
+    def read_methods(self, index, side, owner, sources):
         """Reads the methods of a class or of its NAME class."""
         fields = self.book.fields_of_class(owner)
-        trees = {}
+        methods = {}
         for number, source in enumerate(sources):
-            tree = self.tree_of(parsed_method, source)
-            if tree is None or tree[1] in trees or tree[1] in IN_PLACE or not self.names_fit(tree, fields):
-                raise BadProgram((*place, number))
-            trees[tree[1]] = tree
-        self.book.trees[owner] = trees
+            parsed = self.parsed_source(source)
+            if parsed is None or not self.names_fit(parsed, fields):
+                raise BadProgram((index, side, number))
+            selector = parsed.tree[1]
+            if selector in methods or selector in IN_PLACE:
+                raise BadProgram((index, side, number))
+            methods[selector] = parsed
+        self.book.methods[owner] = methods
 
-    def tree_of(self, parse, source):
-        """The tree that is parsed from a source, None if it is none or too deep."""
-        try:
-            tree = parse(source)
-        except BadSource:
+    def parsed_source(self, source):
+        """What is read of the source of a method, None if it is none or too deep."""
+        if not isinstance(source, str):
             return None
-        return tree if self.any_depth or depth_of(tree) <= DEEPEST else None
+        sources = self.book.sources
+        if source not in sources:
+            sources[source] = parsed_or_none(parsed_method, source)
+        return self.if_taken(sources[source])
 
-    def names_fit(self, tree, fields):
+    def parsed_main(self, source):
+        """As parsed_source, of main, which is kept apart from the methods."""
+        if not isinstance(source, str):
+            return None
+        sources = self.book.sources
+        if (source,) not in sources:
+            sources[(source,)] = parsed_or_none(parsed_body, source)
+        return self.if_taken(sources[(source,)])
+
+    def if_taken(self, parsed):
+        """What was read, None if it is too deep."""
+        return parsed if parsed is None or parsed.shallow or self.any_depth else None
+
+    def names_fit(self, parsed, fields):
         """Whether a method reads and sets nothing but these fields and classes, and declares none of the fields."""
-        for name in free_names(tree):
+        for name in parsed.free:
             if name not in fields and name not in self.book.parents and name not in self.defined:
                 return False
-        return not any([name in fields for name in declared_names(tree)])
+        return not fields or not any([name in fields for name in parsed.declared])
+
+
+def parsed_or_none(parse, source):
+    """What is read of a source, None if it is none."""
+    try:
+        return parse(source)
+    except BadSource:
+        return None

@@ -4,8 +4,8 @@ from imagetalk.book import CLASS_WORD
 from imagetalk.errors import BadClass, BadFields, BadParent, BadProgram, NoMethod
 from imagetalk.kernel import PARENTS
 from imagetalk.names import are_fields
-from imagetalk.programread import read_program
-from imagetalk.reader import parsed_method
+from imagetalk.parsing import parsed_method
+from imagetalk.programread import read_beside, read_changed, read_program
 from imagetalk.trees import check_depth
 
 
@@ -21,16 +21,21 @@ def is_program(thing):
 def same_program(program, other):
     """The first where at which two programs differ, None if it is in no more than the words of sources."""
     book = read_program(program)
-    against = read_program(other)
+    against = read_beside(other, book)
     for index in range(max(len(program[0]), len(other[0]))):
         if heads_at(program, index) != heads_at(other, index):
             return (index,)
         name = program[0][index][0]
         for side, owner in enumerate((name, name + CLASS_WORD)):
-            number = first_unlike(list(book.trees[owner].values()), list(against.trees[owner].values()))
+            number = first_unlike(trees_of(book.methods[owner]), trees_of(against.methods[owner]))
             if number is not None:
                 return (index, side, number)
-    return None if book.main == against.main else ("main",)
+    return None if book.main.tree == against.main.tree else ("main",)
+
+
+def trees_of(methods):
+    """The trees of methods, in order."""
+    return [parsed.tree for parsed in methods.values()]
 
 
 def heads_at(program, index):
@@ -48,37 +53,44 @@ def first_unlike(trees, others):
 
 def with_method(program, name, source):
     """The program in which a class has this method."""
+    changed, _ = changed_by_method(program, name, source)
+    return changed
+
+
+def changed_by_method(program, name, source):
+    """The program in which a class has this method, and its Book."""
     book = read_program(program)
     index, side = own_place(book, name)
-    tree = parsed_method(source)
+    parsed = parsed_method(source)
     sources = program[0][index][4 + side]
-    number = number_of(book, name, tree[1])
+    number = number_of(book, name, parsed.tree[1])
     changed = with_part(program, index, 4 + side, (*sources[:number], source, *sources[number + 1:]))
-    read_program(changed, True)
-    check_depth(tree)
-    return changed
+    against = read_changed(changed, book)
+    check_depth(parsed)
+    return (changed, against)
 
 
 def without_method(program, name, selector):
     """The program in which a class has no method with this selector."""
     book = read_program(program)
     index, side = own_place(book, name)
-    if not isinstance(selector, str) or selector not in book.trees[name]:
+    if not isinstance(selector, str) or selector not in book.methods[name]:
         raise NoMethod("no method that the class itself has")
     sources = program[0][index][4 + side]
     number = number_of(book, name, selector)
     changed = with_part(program, index, 4 + side, (*sources[:number], *sources[number + 1:]))
-    read_program(changed)
+    read_changed(changed, book)
     return changed
 
 
 def with_fields(program, name, fields):
     """The program in which a class has other own fields."""
-    index, side = own_place(read_program(program), name)
+    book = read_program(program)
+    index, side = own_place(book, name)
     if not are_fields(fields):
         raise BadFields("not a tuple of own fields")
     changed = with_part(program, index, 2 + side, fields)
-    read_program(changed)
+    read_changed(changed, book)
     return changed
 
 
@@ -93,7 +105,7 @@ def with_parent(program, name, parent):
     classes, main = with_part(program, index, 1, parent)
     if parent in book.own_names[index:]:
         classes = moved(book, classes, name, parent)
-    read_program((classes, main))
+    read_changed((classes, main), book)
     return (classes, main)
 
 
@@ -107,7 +119,7 @@ def own_place(book, name):
 
 def number_of(book, name, selector):
     """The number of the method with this selector, that of the next one if there is none."""
-    selectors = list(book.trees[name])
+    selectors = list(book.methods[name])
     return selectors.index(selector) if selector in selectors else len(selectors)
 
 

@@ -3,7 +3,7 @@
 from imagetalk.errors import BadSource
 from imagetalk.lines import Line, SUPER
 from imagetalk.names import FIVE_WORDS, LONGEST_SELECTOR, MOST_PARAMETERS, SPOKEN_WORDS
-from imagetalk.words import parted, words_of
+from imagetalk.words import parted
 
 BODY_SELECTOR = "doIt"
 
@@ -12,18 +12,6 @@ STATEMENT = 0
 STATEMENT_OR_END = 1
 DOT_OR_END = 2
 END = 3
-
-
-def parsed_method(source):
-    """The tree of a method, of any depth."""
-    reader = Reader(words_of(source), len(source))
-    return reader.read_pattern()
-
-
-def parsed_body(source):
-    """The tree of a source without a pattern, of any depth."""
-    reader = Reader(words_of(source), len(source))
-    return reader.read_method(BODY_SELECTOR, [])
 
 
 def parsed_array(text):

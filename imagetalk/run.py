@@ -30,7 +30,7 @@ class Run(Image):
         self.ready = []
         self.going = main
         self.acts = main.acts
-        method = Method(self.kind_named("UndefinedObject"), BODY_SELECTOR, book.main, self.put_all_literals())
+        method = Method(self.kind_named("UndefinedObject"), BODY_SELECTOR, book.main.tree, self.put_all_literals())
         self.begin(method, None, (), "process")
 
     def prepared(self, method, is_main, in_place):
@@ -100,7 +100,7 @@ class Run(Image):
 
     def prepare(self, method, is_main):
         """Gives a method its body: those of the kernel are always made in place."""
-        own = is_main or method.kind.name in self.book.trees
+        own = is_main or method.kind.name in self.book.methods
         method.body = self.prepared(method, is_main, self.in_place or not own)
 
     def work(self, block, arguments, after):

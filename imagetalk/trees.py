@@ -1,29 +1,30 @@
 """Texts of methods to trees, and trees to texts."""
 
 from imagetalk.errors import BadTree, TooMany
-from imagetalk.reader import BODY_SELECTOR, parsed_body, parsed_method
+from imagetalk.parsing import parsed_body, parsed_method
+from imagetalk.reader import BODY_SELECTOR
 from imagetalk.treeform import is_method_form
-from imagetalk.treeparts import DEEPEST, all_parts, depth_of
+from imagetalk.treeparts import all_parts
 from imagetalk.writer import body_text, method_text
 
 
 def read_method(source):
     """The tree of a method."""
-    tree = parsed_method(source)
-    check_depth(tree)
-    return tree
+    parsed = parsed_method(source)
+    check_depth(parsed)
+    return parsed.tree
 
 
 def read_body(source):
     """The tree of a source without a pattern."""
-    tree = parsed_body(source)
-    check_depth(tree)
-    return tree
+    parsed = parsed_body(source)
+    check_depth(parsed)
+    return parsed.tree
 
 
-def check_depth(tree):
-    """Refuses a tree in which too many trees lie within one another."""
-    if depth_of(tree) > DEEPEST:
+def check_depth(parsed):
+    """Refuses a source in which too many trees lie within one another."""
+    if not parsed.shallow:
         raise TooMany("too many trees within one another")
 
 

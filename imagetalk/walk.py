@@ -2,10 +2,9 @@
 
 from imagetalk.counts import check_sends
 from imagetalk.errors import BadProgram
+from imagetalk.parsing import parsed_body
 from imagetalk.programread import read_program
-from imagetalk.reader import parsed_body
 from imagetalk.telling import value_tree
-from imagetalk.treeparts import free_names
 from imagetalk.trees import check_depth
 from imagetalk.walker import Walk
 
@@ -40,13 +39,13 @@ def walk_value(program, sends):
 def answers(program, source, sends):
     """The outcome of a program with another main."""
     book = read_program(program)
-    tree = parsed_body(source)
+    parsed = parsed_body(source)
     check_sends(sends)
-    for name in free_names(tree):
+    for name in parsed.free:
         if name not in book.parents:
             raise BadProgram(("main",))
-    check_depth(tree)
-    book.main = tree
+    check_depth(parsed)
+    book.main = parsed
     run = Walk(book, sends, True, {})
     run.go()
     return run.outcome()

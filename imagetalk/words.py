@@ -2,18 +2,18 @@
 
 from imagetalk.errors import BadSource
 from imagetalk.names import LONGEST_NAME, OPERATORS, is_text
+from imagetalk.plainwords import MOST_DIGITS, VALUE_KINDS, plain_words
 
 LONGEST_SOURCE = 2000
-MOST_DIGITS = 60
 SIGNS = (":=", "#(", "(", ")", "[", "]", ":", "|", "^", ".", ";")
-VALUE_KINDS = ("name", "int", "str", "sym")
 
 
 def words_of(source):
     """The words of a source, in order, each as (kind, value, place)."""
     if not is_text(source) or len(source) > LONGEST_SOURCE:
         raise BadSource(-1)
-    return parted(source)
+    words = plain_words(source)
+    return parted(source) if words is None else words
 
 
 def parted(source):

@@ -82,7 +82,7 @@ class PlacesTest(unittest.TestCase):
     def test_none_and_all(self):
         for program in all_programs():
             book = read_program(program)
-            places = [(owner, made_of(program, owner, selector)) for owner in book.trees for selector in book.trees[owner]]
+            places = [(owner, made_of(program, owner, selector)) for owner in book.methods for selector in book.methods[owner]]
             self.assertEqual(machine_with(program, [], 5000), machine(program, 5000))
             self.assertEqual(machine_with(program, places, 5000), machine(program, 5000))
 

@@ -7,7 +7,7 @@ from grammar import WORDS, Prefix
 from treemaker import Maker
 
 from imagetalk.errors import BadSource, BadTree
-from imagetalk.reader import parsed_method
+from imagetalk.parsing import parsed_method
 from imagetalk.trees import is_tree, read_method, tree_size, write_method
 from imagetalk.words import words_of
 from imagetalk.writer import method_text
@@ -34,7 +34,7 @@ def count_of(tree):
 
 def read_or_none(text):
     try:
-        return parsed_method(text)
+        return parsed_method(text).tree
     except BadSource:
         return None
 

@@ -194,7 +194,7 @@ class RunsTest(unittest.TestCase):
 
     def check(self, program):
         plain = machine(program, 5000)
-        trees = read_program(program).trees
+        trees = read_program(program).methods
         for change in PASSES:
             places = [(owner, change(made_of(program, owner, selector))) for owner in trees for selector in trees[owner]]
             for name, thing in places:

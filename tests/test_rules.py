@@ -11,7 +11,7 @@ all divmod super type Exception ValueError TypeError KeyError IndexError LookupE
 NotImplementedError""".split()
 METHODS = """append clear copy count endswith extend find get index insert isalnum isalpha isdigit islower isspace isupper items
 join keys ljust lower lstrip partition pop remove replace reverse rfind rjust rpartition rsplit rstrip setdefault split
-splitlines startswith strip update upper values zfill bit_length isascii isprintable removeprefix removesuffix
+splitlines startswith strip update upper values zfill bit_length isascii isidentifier isprintable removeprefix removesuffix
 __init__""".split()
 LIBRARY = {"heapq": ["heappush", "heappop"]}
 SPECIAL = ("__init__", "__eq__", "__repr__", "__str__", "__len__")

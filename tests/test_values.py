@@ -32,7 +32,7 @@ class ValuesTest(unittest.TestCase):
 
     def test_each_method_has_a_row(self):
         text = " ".join(expression for expression, _ in rows_of("=>") + rows_of("!"))
-        selectors = [selector for _, row in BY_RULE for selector in row] + [selector for _, selector, _ in TEXTS]
+        selectors = [selector for row in BY_RULE.values() for selector in row] + [selector for row in TEXTS.values() for selector, _ in row]
         elsewhere = ("become:", "terminate", "do:", "to:do:", "timesRepeat:", "doesNotUnderstand:", "message:receiver:",
                      "ifTrue:", "ifFalse:")
         for selector in selectors:

@@ -1,0 +1,56 @@
+"""Sources that have been read, with what is asked of them."""
+
+from imagetalk.quick import Quick, Unsure
+from imagetalk.reader import BODY_SELECTOR, Reader
+from imagetalk.treeparts import DEEPEST, declared_names, depth_of, free_names, literal_trees
+from imagetalk.words import words_of
+
+
+class Parsed:
+    """The tree of a source, of any depth; the names that are free and those that are declared; its literals."""
+
+    def __init__(self, tree, free, declared, literals, shallow):
+        self.tree = tree
+        self.free = free
+        self.declared = declared
+        self.literals = literals
+        self.shallow = shallow
+
+
+def parsed_method(source):
+    """What is read of the source of a method, however deep it is."""
+    return parsed_source(source, True)
+
+
+def parsed_body(source):
+    """What is read of a source without a pattern, however deep it is."""
+    return parsed_source(source, False)
+
+
+def parsed_source(source, with_pattern):
+    """What is read of a source, quickly if it can be."""
+    words = words_of(source)
+    quick = Quick(words)
+    try:
+        tree = quick.read_method() if with_pattern else quick.read_body(BODY_SELECTOR, ())
+    except Unsure:
+        return parsed_slowly(source, words, with_pattern)
+    shallow = surely_shallow(source, words, with_pattern) or depth_of(tree) <= DEEPEST
+    return Parsed(tree, list(quick.free), quick.declared, quick.literals, shallow)
+
+
+def parsed_slowly(source, words, with_pattern):
+    """What is read of words by the reader that tells what bars them."""
+    reader = Reader(words, len(source))
+    tree = reader.read_pattern() if with_pattern else reader.read_method(BODY_SELECTOR, [])
+    return Parsed(tree, free_names(tree), declared_names(tree), literal_trees(tree), depth_of(tree) <= DEEPEST)
+
+
+def surely_shallow(source, words, with_pattern):
+    """Whether there are too few words for too many trees: each tree has one of its own, the method in its pattern."""
+    many = len(words) if with_pattern else len(words) + 1
+    if many <= DEEPEST:
+        return True
+    if "'" in source or "\"" in source:
+        return False
+    return many - source.count(")") - source.count("]") - source.count(".") <= DEEPEST
