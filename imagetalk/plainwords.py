@@ -11,8 +11,8 @@ VALUE_KINDS = ("name", "int", "str", "sym")
 # The words that are always the same, each with its kind.
 FIXED = {
     ":=": "sign", "(": "sign", ")": "sign", "[": "sign", "]": "sign", ":": "sign", "|": "sign", "^": "sign",
-    ".": "sign", ";": "sign", "+": "op", "-": "op", "*": "op", "//": "op", "\\\\": "op", "<": "op", ">": "op", "<=": "op",
-    ">=": "op", "=": "op", "==": "op", "~=": "op", "~~": "op", ",": "op",
+    ".": "sign", ";": "sign", "+": "op", "-": "op", "*": "op", "//": "op", "\\\\": "op", "<": "op", ">": "op",
+    "<=": "op", ">=": "op", "=": "op", "==": "op", "~=": "op", "~~": "op", ",": "op",
 }
 
 # What stands in the place of `#(`, of strings and of symbols that are strings while words are set apart by blanks.

@@ -43,7 +43,7 @@ def are_sources(thing):
 
 
 class Judge:
-    """What has been read of an object that should be a program; sources has what was read of each source, None if bad."""
+    """What has been read of an object that should be a program."""
 
     def __init__(self, sources, any_depth):
         self.any_depth = any_depth
