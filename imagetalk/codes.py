@@ -75,7 +75,8 @@ def is_code(thing):
     parts = PARTS[thing[0]]
     if len(thing) != len(parts) + 1:
         return False
-    for place, fits in enumerate(parts):
+    for place in range(len(parts)):
+        fits = parts[place]
         if not fits(thing[place + 1]):
             return False
     return True

@@ -7,7 +7,7 @@ from imagetalk.run import Run
 from imagetalk.things import Stopped
 
 # More codes than any run has.
-NO_END = 10 ** 12
+NO_END = 1000000000000
 
 
 class Machine(Run):

@@ -154,7 +154,7 @@ def kernel_texts():
 
 def kernel_selectors(name):
     """The selectors of the methods that a class of the kernel has itself, those done by rule first."""
-    return [*BY_RULE.get(name, ()), *[selector for selector, _ in TEXTS.get(name, ())]]
+    return list(BY_RULE.get(name, ())) + [selector for selector, _ in TEXTS.get(name, ())]
 
 
 def kernel_source(name, selector):

@@ -24,7 +24,7 @@ class Quick:
     """
 
     def __init__(self, words):
-        self.words = [("end", "", 0), *reversed(words)]
+        self.words = [("end", "", 0)] + list(reversed(words))
         self.known = dict(KNOWN)
         self.free = {}
         self.declared = []
@@ -195,7 +195,8 @@ class Quick:
         words = self.words
         kind = words[-1][0]
         if kind == "keyword":
-            tree = ("super", *self.read_keywords())
+            selector, arguments = self.read_keywords()
+            tree = ("super", selector, arguments)
         else:
             tree = self.read_super_operand()
         if words[-1][0] in ("name", "op", "keyword"):

@@ -93,7 +93,7 @@ class Run(Image):
         if method.body is None:
             self.prepare(method, after == "process")
         body = method.body
-        variables = [*arguments, *[None] * (body[1] - body[0])]
+        variables = list(arguments) + [None] * (body[1] - body[0])
         act = Activation(method, body, receiver, variables, self.steps_of(body))
         act.after = after
         self.push(act)
@@ -108,7 +108,7 @@ class Run(Image):
         closure = block.data
         around = closure.around
         body = closure.body
-        variables = [*arguments, *[None] * (body[1] - body[0])]
+        variables = list(arguments) + [None] * (body[1] - body[0])
         act = Activation(around.method, body, around.receiver, variables, self.steps_of(body))
         act.kind = "block"
         act.around = around

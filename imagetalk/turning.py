@@ -24,9 +24,10 @@ def new_process(run, strand):
 
 def process_that_goes_on(run):
     """The Process that goes on, made if it was not there."""
-    if run.going.thing is None:
-        run.going.thing = new_process(run, run.going)
-    return run.going.thing
+    strand = run.going
+    if strand.thing is None:
+        strand.thing = new_process(run, strand)
+    return strand.thing
 
 
 def take_turn(run):
@@ -49,31 +50,35 @@ def take_turn(run):
 
 def yield_turn(run, answer):
     """The process that goes on is ready behind all others; the answer comes when it goes on."""
-    run.going.comes = answer
-    run.ready.append(run.going)
+    strand = run.going
+    strand.comes = answer
+    run.ready.append(strand)
     take_turn(run)
 
 
 def wait_at(run, semaphore):
     """The process that goes on takes a signal, or waits for one."""
-    if semaphore.data.count > 0:
-        semaphore.data.count -= 1
+    signals = semaphore.data
+    if signals.count > 0:
+        signals.count -= 1
         run.deliver(semaphore)
         return
-    run.going.waits_at = semaphore
-    run.going.comes = semaphore
-    semaphore.data.waiting.append(run.going)
+    strand = run.going
+    strand.waits_at = semaphore
+    strand.comes = semaphore
+    signals.waiting.append(strand)
     take_turn(run)
 
 
 def signal_semaphore(run, semaphore):
     """The first process that waits becomes ready, or there is one signal more."""
-    if semaphore.data.waiting:
-        strand = semaphore.data.waiting.pop(0)
+    signals = semaphore.data
+    if signals.waiting:
+        strand = signals.waiting.pop(0)
         strand.waits_at = None
         run.ready.append(strand)
     else:
-        semaphore.data.count += 1
+        signals.count += 1
 
 
 def terminate_process(run, strand):
@@ -91,7 +96,8 @@ def terminate_other(run, strand):
     if strand in run.ready:
         run.ready.remove(strand)
     if strand.waits_at is not None:
-        strand.waits_at.data.waiting.remove(strand)
+        signals = strand.waits_at.data
+        signals.waiting.remove(strand)
     guards = [act for act in reversed(strand.acts) if act.kind in ("ensure", "curtail") and not act.begun]
     if end_strand(strand):
         run.end_main(None)
