@@ -122,8 +122,20 @@ LATE = ("Late", "Object", (), (), ("blk ^ [^ 3]", "run: b ^ b value", "two ^ [[^
                                    "giveUp [[^ 1] ensure: [Transcript show: 'x'. ^ 2]] ensure: [Transcript show: 'y']. ^ 3",
                                    "cut ^ [[^ 1] ifCurtailed: [^ 2]] value"), ())
 
+OVER = ("Over", "Object", (), (), ("m: b ^ [self n: [^ 1] with: b] on: Error do: [:e | 5]", "n: b with: c [b value] ensure: [c value: self]. ^ 3",
+                                   "o: b ^ [self p: [^ 1] with: b] on: Error do: [:e | 5]", "p: b with: c [b value] ensure: [self q: [^ 2] with: c]. ^ 3",
+                                   "q: b with: c [b value] ensure: [c value]", "r: b with: c [b value] ensure: [[^ 9] ensure: [c value]]",
+                                   "s: b ^ [self t: [^ 1] with: b] on: Error do: [:e | 5]", "t: b with: c [b value] ensure: [self r: [^ 2] with: c]. ^ 3"), ())
+
 # Points 20 and 21.
 WAYS = (
+    # The way out to o: bars its handler; while one to p: is under way, it bars none; while one within its argument is, it does again.
+    ((OVER,), "^ Over new m: [:x | 4]", ("value", "1", "")),
+    ((OVER,), "^ Over new m: [:x | Error signal]", ("error", "Error", "")),
+    ((OVER,), "^ Over new o: [4]", ("value", "2", "")),
+    ((OVER,), "^ Over new o: [Error signal]", ("value", "5", "")),
+    ((OVER,), "^ Over new s: [4]", ("value", "1", "")),
+    ((OVER,), "^ Over new s: [Error signal]", ("error", "Error", "")),
     ((LATE,), "^ Late new blk value", ("error", "CannotReturn", "")),
     ((LATE,), "^ [Late new blk value. 7] on: CannotReturn do: [:e | e return: 8]", ("value", "8", "")),
     ((LATE,), "^ Late new two", ("value", "4", "")),

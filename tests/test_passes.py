@@ -60,6 +60,7 @@ class PassesTest(unittest.TestCase):
 
     def test_threaded_rings(self):
         self.passes(threaded, (("self; pop; jump 3; jump 4; jump 5; jump 3", "self; pop; jump 2"),
+                               ("self; test yes 3 5; jump 4; jump 4; jump 3; answer", "self; test yes 3 4; jump 2; jump 3; answer"),
                                ("self; test yes 4 7; self; jump 7; jump 5; jump 6; jump 5; answer", "self; test yes 4 5; self; jump 5; jump 4; answer")))
 
     def test_long_ways_of_jumps(self):
