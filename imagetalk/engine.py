@@ -25,7 +25,7 @@ class Machine(Run):
 
     def prepared(self, method, is_main, in_place):
         """The body of a method, made of its tree."""
-        plan, _ = planned(method.tree, method.kind.fields, is_main, in_place)
+        plan, _ = planned(method.parsed, method.kind.fields, is_main, in_place)
         return flat_body(plan)
 
     def steps_of(self, body):

@@ -21,10 +21,7 @@ class Image:
         self.symbols = {}
         self.literals = {}
         self.made = 0
-        self.integer = self.kind_named("Integer")
-        self.text = self.kind_named("String")
-        self.block = self.kind_named("Block")
-        self.array = self.kind_named("Array")
+        self.integer = None
 
     def kind_named(self, name):
         """The class with this name."""
@@ -52,6 +49,8 @@ class Image:
             return self.kind_named("UndefinedObject")
         if isinstance(value, bool):
             return self.kind_named("True" if value else "False")
+        if self.integer is None:
+            self.integer = self.kind_named("Integer")
         return self.integer
 
     def method_for(self, kind, selector):
@@ -71,19 +70,19 @@ class Image:
         """The method that a class has itself, None if it has none."""
         parsed = self.book.own_methods(kind.name).get(selector)
         if parsed is not None:
-            return self.method_of_program(kind, selector, parsed.tree)
+            return self.method_of_program(kind, selector, parsed)
         action, direct = rule_of(kind.name, selector)
         if action is not None:
             return Rule(action, direct)
         source = kernel_source(kind.name, selector)
         if source is not None:
-            return Method(kind, selector, parsed_method(source).tree, [])
+            return Method(kind, selector, parsed_method(source), [])
         return None
 
-    def method_of_program(self, kind, selector, tree):
+    def method_of_program(self, kind, selector, parsed):
         """The method of the program's own, or the made one that is put in its place."""
         key = (kind.name, selector)
-        method = Method(kind, selector, tree, self.literals.get(key, []))
+        method = Method(kind, selector, parsed, self.literals.get(key, []))
         if key in self.placed:
             method.body = self.placed[key][2]
         return method
@@ -110,11 +109,11 @@ class Image:
         if tree[0] == "var":
             return {"nil": None, "true": True, "false": False}[tree[1]]
         if tree[0] == "str":
-            return Thing(self.text, tree[1])
+            return Thing(self.kind_named("String"), tree[1])
         if tree[0] == "sym":
             return self.symbol_there(tree[1])
         items = [self.literal(item) for item in tree[1]]
-        return Thing(self.array, items)
+        return Thing(self.kind_named("Array"), items)
 
     def symbol_there(self, text):
         """The Symbol with this text, which counts as there from the beginning."""
@@ -154,8 +153,8 @@ class Image:
         """A new String."""
         if len(text) > MOST_SIGNS:
             raise Stopped("length")
-        return self.new_thing(self.text, text)
+        return self.new_thing(self.kind_named("String"), text)
 
     def new_array(self, items):
         """A new Array."""
-        return self.new_thing(self.array, items)
+        return self.new_thing(self.kind_named("Array"), items)

@@ -19,6 +19,19 @@ def marked(tree):
     return (*tree[:4], statements)
 
 
+def in_place_form(tree):
+    """A message as it is done in place if the variables of its blocks let it be, None if it is sent in any case."""
+    _, subject, selector, arguments = tree
+    if selector in CHOICES:
+        if not all([plain_block(argument) for argument in arguments]):
+            return None
+        wanted, other = CHOICES[selector]
+        return ("choice", subject, wanted, arguments[0], arguments[1] if other is None else other)
+    if selector in LOOPS and plain_block(subject) and plain_block(arguments[0]):
+        return ("loop", subject, LOOPS[selector], arguments[0])
+    return None
+
+
 def plain_block(tree):
     """Whether it is a written block without parameters."""
     return tree[0] == "block" and tree[1] == ()
@@ -81,32 +94,21 @@ class Marker:
     def mark_send(self, tree):
         """As mark, for a message."""
         _, subject, selector, arguments = tree
-        if selector in CHOICES and all([plain_block(argument) for argument in arguments]):
-            return self.mark_choice(tree)
-        if selector in LOOPS and plain_block(subject) and plain_block(arguments[0]):
-            return self.mark_loop(tree)
-        parts, named, kept = self.mark_all((subject, *arguments))
-        return (("send", parts[0], selector, parts[1:]), named, kept)
-
-    def mark_choice(self, tree):
-        """As mark, for a message that may choose in place."""
-        _, subject, selector, arguments = tree
-        subject, named, kept = self.mark(subject)
-        blocks, inner_named, inner_kept, lasting = self.mark_blocks(arguments)
+        form = in_place_form(tree)
+        if form is None:
+            parts, named, kept = self.mark_all((subject, *arguments))
+            return (("send", parts[0], selector, parts[1:]), named, kept)
+        if form[0] == "loop":
+            blocks, inner_named, inner_kept, lasting = self.mark_blocks((subject, *arguments))
+            named = kept = 0
+        else:
+            subject, named, kept = self.mark(subject)
+            blocks, inner_named, inner_kept, lasting = self.mark_blocks(arguments)
+            blocks = (subject, *blocks)
+        sent = ("send", blocks[0], selector, blocks[1:])
         if lasting:
-            return (("send", subject, selector, blocks), named | inner_named, kept | inner_named)
-        wanted, other = CHOICES[selector]
-        if other is None:
-            other = blocks[1]
-        return (("choice", subject, wanted, blocks[0], other), named | inner_named, kept | inner_kept)
-
-    def mark_loop(self, tree):
-        """As mark, for a message that may go round in place."""
-        _, subject, selector, arguments = tree
-        blocks, named, kept, lasting = self.mark_blocks((subject, *arguments))
-        if lasting:
-            return (("send", blocks[0], selector, blocks[1:]), named, named)
-        return (("loop", blocks[0], LOOPS[selector], blocks[1]), named, kept)
+            return (sent, named | inner_named, kept | inner_named)
+        return (in_place_form(sent), named | inner_named, kept | inner_kept)
 
     def mark_blocks(self, blocks):
         """As mark_all, for blocks that may be gone through in place, and whether one of them cannot be."""

@@ -13,13 +13,13 @@ from imagetalk.programs import changed_by_method
 def make(program, name, source, *, in_place=True):
     """The made method that a source becomes in a class of the program's own."""
     _, book = changed_by_method(program, name, source)
-    return made_from(book.sources[source].tree, book.fields_of_class(name), False, in_place)
+    return made_from(book.sources[source], book.fields_of_class(name), False, in_place)
 
 
 def make_main(program, *, in_place=True):
     """The made method of main."""
     book = read_program(program)
-    return made_from(book.main.tree, (), True, in_place)
+    return made_from(book.main, (), True, in_place)
 
 
 def made_of(program, name, selector, *, in_place=True):
@@ -30,14 +30,14 @@ def made_of(program, name, selector, *, in_place=True):
     fields = book.fields_of_class(name)
     methods = book.own_methods(name)
     if selector in methods:
-        return made_from(methods[selector].tree, fields, False, in_place)
+        return made_from(methods[selector], fields, False, in_place)
     source = kernel_source(name, selector)
     if source is None:
         raise NoMethod("no method with a source that the class itself has")
-    return made_from(parsed_method(source).tree, fields, False, True)
+    return made_from(parsed_method(source), fields, False, True)
 
 
-def made_from(tree, fields, is_main, in_place):
-    """The made method of the tree of a method of a class with these fields."""
-    plan, literals = planned(tree, fields, is_main, in_place)
-    return (tree[1], literals, flat_body(plan))
+def made_from(parsed, fields, is_main, in_place):
+    """The made method of what was read of a method of a class with these fields."""
+    plan, literals = planned(parsed, fields, is_main, in_place)
+    return (parsed.tree[1], literals, flat_body(plan))

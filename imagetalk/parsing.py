@@ -2,18 +2,22 @@
 
 from imagetalk.quick import Quick, Unsure
 from imagetalk.reader import BODY_SELECTOR, Reader
-from imagetalk.treeparts import DEEPEST, declared_names, depth_of, free_names, literal_trees
+from imagetalk.treeparts import DEEPEST, declared_names, depth_of, free_names, has_own_variables, literal_trees
 from imagetalk.words import words_of
 
 
 class Parsed:
-    """The tree of a source, of any depth; the names that are free and those that are declared; its literals."""
+    """The tree of a source, of any depth; the names that are free and those that are declared; its literals.
 
-    def __init__(self, tree, free, declared, literals, shallow):
+    keeps tells whether a block has variables of its own, shallow whether not too many trees lie within one another.
+    """
+
+    def __init__(self, tree, free, declared, literals, keeps, shallow):
         self.tree = tree
         self.free = free
         self.declared = declared
         self.literals = literals
+        self.keeps = keeps
         self.shallow = shallow
 
 
@@ -36,14 +40,15 @@ def parsed_source(source, with_pattern):
     except Unsure:
         return parsed_slowly(source, words, with_pattern)
     shallow = surely_shallow(source, words, with_pattern) or depth_of(tree) <= DEEPEST
-    return Parsed(tree, list(quick.free), quick.declared, quick.literals, shallow)
+    return Parsed(tree, list(quick.free), quick.declared, quick.literals, quick.keeps, shallow)
 
 
 def parsed_slowly(source, words, with_pattern):
     """What is read of words by the reader that tells what bars them."""
     reader = Reader(words, len(source))
     tree = reader.read_pattern() if with_pattern else reader.read_method(BODY_SELECTOR, [])
-    return Parsed(tree, free_names(tree), declared_names(tree), literal_trees(tree), depth_of(tree) <= DEEPEST)
+    keeps = has_own_variables(tree)
+    return Parsed(tree, free_names(tree), declared_names(tree), literal_trees(tree), keeps, depth_of(tree) <= DEEPEST)
 
 
 def surely_shallow(source, words, with_pattern):

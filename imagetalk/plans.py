@@ -5,18 +5,17 @@ A step is a code (25), but for jumps and tests. In their place stand ("choose", 
 body (26), with steps in the place of codes. All steps stand the last one first, as the walk takes them.
 """
 
-from imagetalk.inplace import marked
+from imagetalk.inplace import in_place_form, marked
 from imagetalk.names import SPOKEN_WORDS
 
 NIL = ("const", "nil")
 POP = ("pop",)
 
 
-def planned(tree, fields, is_main, in_place):
+def planned(parsed, fields, is_main, in_place):
     """The plan of the method of a class with these fields, and the tuple of its literals."""
-    planner = Planner(fields)
-    if in_place:
-        tree = marked(tree)
+    planner = Planner(fields, in_place and not parsed.keeps)
+    tree = marked(parsed.tree) if in_place and parsed.keeps else parsed.tree
     _, _, parameters, variables, statements = tree
     scope = Scope(None, (*parameters, *variables))
     steps = scope_steps(planner, statements, scope)
@@ -48,10 +47,14 @@ class Scope:
 
 
 class Planner:
-    """What is counted through a whole method: its literals, like symbols once."""
+    """What is counted through a whole method: its literals, like symbols once.
 
-    def __init__(self, fields):
+    judges tells whether each message is looked at for being done in place, where no variables can keep it from that.
+    """
+
+    def __init__(self, fields, judges):
         self.fields = fields
+        self.judges = judges
         self.literals = []
         self.symbols = {}
 
@@ -134,6 +137,10 @@ def put_all(planner, trees, scope, steps):
 
 def put_send(planner, tree, scope, steps):
     """A message."""
+    form = in_place_form(tree) if planner.judges else None
+    if form is not None:
+        put_steps(planner, form, scope, steps)
+        return
     _, subject, selector, arguments = tree
     put_steps(planner, subject, scope, steps)
     put_all(planner, arguments, scope, steps)

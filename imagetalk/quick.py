@@ -20,7 +20,7 @@ class Quick:
     """The words of a source that are left, the last one first, and what is known of those that were read.
 
     free has the names that are read or set where they are not declared, literals the strings, symbols and arrays, like
-    symbols once.
+    symbols once, keeps tells whether a block has variables of its own.
     """
 
     def __init__(self, words):
@@ -29,6 +29,7 @@ class Quick:
         self.free = {}
         self.declared = []
         self.literals = []
+        self.keeps = False
         self.nested = 0
 
     def declare(self, names, as_parameter):
@@ -295,6 +296,7 @@ class Quick:
             if words.pop()[:2] != ("sign", "|") or words[-1][:2] == ("sign", "]"):
                 raise Unsure("nothing behind the parameters")
         variables = self.read_variables()
+        self.keeps = self.keeps or variables != ()
         trees = self.read_statements("sign", "]")
         for name in (*parameters, *variables):
             del self.known[name]

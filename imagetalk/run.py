@@ -30,7 +30,7 @@ class Run(Image):
         self.ready = []
         self.going = main
         self.acts = main.acts
-        method = Method(self.kind_named("UndefinedObject"), BODY_SELECTOR, book.main.tree, self.put_all_literals())
+        method = Method(self.kind_named("UndefinedObject"), BODY_SELECTOR, book.main, self.put_all_literals())
         self.begin(method, None, (), "process")
 
     def prepared(self, method, is_main, in_place):
@@ -119,7 +119,7 @@ class Run(Image):
 
     def make_block(self, act, number):
         """A new Block of the written block with this number in the body of an activation."""
-        return self.new_thing(self.block, Closure(act.body[3][number], act))
+        return self.new_thing(self.kind_named("Block"), Closure(act.body[3][number], act))
 
     def deliver(self, value):
         """The topmost activation goes on with the answer to what it has sent."""

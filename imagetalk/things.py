@@ -51,12 +51,12 @@ class Thing:
 
 
 class Method:
-    """A method with a source: its tree, and its literals as objects, at first; its body when it is needed."""
+    """A method with a source: what was read of it and its literals as objects, and its body when it is needed."""
 
-    def __init__(self, kind, selector, tree, literals):
+    def __init__(self, kind, selector, parsed, literals):
         self.kind = kind
         self.selector = selector
-        self.tree = tree
+        self.parsed = parsed
         self.literals = literals
         self.body = None
 

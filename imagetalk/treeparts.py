@@ -86,6 +86,11 @@ def sent_selectors(tree):
     return sorted(found)
 
 
+def has_own_variables(tree):
+    """Whether a block in a method has variables of its own."""
+    return any([part[0] == "block" and part[2] != () for part, _, _ in all_parts(tree)])
+
+
 def literal_trees(tree):
     """The strings, symbols and arrays of a method, in the order of the text, like symbols once."""
     found = []

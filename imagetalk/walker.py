@@ -11,7 +11,7 @@ class Walk(Run):
 
     def prepared(self, method, is_main, in_place):
         """The plan of a method."""
-        plan, _ = planned(method.tree, method.kind.fields, is_main, in_place)
+        plan, _ = planned(method.parsed, method.kind.fields, is_main, in_place)
         return plan
 
     def steps_of(self, body):

@@ -104,7 +104,7 @@ class Oracle(Image):
         self.places = {}
         main = Task(0)
         self.tasks, self.ready, self.task = [main], [], main
-        method = Method(self.kind_named("UndefinedObject"), "doIt", self.book.main.tree, self.put_all_literals())
+        method = Method(self.kind_named("UndefinedObject"), "doIt", self.book.main, self.put_all_literals())
         main.steps = self.main_steps(method)
 
     def run(self):
@@ -161,7 +161,7 @@ class Oracle(Image):
         assert self.task.stack.pop() is frame
 
     def method(self, method, receiver, arguments, is_main=False):
-        _, _, parameters, variables, statements = method.tree
+        _, _, parameters, variables, statements = method.parsed.tree
         frame = self.push(Frame("method", method=method, receiver=receiver))
         frame.names = dict(zip(parameters, arguments), **{name: None for name in variables})
         frame.home, frame.plain = frame, not self.in_place and (is_main or method.kind.name in self.book.methods)
@@ -198,7 +198,7 @@ class Oracle(Image):
                 inner = list(tree[-1]) if tree[0] == "method" else parts(tree)
                 for place, part in enumerate(inner):
                     go(part, path + (place,))
-            go(method.tree, ())
+            go(method.parsed.tree, ())
             self.places[id(method)] = (found, method)
         return self.places[id(method)][0]
 
@@ -242,7 +242,7 @@ class Oracle(Image):
             return value
         if kind == "block":
             self.count_made()
-            thing = Thing(self.block, Closure(tree, frame))
+            thing = Thing(self.kind_named("Block"), Closure(tree, frame))
             thing.data.path = path
             return thing
         if kind == "return":

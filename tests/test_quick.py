@@ -70,8 +70,8 @@ class QuickTest(unittest.TestCase):
         slow = parsed_slowly(text, words, True)
         self.assertEqual(tree, slow.tree, text)
         fast = parsed_method(text)
-        self.assertEqual((fast.tree, fast.shallow, sorted(fast.free), sorted(set(fast.declared)), fast.literals),
-                         (slow.tree, slow.shallow, slow.free, slow.declared, slow.literals), text)
+        self.assertEqual((fast.tree, fast.keeps, fast.shallow, sorted(fast.free), sorted(set(fast.declared)), fast.literals),
+                         (slow.tree, slow.keeps, slow.shallow, slow.free, slow.declared, slow.literals), text)
         self.assertEqual((slow.free, slow.declared, slow.literals, slow.shallow),
                          (free_names(tree), declared_names(tree), literal_trees(tree), depth_of(tree) <= 40))
         return True
