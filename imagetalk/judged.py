@@ -55,11 +55,13 @@ def row_holds(row, place, ground):
     if len(told) != len(row) or told.get(0) != 0:
         return False
     for number, height in row:
-        if number >= len(codes) or not is_right(number, height, place, ground):
+        if number >= len(codes):
             return False
-        for to, other in next_heights(number, codes[number], height):
-            if told.get(to) != other:
-                return False
+        ways = next_heights(number, codes[number], height)
+        if not is_right(codes[number], height, ways, place, ground):
+            return False
+        if not all([told.get(to) == other for to, other in ways]):
+            return False
     return True
 
 

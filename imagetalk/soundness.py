@@ -83,13 +83,15 @@ def names_what_is_there(code, place, ground):
     return kind != "return" or len(place.chain) > 1
 
 
-def is_right(number, height, place, ground):
-    """Whether nothing is wrong at a place with this height, apart from how it is come to."""
-    codes = place.body[2]
-    code = codes[number]
+def is_right(code, height, ways, place, ground):
+    """Whether nothing is wrong at a code with this height and these ways on, apart from how it is come to."""
     if height < taken_by(code) or not names_what_is_there(code, place, ground):
         return False
-    return all([to < len(codes) for to, _ in next_heights(number, code, height)])
+    many = len(place.body[2])
+    for to, _ in ways:
+        if to >= many:
+            return False
+    return True
 
 
 class Climb:
@@ -112,14 +114,17 @@ class Climb:
 
     def climb(self):
         """Goes all ways, but none from a place that is wrong."""
+        codes = self.place.body[2]
         self.come(0, 0)
         while self.waiting:
             number = heappop(self.waiting)
+            code = codes[number]
             height = self.heights[number]
-            if not is_right(number, height, self.place, self.ground):
+            ways = next_heights(number, code, height)
+            if not is_right(code, height, ways, self.place, self.ground):
                 self.wrong[number] = True
             if number not in self.wrong:
-                for to, other in next_heights(number, self.place.body[2][number], height):
+                for to, other in ways:
                     self.come(to, other)
 
 
