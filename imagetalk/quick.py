@@ -6,7 +6,7 @@ What cannot be read so, for whatever reason, raises Unsure.
 from imagetalk.names import LONGEST_SELECTOR, MOST_PARAMETERS, SPOKEN_WORDS
 
 # How many brackets and sets are read within one another.
-MOST_NESTED = 40
+MOST_NESTED = 30
 
 # The names that are never free; as if they were parameters, since they cannot be set.
 KNOWN = {"self": True, "nil": True, "true": True, "false": True}
@@ -73,7 +73,7 @@ class Quick:
         words.pop()
         names = []
         self.declare(names, False)
-        while words[-1][:2] != ("sign", "|"):
+        while not self.at_sign("|"):
             self.declare(names, False)
         words.pop()
         return tuple(names)
@@ -156,7 +156,8 @@ class Quick:
         if kind == "keyword":
             selector, arguments = self.read_keywords()
             tree = ("send", tree, selector, arguments)
-        if words[-1][:2] == ("sign", ";"):
+            kind = words[-1][0]
+        if kind == "sign" and words[-1][1] == ";":
             return self.read_cascade(tree)
         return tree
 
@@ -176,7 +177,7 @@ class Quick:
         """Reads the messages behind the first one, which is this tree."""
         words = self.words
         messages = [tree[2:]]
-        while words[-1][:2] == ("sign", ";"):
+        while self.at_sign(";"):
             words.pop()
             kind, word, _ = words[-1]
             if kind == "name":
@@ -202,7 +203,7 @@ class Quick:
             tree = self.read_super_operand()
         if words[-1][0] in ("name", "op", "keyword"):
             return self.read_messages(tree)
-        if words[-1][:2] == ("sign", ";"):
+        if self.at_sign(";"):
             raise Unsure("a cascade to super")
         return tree
 
@@ -287,20 +288,30 @@ class Quick:
         """Reads a block, behind its `[`."""
         words = self.words
         parameters = []
-        while words[-1][:2] == ("sign", ":"):
+        while self.at_sign(":"):
             words.pop()
             self.declare(parameters, True)
         if len(parameters) > MOST_PARAMETERS:
             raise Unsure("too many parameters")
-        if parameters and words[-1][:2] != ("sign", "]"):
-            if words.pop()[:2] != ("sign", "|") or words[-1][:2] == ("sign", "]"):
-                raise Unsure("nothing behind the parameters")
+        if parameters and not self.at_sign("]"):
+            if not self.at_sign("|"):
+                raise Unsure("no bar behind the parameters")
+            words.pop()
+            if self.at_sign("]"):
+                raise Unsure("nothing behind the bar")
         variables = self.read_variables()
         self.keeps = self.keeps or variables != ()
         trees = self.read_statements("sign", "]")
-        for name in (*parameters, *variables):
+        for name in parameters:
+            del self.known[name]
+        for name in variables:
             del self.known[name]
         return ("block", tuple(parameters), variables, trees)
+
+    def at_sign(self, sign):
+        """Whether the next word is this sign."""
+        kind, word, _ = self.words[-1]
+        return word == sign and kind == "sign"
 
     def read_items(self):
         """Reads an array, behind its `#(`."""

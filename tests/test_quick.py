@@ -108,6 +108,14 @@ class QuickTest(unittest.TestCase):
             read += self.check(" ".join(words))
         self.assertGreater(read, 60)
 
+    def test_strings_that_look_like_signs(self):
+        for text, place in (("m '|' a '|' ^ a", 8), ("m ^ [:x '|' 3]", 8), ("m ^ (3 ')'", 7), ("m ^ 3 ';' foo", 6), ("m a ':=' 3", 4), ("m ^ [3 ']'", 7), ("m '^' 3", 6),
+                            ("m ^ [':' x | 3]", 11), ("m ^ #(3 ')'", 11), ("m 3 '.' 4", 4), ("m ^ 3 #+ 4", 6), ("m #| a | 3", 2)):
+            with self.assertRaises(BadSource) as caught:
+                read_method(text)
+            self.assertFalse(self.check(text))
+            self.assertEqual(caught.exception.place, place, text)
+
     def test_what_is_too_deep_for_it(self):
         for many in (5, 39, 40, 41, 300, 900):
             self.assertEqual(read_method("m ^ " + "(" * many + "3" + ")" * many), ("method", "m", (), (), (("return", ("int", 3)),)))
