@@ -66,14 +66,18 @@ def words_in(source, code, texts):
     place = 0
     for chunk in code.split():
         kind = FIXED.get(chunk)
+        value = chunk
         if kind is None and len(chunk) <= LONGEST_NAME:
             if chunk.isidentifier():
                 kind = "name"
+            elif chunk.isdigit():
+                kind = "int"
+                value = int(chunk)
             elif chunk.endswith(":") and chunk[:-1].isidentifier():
                 kind = "keyword"
         if kind is not None:
             place = source.find(chunk, place)
-            words.append((kind, chunk, place))
+            words.append((kind, value, place))
             place += len(chunk)
         else:
             place = put_other(words, chunk, source, place, texts)
@@ -83,7 +87,13 @@ def words_in(source, code, texts):
 
 
 def put_other(words, chunk, source, place, texts):
-    """Puts what is no name, keyword or fixed word behind the words; tells where it ends, -1 if not plain."""
+    """Puts what is none of the words that are found at once behind them; tells where it ends, -1 if not plain."""
+    rest = chunk[1:]
+    if chunk.startswith(":") and rest.isidentifier():
+        place = source.find(chunk, place)
+        words.append(("sign", ":", place))
+        words.append(("name", rest, place + 1))
+        return place + len(chunk) if len(rest) <= LONGEST_NAME else -1
     if chunk == ARRAY:
         place = source.find("#(", place)
         words.append(("sign", "#(", place))
@@ -92,14 +102,9 @@ def put_other(words, chunk, source, place, texts):
         return put_string(words, chunk, source, place, texts) if texts else -1
     place = source.find(chunk, place)
     end = place + len(chunk)
-    rest = chunk[1:]
     if chunk.isdigit():
         words.append(("int", int(chunk), place))
         return end if len(chunk) <= MOST_DIGITS else -1
-    if chunk.startswith(":") and rest.isidentifier():
-        words.append(("sign", ":", place))
-        words.append(("name", rest, place + 1))
-        return end if len(rest) <= LONGEST_NAME else -1
     if chunk.startswith("#") and is_symbol(rest):
         words.append(("sym", rest, place))
         return end

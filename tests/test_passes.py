@@ -3,6 +3,7 @@
 import random
 import unittest
 
+import naive
 from cases import all_programs
 from runs import EXAMPLES
 from test_judged import BLOCK, F, from_text
@@ -14,6 +15,7 @@ from imagetalk.judged import is_sound
 from imagetalk.machine import machine, machine_with
 from imagetalk.maker import made_of, make, make_main
 from imagetalk.passes import folded, least_made, peeped, sizes_told, tailed, tested, threaded, trimmed
+from imagetalk.passing import decide_at, fold_at, peep_at, rewritten
 from imagetalk.programread import read_program
 
 PASSES = (trimmed, threaded, folded, tested, peeped, tailed, least_made)
@@ -184,6 +186,22 @@ class PassesTest(unittest.TestCase):
             for text in ("field 99; answer", "class Foo; answer", "self; setfield 7; answer"):
                 self.assertEqual(change(from_text(text)), from_text(text) if change is not sizes_told else (len(codes_of(text)),) * 8)
             self.assertTrue(change(from_text("self; answer", parameters=3, variables=3)))
+
+
+class NaiveTest(unittest.TestCase):
+    def test_the_leftmost_first(self):
+        chance = random.Random(9)
+        words = ("self", "pop", "pop", "dup", "answer", "jump {}", "test yes {} {}", "test no {} {}", "int 1", "int 2", "int 0", "send + 1", "send < 1", "send // 1",
+                 "temp 0 0", "settemp 0 0", "settemp 0 0", "setfield 0", "field 0", "const true", "const false", "const true", "const nil", "send foo 0")
+        changed = 0
+        for _ in range(6000):
+            many = chance.randint(3, 14)
+            codes = codes_of("; ".join(chance.choice(words).format(chance.randrange(many), chance.randrange(many)) for _ in range(many)))
+            for change, other in ((fold_at, naive.folding), (decide_at, naive.testing), (peep_at, naive.peeping)):
+                found = rewritten(codes, change)
+                self.assertEqual(found, naive.rewritten(codes, other), codes)
+                changed += found != codes
+        self.assertGreater(changed, 1000)
 
 
 class RunsTest(unittest.TestCase):
