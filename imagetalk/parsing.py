@@ -5,6 +5,9 @@ from imagetalk.reader import BODY_SELECTOR, Reader
 from imagetalk.treeparts import DEEPEST, declared_names, depth_of, free_names, has_own_variables, literal_trees
 from imagetalk.words import words_of
 
+OPENING = ("(", "[", "#(")
+CLOSING = (")", "]")
+
 
 class Parsed:
     """The tree of a source, of any depth; the names that are free and those that are declared; its literals.
@@ -56,6 +59,25 @@ def surely_shallow(source, words, with_pattern):
     many = len(words) if with_pattern else len(words) + 1
     if many <= DEEPEST:
         return True
-    if "'" in source or "\"" in source:
-        return False
-    return many - source.count(")") - source.count("]") - source.count(".") <= DEEPEST
+    if "'" not in source and "\"" not in source:
+        if many - source.count(")") - source.count("]") - source.count(".") <= DEEPEST:
+            return True
+    return longest_statement(words) < DEEPEST
+
+
+def longest_statement(words):
+    """How many words the longest one of the statements has that are in no brackets."""
+    longest = 0
+    many = 0
+    opened = 0
+    for kind, word, _ in words:
+        many += 1
+        if kind == "sign":
+            if word == "." and opened == 0:
+                longest = max(longest, many)
+                many = 0
+            elif word in OPENING:
+                opened += 1
+            elif word in CLOSING:
+                opened -= 1
+    return max(longest, many)
