@@ -3,27 +3,27 @@
 
 def push_self(run, act, code):
     """The receiver."""
-    act.stack.append(act.receiver)
+    act.pile.append(act.receiver)
 
 
 def push_const(run, act, code):
     """nil, true or false."""
-    act.stack.append(None if code[1] == "nil" else code[1] == "true")
+    act.pile.append(None if code[1] == "nil" else code[1] == "true")
 
 
 def push_integer(run, act, code):
     """An integer."""
-    act.stack.append(code[1])
+    act.pile.append(code[1])
 
 
 def push_literal(run, act, code):
     """A literal of the method."""
-    act.stack.append(act.method.literals[code[1]])
+    act.pile.append(run.literals[act.method][code[1]])
 
 
 def push_class(run, act, code):
     """A class."""
-    act.stack.append(run.class_named(code[1]))
+    act.pile.append(run.class_named(code[1]))
 
 
 def owner_of(act, depth):
@@ -36,38 +36,38 @@ def owner_of(act, depth):
 def push_variable(run, act, code):
     """A variable."""
     owner = act if code[1] == 0 else owner_of(act, code[1])
-    act.stack.append(owner.variables[code[2]])
+    act.pile.append(owner.cells[code[2]])
 
 
 def push_field(run, act, code):
     """A field of the receiver."""
-    act.stack.append(act.receiver.fields[code[1]])
+    act.pile.append(act.receiver.parts[code[1]])
 
 
 def push_block(run, act, code):
     """A new Block."""
-    act.stack.append(run.make_block(act, code[1]))
+    act.pile.append(run.make_block(act, code[1]))
 
 
 def set_variable(run, act, code):
     """Writes a variable."""
     owner = act if code[1] == 0 else owner_of(act, code[1])
-    owner.variables[code[2]] = act.stack[-1]
+    owner.cells[code[2]] = act.pile[-1]
 
 
 def set_field(run, act, code):
     """Writes a field of the receiver."""
-    act.receiver.fields[code[1]] = act.stack[-1]
+    act.receiver.parts[code[1]] = act.pile[-1]
 
 
 def drop(run, act, code):
     """Takes one value away."""
-    act.stack.pop()
+    act.pile.pop()
 
 
 def double(run, act, code):
     """Leaves a value twice."""
-    act.stack.append(act.stack[-1])
+    act.pile.append(act.pile[-1])
 
 
 def taken(stack, many):
@@ -81,25 +81,25 @@ def taken(stack, many):
 
 def send(run, act, code):
     """Sends a message."""
-    arguments = taken(act.stack, code[2])
-    run.send(act.stack.pop(), code[1], arguments)
+    arguments = taken(act.pile, code[2])
+    run.send(act.pile.pop(), code[1], arguments)
 
 
 def send_super(run, act, code):
     """Sends a message to super."""
-    arguments = taken(act.stack, code[2])
-    receiver = act.stack.pop()
+    arguments = taken(act.pile, code[2])
+    receiver = act.pile.pop()
     run.send_from(act.method.kind.parent, receiver, run.kind_of(receiver), code[1], arguments)
 
 
 def answer(run, act, code):
     """The activation ends with a value."""
-    run.answer(act.stack.pop())
+    run.answer(act.pile.pop())
 
 
 def return_home(run, act, code):
     """The return of a Block."""
-    run.return_home(act, act.stack.pop())
+    run.return_home(act, act.pile.pop())
 
 
 DEEDS = {

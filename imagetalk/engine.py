@@ -13,8 +13,8 @@ NO_END = 1000000000000
 class Machine(Run):
     """A run that goes over codes."""
 
-    def __init__(self, book, most_sends, in_place, placed):
-        super().__init__(book, most_sends, in_place, placed)
+    def __init__(self, stock, most_sends, in_place):
+        super().__init__(stock, most_sends, in_place)
         self.done = 0
         self.actions = dict(DEEDS)
         self.actions["jump"] = jump
@@ -25,7 +25,7 @@ class Machine(Run):
 
     def prepared(self, method, is_main, in_place):
         """The body of a method, made of its tree."""
-        plan, _ = planned(method.parsed, method.kind.fields, is_main, in_place)
+        plan, _ = planned(method.parsed, method.kind.field_names, is_main, in_place)
         return flat_body(plan)
 
     def steps_of(self, body):
@@ -37,7 +37,7 @@ class Machine(Run):
         actions = self.actions
         last = self.done + count
         try:
-            while self.ended is None and self.done < last:
+            while self.ending is None and self.done < last:
                 act = self.acts[-1]
                 code = act.steps[act.place]
                 act.place += 1
@@ -63,7 +63,7 @@ def jump(run, act, code):
 def test(run, act, code):
     """Goes on here, or elsewhere, as a value tells."""
     _, wanted, other, out = code
-    value = act.stack.pop()
+    value = act.pile.pop()
     if not isinstance(value, bool):
         go_to(run, act, out)
         run.send(value, "mustBeBoolean", ())
@@ -79,15 +79,15 @@ def return_from_block(run, act, code):
 
 def tail(run, act, code):
     """Ends the activation and sends a message."""
-    arguments = taken(act.stack, code[2])
-    receiver = act.stack.pop()
+    arguments = taken(act.pile, code[2])
+    receiver = act.pile.pop()
     run.acts.pop()
     run.send(receiver, code[1], arguments)
 
 
 def tail_super(run, act, code):
     """Ends the activation and sends a message to super."""
-    arguments = taken(act.stack, code[2])
-    receiver = act.stack.pop()
+    arguments = taken(act.pile, code[2])
+    receiver = act.pile.pop()
     run.acts.pop()
     run.send_from(act.method.kind.parent, receiver, run.kind_of(receiver), code[1], arguments)

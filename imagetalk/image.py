@@ -1,23 +1,20 @@
 """The objects of a run: classes, literals, and those that it makes."""
 
-from imagetalk.book import CLASS_WORD
 from imagetalk.classes import class_of_class
-from imagetalk.kernel import kernel_source
-from imagetalk.parsing import parsed_method
-from imagetalk.rules import rule_of
-from imagetalk.things import Kind, Method, Rule, Signals, Stopped, Thing
+from imagetalk.book import CLASS_WORD
+from imagetalk.things import Signals, Stopped, Thing
 
 MOST_OBJECTS = 2000
 MOST_SIGNS = 2000
 
 
 class Image:
-    """The classes and objects of a program that is run; placed has made methods by (class, selector)."""
+    """The objects of a run of a program; things has them by their numbers, if all classes were put there at first."""
 
-    def __init__(self, book, placed):
-        self.book = book
-        self.placed = placed
-        self.kinds = {}
+    def __init__(self, stock):
+        self.stock = stock
+        self.things = []
+        self.classes = {}
         self.symbols = {}
         self.literals = {}
         self.made = 0
@@ -25,21 +22,18 @@ class Image:
 
     def kind_named(self, name):
         """The class with this name."""
-        if name not in self.kinds:
-            above = self.book.parent_of_class(name)
-            parent = None if above is None else self.kind_named(above)
-            self.kinds[name] = Kind(name, parent, self.book.fields_of_class(name))
-        return self.kinds[name]
+        return self.stock.kind_named(name)
 
     def class_named(self, name):
         """The object that is the class with this name."""
-        return self.class_thing(self.kind_named(name))
+        if name not in self.classes:
+            kind = self.stock.kind_named(class_of_class(name))
+            self.classes[name] = self.put(Thing(kind, self.stock.kind_named(name)))
+        return self.classes[name]
 
     def class_thing(self, kind):
         """The object that is this class."""
-        if kind.thing is None:
-            kind.thing = Thing(self.kind_named(class_of_class(kind.name)), kind)
-        return kind.thing
+        return self.class_named(kind.name)
 
     def kind_of(self, value):
         """The class of a value."""
@@ -55,52 +49,28 @@ class Image:
 
     def method_for(self, kind, selector):
         """The method that an instance works for a selector, None if there is none."""
-        if selector not in kind.known:
-            kind.known[selector] = self.searched(kind, selector)
-        return kind.known[selector]
+        return self.stock.method_for(kind, selector)
 
-    def searched(self, kind, selector):
-        """As method_for, looked for from the class on."""
-        method = self.own_method(kind, selector)
-        if method is None and kind.parent is not None:
-            return self.method_for(kind.parent, selector)
-        return method
+    def put(self, thing):
+        """An object of the image, behind all others."""
+        self.things.append(thing)
+        return thing
 
-    def own_method(self, kind, selector):
-        """The method that a class has itself, None if it has none."""
-        parsed = self.book.own_methods(kind.name).get(selector)
-        if parsed is not None:
-            return self.method_of_program(kind, selector, parsed)
-        action, direct = rule_of(kind.name, selector)
-        if action is not None:
-            return Rule(action, direct)
-        source = kernel_source(kind.name, selector)
-        if source is not None:
-            return Method(kind, selector, parsed_method(source), [])
-        return None
+    def put_classes(self):
+        """nil, true, false and all classes become objects."""
+        self.things.extend([None, True, False])
+        for name in self.stock.book.parents:
+            self.class_named(name)
+            self.class_named(name + CLASS_WORD)
 
-    def method_of_program(self, kind, selector, parsed):
-        """The method of the program's own, or the made one that is put in its place."""
-        key = (kind.name, selector)
-        method = Method(kind, selector, parsed, self.literals.get(key, []))
-        if key in self.placed:
-            method.body = self.placed[key][2]
-        return method
-
-    def put_literals(self, name, selector, parsed):
+    def put_literals(self, method):
         """The literals of a method become objects."""
-        key = (name, selector)
-        trees = self.placed[key][1] if key in self.placed else parsed.literals
-        if trees:
-            self.literals[key] = [self.literal(tree) for tree in trees]
+        self.literals[method] = [self.literal(tree) for tree in method.trees]
 
     def put_all_literals(self):
-        """The literals of all methods of the program become objects; returns those of main."""
-        for name in self.book.own_names:
-            for owner in (name, name + CLASS_WORD):
-                for selector, parsed in self.book.methods[owner].items():
-                    self.put_literals(owner, selector, parsed)
-        return [self.literal(tree) for tree in self.book.main.literals]
+        """The literals of all methods of the program become objects."""
+        for method in self.stock.methods_with_literals():
+            self.put_literals(method)
 
     def literal(self, tree):
         """The object or integer that a literal is."""
@@ -109,16 +79,16 @@ class Image:
         if tree[0] == "var":
             return {"nil": None, "true": True, "false": False}[tree[1]]
         if tree[0] == "str":
-            return Thing(self.kind_named("String"), tree[1])
+            return self.put(Thing(self.kind_named("String"), tree[1]))
         if tree[0] == "sym":
             return self.symbol_there(tree[1])
         items = [self.literal(item) for item in tree[1]]
-        return Thing(self.kind_named("Array"), items)
+        return self.put(Thing(self.kind_named("Array"), items))
 
     def symbol_there(self, text):
         """The Symbol with this text, which counts as there from the beginning."""
         if text not in self.symbols:
-            self.symbols[text] = Thing(self.kind_named("Symbol"), text)
+            self.symbols[text] = self.put(Thing(self.kind_named("Symbol"), text))
         return self.symbols[text]
 
     def count_made(self):
@@ -127,16 +97,21 @@ class Image:
             raise Stopped("objects")
         self.made += 1
 
+    def put_made(self, thing):
+        """An object of the image that the run has made."""
+        return self.put(thing)
+
     def new_symbol(self, text):
         """The Symbol with this text, made if it was not there."""
         if text not in self.symbols:
             self.count_made()
-        return self.symbol_there(text)
+            self.symbols[text] = self.put_made(Thing(self.kind_named("Symbol"), text))
+        return self.symbols[text]
 
     def new_thing(self, kind, data):
         """A new object with these data."""
         self.count_made()
-        return Thing(kind, data)
+        return self.put_made(Thing(kind, data))
 
     def new_instance(self, kind):
         """A new object as `new` answers it."""

@@ -7,13 +7,21 @@ from imagetalk.errors import BadCount, BadPlaces
 from imagetalk.judged import can_have_places
 from imagetalk.moments import moment_of
 from imagetalk.programread import read_program
+from imagetalk.stock import Stock
+
+
+def begun(stock, sends, in_place):
+    """The run of a program, at its beginning."""
+    run = Machine(stock, sends, in_place)
+    run.start()
+    return run
 
 
 def worked(program, sends, in_place):
     """The run of a program, at its end."""
     book = read_program(program)
     check_sends(sends)
-    run = Machine(book, sends, in_place, {})
+    run = begun(Stock(program, book, {}), sends, in_place)
     run.go(NO_END)
     return run
 
@@ -27,7 +35,7 @@ def machine(program, sends, *, in_place=True):
 def machine_trace(program, sends, *, in_place=True):
     """The trace of a program: all messages in order, each as (depth, class, selector)."""
     run = worked(program, sends, in_place)
-    return run.trace
+    return run.messages
 
 
 def machine_with(program, places, sends):
@@ -37,7 +45,7 @@ def machine_with(program, places, sends):
         raise BadPlaces("not a list of made methods that can be put in")
     check_sends(sends)
     placed = {(name, made[0]): made for name, made in places}
-    run = Machine(book, sends, True, placed)
+    run = begun(Stock(program, book, placed), sends, True)
     run.go(NO_END)
     return run.outcome()
 
@@ -52,9 +60,9 @@ def moment(program, count):
     """The activations of the process that goes on behind so many codes, () at the end of the run."""
     book = read_program(program)
     check_codes(count)
-    run = Machine(book, MOST_SENDS, True, {})
+    run = begun(Stock(program, book, {}), MOST_SENDS, True)
     run.go(count)
-    return () if run.ended is not None else moment_of(run)
+    return () if run.ending is not None else moment_of(run)
 
 
 def deepest(program):
@@ -69,8 +77,8 @@ def first_at(program, name, selector, place):
     check_selector(selector)
     if not is_integer(place):
         raise BadCount("not an integer")
-    run = Machine(book, MOST_SENDS, True, {})
-    while run.ended is None and run.done <= MOST_CODES_DONE:
+    run = begun(Stock(program, book, {}), MOST_SENDS, True)
+    while run.ending is None and run.done <= MOST_CODES_DONE:
         act = run.acts[-1]
         if act.kind == "method" and act.place == place and is_of(act.method, name, selector):
             return run.done

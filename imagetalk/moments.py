@@ -16,7 +16,7 @@ def activation_told(act):
     if act.kind in GUARDED:
         return (act.kind, "Block", GUARDED[act.kind], -1, (), ())
     method = act.method
-    return (act.kind, method.kind.name, method.selector, act.place, all_told(act.stack), all_told(act.variables))
+    return (act.kind, method.kind.name, method.selector, act.place, all_told(act.pile), all_told(act.cells))
 
 
 def all_told(values):

@@ -104,7 +104,7 @@ def copied(run, receiver):
     elif receiver.is_a("Semaphore"):
         data = Signals()
     thing = run.new_thing(receiver.kind, data)
-    thing.fields = list(receiver.fields)
+    thing.parts = list(receiver.parts)
     return thing
 
 
@@ -112,9 +112,19 @@ def become(run, receiver, other):
     """Object `become:`: the two change places by changing all that they hold."""
     if not can_become(receiver) or not isinstance(other, Thing) or other.kind.name != receiver.kind.name:
         raise Refused("BadKind")
-    receiver.fields, other.fields = other.fields, receiver.fields
-    receiver.data, other.data = other.data, receiver.data
+    swap(run, receiver, other)
     return receiver
+
+
+def swap(run, one, other):
+    """Two objects change places: what stands for the one wherever it is held comes to be the other one."""
+    first = run.things.index(one)
+    second = run.things.index(other)
+    run.things[first], run.things[second] = other, one
+    one.parts, other.parts = other.parts, one.parts
+    one.data, other.data = other.data, one.data
+    one.maker, other.maker = other.maker, one.maker
+    one.serial, other.serial = other.serial, one.serial
 
 
 def can_become(value):
@@ -155,9 +165,9 @@ def show(run, receiver, value):
     """Transcript class `show:`."""
     bare = is_instance(value, "String") or is_instance(value, "Symbol")
     text = value.data if bare else told(value)
-    if len(run.shown) + len(text) > MOST_SHOWN:
+    if len(run.output) + len(text) > MOST_SHOWN:
         raise Stopped("signs")
-    run.shown += text
+    run.output += text
     return receiver
 
 

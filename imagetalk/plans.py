@@ -14,6 +14,18 @@ POP = ("pop",)
 
 def planned(parsed, fields, is_main, in_place):
     """The plan of the method of a class with these fields, and the tuple of its literals."""
+    planner, scope, steps = laid_out(parsed, fields, is_main, in_place)
+    return (scope.plan(len(parsed.tree[2]), steps), tuple(planner.literals))
+
+
+def variables_scope(parsed, fields, is_main, in_place):
+    """The Scope that tells the names of the variables of a method, and within it those of its blocks."""
+    _, scope, _ = laid_out(parsed, fields, is_main, in_place)
+    return scope
+
+
+def laid_out(parsed, fields, is_main, in_place):
+    """A method laid out as steps, with the Planner and the Scope that this took."""
     planner = Planner(fields, in_place and not parsed.keeps)
     tree = marked(parsed.tree) if in_place and parsed.keeps else parsed.tree
     _, _, parameters, variables, statements = tree
@@ -24,26 +36,30 @@ def planned(parsed, fields, is_main, in_place):
             steps.append(POP)
         steps.append(NIL if is_main else ("self",))
         steps.append(("answer",))
-    return (scope.plan(len(parameters), steps), tuple(planner.literals))
+    return (planner, scope, steps)
 
 
 class Scope:
-    """An activation to be: its variables with their places, and its blocks."""
+    """An activation to be: its variables with their places, and its blocks.
+
+    order has the names of the variables by their places, inner the scopes of the blocks.
+    """
 
     def __init__(self, around, names):
         self.around = around
         self.places = {name: place for place, name in enumerate(names)}
-        self.many = len(names)
+        self.order = list(names)
         self.blocks = []
+        self.inner = []
 
     def plan(self, parameters, steps):
         """The plan with these steps."""
-        return (parameters, self.many, backwards(steps), tuple(self.blocks))
+        return (parameters, len(self.order), backwards(steps), tuple(self.blocks))
 
     def put_variable(self, name):
         """A variable of a block that is done in place begins."""
-        self.places[name] = self.many
-        self.many += 1
+        self.places[name] = len(self.order)
+        self.order.append(name)
 
 
 class Planner:
@@ -53,7 +69,7 @@ class Planner:
     """
 
     def __init__(self, fields, judges):
-        self.fields = fields
+        self.field_names = fields
         self.judges = judges
         self.literals = []
         self.symbols = {}
@@ -76,7 +92,7 @@ class Planner:
                 return ("temp", depth, scope.places[name])
             scope = scope.around
             depth += 1
-        return ("field", self.fields.index(name)) if name in self.fields else None
+        return ("field", self.field_names.index(name)) if name in self.field_names else None
 
 
 def backwards(steps):
@@ -174,6 +190,7 @@ def put_block(planner, tree, scope, steps):
     number = len(scope.blocks)
     steps.append(("block", number))
     scope.blocks.append(None)
+    scope.inner.append(inner)
     inside = scope_steps(planner, statements, inner) if statements else [NIL]
     if not statements or statements[-1][0] != "return":
         inside.append(("answer",))

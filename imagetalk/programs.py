@@ -4,7 +4,7 @@ from imagetalk.book import CLASS_WORD
 from imagetalk.errors import BadClass, BadFields, BadParent, BadProgram, NoMethod
 from imagetalk.kernel import PARENTS
 from imagetalk.names import are_fields
-from imagetalk.parsing import parsed_method
+from imagetalk.parsing import parsed_body, parsed_method
 from imagetalk.programread import read_beside, read_changed, read_program
 from imagetalk.trees import check_depth
 
@@ -21,13 +21,17 @@ def is_program(thing):
 def same_program(program, other):
     """The first where at which two programs differ, None if it is in no more than the words of sources."""
     book = read_program(program)
-    against = read_beside(other, book)
+    return where_unlike(program, book, other, read_beside(other, book))
+
+
+def where_unlike(program, book, other, against):
+    """As same_program, for two programs that have been read."""
     for index in range(max(len(program[0]), len(other[0]))):
         if heads_at(program, index) != heads_at(other, index):
             return (index,)
         name = program[0][index][0]
         for side, owner in enumerate((name, name + CLASS_WORD)):
-            number = first_unlike(trees_of(book.methods[owner]), trees_of(against.methods[owner]))
+            number = first_place_unlike(trees_of(book.methods[owner]), trees_of(against.methods[owner]))
             if number is not None:
                 return (index, side, number)
     return None if book.main.tree == against.main.tree else ("main",)
@@ -43,7 +47,7 @@ def heads_at(program, index):
     return [definition[:4] for definition in program[0][index:index + 1]]
 
 
-def first_unlike(trees, others):
+def first_place_unlike(trees, others):
     """The first place at which two lists differ, None if there is none."""
     for number in range(max(len(trees), len(others))):
         if trees[number:number + 1] != others[number:number + 1]:
@@ -72,6 +76,12 @@ def changed_by_method(program, name, source):
 
 def without_method(program, name, selector):
     """The program in which a class has no method with this selector."""
+    changed, _ = changed_by_dropping(program, name, selector)
+    return changed
+
+
+def changed_by_dropping(program, name, selector):
+    """The program in which a class has no method with this selector, and its Book."""
     book = read_program(program)
     index, side = own_place(book, name)
     if not isinstance(selector, str) or selector not in book.methods[name]:
@@ -79,18 +89,51 @@ def without_method(program, name, selector):
     sources = program[0][index][4 + side]
     number = number_of(book, name, selector)
     changed = with_part(program, index, 4 + side, (*sources[:number], *sources[number + 1:]))
-    read_changed(changed, book)
-    return changed
+    return (changed, read_changed(changed, book))
 
 
 def with_fields(program, name, fields):
     """The program in which a class has other own fields."""
+    changed, _ = changed_by_fields(program, name, fields)
+    return changed
+
+
+def changed_by_fields(program, name, fields):
+    """The program in which a class has other own fields, and its Book."""
     book = read_program(program)
     index, side = own_place(book, name)
     if not are_fields(fields):
         raise BadFields("not a tuple of own fields")
     changed = with_part(program, index, 2 + side, fields)
+    return (changed, read_changed(changed, book))
+
+
+def changed_by_own_fields(program, name, fields):
+    """As with_fields, for a class by its name and for any tuple of names: BadProgram for what can be no fields."""
+    book = read_program(program)
+    index, side = own_place(book, name)
+    if side == 1:
+        raise BadClass("not a class by its name")
+    changed = with_part(program, index, 2, fields)
     read_changed(changed, book)
+    return changed
+
+
+def with_class(program, name, parent, fields):
+    """The program with one class more, which has no methods."""
+    classes, main = program
+    changed = ((*classes, (name, parent, fields, (), (), ())), main)
+    read_program(changed)
+    return changed
+
+
+def with_main(program, source):
+    """The program with another main."""
+    book = read_program(program)
+    parsed = parsed_body(source)
+    changed = (program[0], source)
+    read_changed(changed, book)
+    check_depth(parsed)
     return changed
 
 

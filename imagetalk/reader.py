@@ -27,7 +27,7 @@ class Body:
     def __init__(self, is_block):
         self.is_block = is_block
         self.parameters = []
-        self.variables = []
+        self.declared = []
         self.statements = []
         self.returns = False
         self.awaits = STATEMENT_OR_END
@@ -49,7 +49,7 @@ class Reader:
         self.words = [*words, ("end", "", length)]
         self.at = 0
         self.known = {}
-        self.frames = []
+        self.nested = []
 
     def bar(self):
         """The word cannot stand here."""
@@ -112,21 +112,21 @@ class Reader:
         body = Body(False)
         body.parameters = parameters
         self.read_variables(body)
-        self.frames = [body]
-        while self.frames:
-            frame = self.frames[-1]
+        self.nested = [body]
+        while self.nested:
+            frame = self.nested[-1]
             if isinstance(frame, Line):
                 self.go_on_line(frame)
             else:
                 self.go_on_body(frame)
-        return ("method", selector, tuple(body.parameters), tuple(body.variables), tuple(body.statements))
+        return ("method", selector, tuple(body.parameters), tuple(body.declared), tuple(body.statements))
 
     def read_variables(self, body):
         """Reads the variables, if there are some."""
         if self.pass_sign("|"):
-            self.declare(body.variables, False)
+            self.declare(body.declared, False)
             while not self.pass_sign("|"):
-                self.declare(body.variables, False)
+                self.declare(body.declared, False)
 
     def go_on_body(self, body):
         """Reads the next sign of a body, or begins a statement."""
@@ -135,7 +135,7 @@ class Reader:
             self.end_body(body)
         elif body.awaits in (STATEMENT, STATEMENT_OR_END):
             body.returns = self.pass_sign("^")
-            self.frames.append(Line(False))
+            self.nested.append(Line(False))
         elif body.awaits == DOT_OR_END and self.pass_sign("."):
             body.put_dot()
         else:
@@ -152,17 +152,17 @@ class Reader:
             if not self.is_sign("|"):
                 body.awaits = STATEMENT
         self.read_variables(body)
-        self.frames.append(body)
+        self.nested.append(body)
 
     def end_body(self, body):
         """A method or a block is complete."""
-        self.frames.pop()
+        self.nested.pop()
         if body.is_block:
             self.at += 1
-            for name in (*body.parameters, *body.variables):
+            for name in (*body.parameters, *body.declared):
                 del self.known[name]
-            tree = ("block", tuple(body.parameters), tuple(body.variables), tuple(body.statements))
-            self.frames[-1].take(tree)
+            tree = ("block", tuple(body.parameters), tuple(body.declared), tuple(body.statements))
+            self.nested[-1].take(tree)
 
     def go_on_line(self, line):
         """Reads the next word or words of an expression, or ends it."""
@@ -191,8 +191,8 @@ class Reader:
 
     def end_line(self, line):
         """An expression is complete: the word is none of it."""
-        self.frames.pop()
-        below = self.frames[-1]
+        self.nested.pop()
+        below = self.nested[-1]
         if not line.in_paren:
             below.put(line.value())
         elif self.pass_sign(")"):
@@ -211,7 +211,7 @@ class Reader:
         elif self.pass_sign("#("):
             line.take(self.read_items())
         elif self.pass_sign("("):
-            self.frames.append(Line(True))
+            self.nested.append(Line(True))
         elif self.pass_sign("["):
             self.begin_block()
         else:

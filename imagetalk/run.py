@@ -1,10 +1,9 @@
 """A run of a program, in either way of working: its sends, activations, processes and end."""
 
 from imagetalk.image import Image
-from imagetalk.reader import BODY_SELECTOR
 from imagetalk.telling import told
-from imagetalk.things import Activation, Closure, Method, Refused, Rule, Stopped, Strand, Thing
-from imagetalk.turning import end_strand, take_turn, work_remains
+from imagetalk.things import Activation, Closure, Refused, Rule, Stopped, Strand, Thing
+from imagetalk.turning import end_strand, go_on_with, take_turn, work_remains
 from imagetalk.ways import go_on_way, leave, stands
 
 MOST_DEPTH = 100
@@ -14,24 +13,28 @@ MOST_ROUNDS = 5000
 class Run(Image):
     """A run, at its beginning at first. What works its activations is told by the classes below."""
 
-    def __init__(self, book, most_sends, in_place, placed):
-        super().__init__(book, placed)
+    def __init__(self, stock, most_sends, in_place):
+        super().__init__(stock)
         self.in_place = in_place
         self.most_sends = most_sends
-        self.sends = 0
-        self.trace = []
-        self.shown = ""
+        self.sent = 0
+        self.messages = []
+        self.output = ""
         self.rounds = 0
+        self.begun = 0
         self.deepest = 0
-        self.ended = None
+        self.ending = None
         self.final = None
         main = Strand(0, None)
         self.strands = [main]
         self.ready = []
         self.going = main
         self.acts = main.acts
-        method = Method(self.kind_named("UndefinedObject"), BODY_SELECTOR, book.main, self.put_all_literals())
-        self.begin(method, None, (), "process")
+
+    def start(self):
+        """Literals are made, and main begins."""
+        self.put_all_literals()
+        self.begin(self.stock.main, None, (), "process")
 
     def prepared(self, method, is_main, in_place):
         """The body of a method, as this way of working has it."""
@@ -43,16 +46,17 @@ class Run(Image):
 
     def outcome(self):
         """The outcome of a run that has ended."""
-        kind, word = self.ended
-        return (kind, word, self.shown, self.sends)
+        kind, word = self.ending
+        return (kind, word, self.output, self.sent)
 
     def end(self, kind, word):
         """The run has ended."""
-        self.ended = (kind, word)
+        self.ending = (kind, word)
 
     def end_main(self, value):
         """The run has ended with this value."""
         self.final = value
+        self.strands[0].gone = True
         self.end("value", told(value))
 
     def fail(self, exception):
@@ -61,9 +65,10 @@ class Run(Image):
             self.end_other()
             return
         word = exception.kind.name
-        text = exception.fields[0]
+        text = exception.parts[0]
         if isinstance(text, Thing) and (text.is_a("String") or text.is_a("Symbol")):
             word += ": " + text.data
+        self.going.gone = True
         self.end("error", word)
 
     def end_process(self, value):
@@ -80,27 +85,34 @@ class Run(Image):
         else:
             take_turn(self)
 
+    def turn(self):
+        """A turn has come: the first of the processes that are ready goes on."""
+        go_on_with(self, 0)
+
     def push(self, act):
         """An activation begins on top of the others."""
         act.index = len(self.acts)
         if act.index >= MOST_DEPTH:
             raise Stopped("depth")
+        act.process = self.going.number
         self.acts.append(act)
-        self.deepest = max(self.deepest, len(self.acts))
+        self.begun += 1
+        if act.index >= self.deepest:
+            self.deepest = act.index + 1
 
     def begin(self, method, receiver, arguments, after):
         """An activation of a method begins."""
         if method.body is None:
             self.prepare(method, after == "process")
         body = method.body
-        variables = list(arguments) + [None] * (body[1] - body[0])
-        act = Activation(method, body, receiver, variables, self.steps_of(body))
+        cells = list(arguments) + [None] * (body[1] - body[0])
+        act = Activation(method, body, receiver, cells, self.steps_of(body))
         act.after = after
         self.push(act)
 
     def prepare(self, method, is_main):
         """Gives a method its body: those of the kernel are always made in place."""
-        own = is_main or method.kind.name in self.book.methods
+        own = is_main or method.kind.name in self.stock.book.methods
         method.body = self.prepared(method, is_main, self.in_place or not own)
 
     def work(self, block, arguments, after):
@@ -108,8 +120,8 @@ class Run(Image):
         closure = block.data
         around = closure.around
         body = closure.body
-        variables = list(arguments) + [None] * (body[1] - body[0])
-        act = Activation(around.method, body, around.receiver, variables, self.steps_of(body))
+        cells = list(arguments) + [None] * (body[1] - body[0])
+        act = Activation(around.method, body, around.receiver, cells, self.steps_of(body))
         act.kind = "block"
         act.around = around
         act.block = block
@@ -119,7 +131,7 @@ class Run(Image):
 
     def make_block(self, act, number):
         """A new Block of the written block with this number in the body of an activation."""
-        return self.new_thing(self.kind_named("Block"), Closure(act.body[3][number], act))
+        return self.new_thing(self.kind_named("Block"), Closure(number, act.body[3][number], act))
 
     def deliver(self, value):
         """The topmost activation goes on with the answer to what it has sent."""
@@ -127,7 +139,7 @@ class Run(Image):
         if act.waits:
             self.answer(value)
         else:
-            act.stack.append(value)
+            act.pile.append(value)
 
     def answer(self, value):
         """The topmost activation ends with a value."""
@@ -182,10 +194,10 @@ class Run(Image):
 
     def send_from(self, start, receiver, kind, selector, arguments):
         """Sends a message to an instance of a class, looked up from another class on."""
-        if self.sends >= self.most_sends:
+        if self.sent >= self.most_sends:
             raise Stopped("sends")
-        self.sends += 1
-        self.trace.append((len(self.acts), kind.name, selector))
+        self.sent += 1
+        self.messages.append((len(self.acts), kind.name, selector))
         method = self.method_for(start, selector)
         if method is None:
             message = self.new_message(selector, arguments)
@@ -205,11 +217,11 @@ class Run(Image):
             self.send(exception, "signal", ())
             return
         if rule.direct:
-            self.acts[-1].stack.append(answer)
+            self.acts[-1].pile.append(answer)
 
     def new_message(self, selector, arguments):
         """A Message that is not understood."""
         symbol = self.new_symbol(selector)
         message = self.new_instance(self.kind_named("Message"))
-        message.fields = [symbol, self.new_array(list(arguments))]
+        message.parts = [symbol, self.new_array(list(arguments))]
         return message

@@ -17,7 +17,7 @@ class Ground:
     """What a made method can name: so many fields, and these classes; None for all that there could be."""
 
     def __init__(self, fields, classes):
-        self.fields = fields
+        self.many_fields = fields
         self.classes = classes
 
 
@@ -69,7 +69,7 @@ def names_what_is_there(code, place, ground):
     if kind in ("temp", "settemp"):
         return code[1] < len(place.chain) and code[2] < place.chain[-1 - code[1]][1]
     if kind in ("field", "setfield"):
-        return ground.fields is None or code[1] < ground.fields
+        return ground.many_fields is None or code[1] < ground.many_fields
     if kind == "lit":
         return code[1] < place.literals
     if kind == "block":

@@ -78,7 +78,7 @@ class TreeCounter:
             return ("var", "nil")
         if value.is_a("Array"):
             return ("arr", self.trees_of(value.data, depth + 1))
-        return ("object", value.kind.name, self.trees_of(value.fields, depth + 1))
+        return ("object", value.kind.name, self.trees_of(value.parts, depth + 1))
 
     def trees_of(self, values, depth):
         """The trees of several values."""

@@ -18,15 +18,17 @@ class Refused(Exception):
 
 
 class Kind:
-    """A class, as what its instances have in common."""
+    """A class, as what its instances have in common. Several runs share it: nothing of it changes.
 
-    def __init__(self, name, parent, fields):
+    own tells whether it is one of the program's own, no NAME class.
+    """
+
+    def __init__(self, name, parent, field_names, own):
         self.name = name
+        self.own = own
         self.parent = parent
-        self.fields = fields
+        self.field_names = field_names
         self.line = (name,) if parent is None else (name, *parent.line)
-        self.known = {}
-        self.thing = None
 
     def is_kind_of(self, name):
         """Whether it is the class of this name or one below it."""
@@ -37,13 +39,16 @@ class Thing:
     """An object of a run. Integers, nil, true and false are those of Python.
 
     Its data are the signs of a String or Symbol, the list of the items of an Array, the Kind of a class, the Closure of
-    a Block, the Strand of a Process, the Signals of a Semaphore, None for others.
+    a Block, the Strand of a Process, the Signals of a Semaphore, None for others. Its parts are what its fields hold.
+    maker is the number of the process that made it, -1 for none, and serial its number among those.
     """
 
     def __init__(self, kind, data):
         self.kind = kind
-        self.fields = [None] * len(kind.fields)
+        self.parts = [None] * len(kind.field_names)
         self.data = data
+        self.maker = -1
+        self.serial = 0
 
     def is_a(self, name):
         """Whether it is an instance of the class of this name itself."""
@@ -51,28 +56,33 @@ class Thing:
 
 
 class Method:
-    """A method with a source: what was read of it and its literals as objects, and its body when it is needed."""
+    """A method with a source: what was read of it, the trees of its literals, and its body when it is needed.
 
-    def __init__(self, kind, selector, parsed, literals):
+    Several runs share it: each one has its literals as objects of its own.
+    """
+
+    def __init__(self, kind, selector, parsed, trees):
         self.kind = kind
         self.selector = selector
         self.parsed = parsed
-        self.literals = literals
+        self.trees = trees
         self.body = None
 
 
 class Rule:
-    """A method that is done by rule; one that is direct returns what it answers."""
+    """A method that is done by rule, with its class and selector; one that is direct returns what it answers."""
 
-    def __init__(self, action, direct):
+    def __init__(self, key, action, direct):
+        self.key = key
         self.action = action
         self.direct = direct
 
 
 class Closure:
-    """What a Block knows: its body, and the activation in which it was made."""
+    """What a Block knows: its body, with its number in the body around, and the activation in which it was made."""
 
-    def __init__(self, body, around):
+    def __init__(self, number, body, around):
+        self.number = number
         self.body = body
         self.around = around
 
@@ -86,7 +96,10 @@ class Signals:
 
 
 class Strand:
-    """A process: its activations, the Block that it has to begin with, and what comes when it goes on."""
+    """A process: its activations, the Block that it has to begin with, and what comes when it goes on.
+
+    gone tells whether it has ended, made how many objects it has made.
+    """
 
     def __init__(self, number, block):
         self.number = number
@@ -95,31 +108,34 @@ class Strand:
         self.block = block
         self.comes = None
         self.waits_at = None
-        self.ended = False
+        self.gone = False
+        self.made = 0
 
 
 class Activation:
     """One of a method or of a Block that is worked: around and block are None for a method.
 
-    after tells what its end leads to, if not to its sender: "process", "receiver", "argument", "way", "handler" or
-    "ended"; held is the Way, the Handling or the Remains that it belongs to then.
+    pile has its values under way, cells its variables. after tells what its end leads to, if not to its sender:
+    "process", "receiver", "argument", "way", "handler" or "ended"; held is the Way, the Handling or the Remains that it
+    belongs to then. process is the number of the process in which it began.
     """
 
-    def __init__(self, method, body, receiver, variables, steps):
+    def __init__(self, method, body, receiver, cells, steps):
         self.kind = "method"
         self.method = method
         self.body = body
         self.receiver = receiver
-        self.variables = variables
+        self.cells = cells
         self.steps = steps
         self.place = 0
-        self.stack = []
+        self.pile = []
         self.around = None
         self.block = None
         self.index = 0
         self.after = None
         self.held = None
         self.waits = False
+        self.process = 0
 
 
 class Guard:
@@ -139,6 +155,7 @@ class Guard:
         self.index = 0
         self.after = None
         self.held = None
+        self.process = 0
 
 
 class Way:

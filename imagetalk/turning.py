@@ -31,11 +31,16 @@ def process_that_goes_on(run):
 
 
 def take_turn(run):
-    """The first process that is ready goes on; without one the run is stuck."""
-    if not run.ready:
+    """A turn comes; if no process is ready the run is stuck."""
+    if run.ready:
+        run.turn()
+    else:
         run.end("stuck", "")
-        return
-    strand = run.ready.pop(0)
+
+
+def go_on_with(run, place):
+    """The process at this place among those that are ready goes on."""
+    strand = run.ready.pop(place)
     run.going = strand
     run.acts = strand.acts
     if strand.block is not None:
@@ -83,7 +88,7 @@ def signal_semaphore(run, semaphore):
 
 def terminate_process(run, strand):
     """A process ends, whoever sends this; its Process is the answer."""
-    if strand.ended:
+    if strand.gone:
         run.deliver(strand.thing)
     elif strand == run.going:
         leave(run, -1, "end", None)
@@ -111,7 +116,8 @@ def end_strand(strand):
     strand.acts.clear()
     strand.block = None
     strand.waits_at = None
-    strand.ended = True
+    strand.comes = None
+    strand.gone = True
     return gives_up
 
 

@@ -4,6 +4,7 @@ from imagetalk.counts import check_sends
 from imagetalk.errors import BadProgram
 from imagetalk.parsing import parsed_body
 from imagetalk.programread import read_program
+from imagetalk.stock import Stock
 from imagetalk.telling import value_tree
 from imagetalk.trees import check_depth
 from imagetalk.walker import Walk
@@ -13,7 +14,8 @@ def walked(program, sends, in_place):
     """The run of a program, at its end."""
     book = read_program(program)
     check_sends(sends)
-    run = Walk(book, sends, in_place, {})
+    run = Walk(Stock(program, book, {}), sends, in_place)
+    run.start()
     run.go()
     return run
 
@@ -27,13 +29,13 @@ def walk(program, sends, *, in_place=True):
 def walk_trace(program, sends, *, in_place=True):
     """The trace of a program: all messages in order, each as (depth, class, selector)."""
     run = walked(program, sends, in_place)
-    return run.trace
+    return run.messages
 
 
 def walk_value(program, sends):
     """The tree of the value with which a program ends, None if it ends otherwise."""
     run = walked(program, sends, True)
-    return value_tree(run.final) if run.ended[0] == "value" else None
+    return value_tree(run.final) if run.ending[0] == "value" else None
 
 
 def answers(program, source, sends):
@@ -46,6 +48,7 @@ def answers(program, source, sends):
             raise BadProgram(("main",))
     check_depth(parsed)
     book.main = parsed
-    run = Walk(book, sends, True, {})
+    run = Walk(Stock(program, book, {}), sends, True)
+    run.start()
     run.go()
     return run.outcome()

@@ -11,7 +11,7 @@ class Walk(Run):
 
     def prepared(self, method, is_main, in_place):
         """The plan of a method."""
-        plan, _ = planned(method.parsed, method.kind.fields, is_main, in_place)
+        plan, _ = planned(method.parsed, method.kind.field_names, is_main, in_place)
         return plan
 
     def steps_of(self, body):
@@ -26,7 +26,7 @@ class Walk(Run):
         actions["judge"] = judge
         actions["round"] = go_round
         try:
-            while self.ended is None:
+            while self.ending is None:
                 act = self.acts[-1]
                 step = act.steps.pop()
                 action = actions[step[0]]
@@ -38,7 +38,7 @@ class Walk(Run):
 def choose(run, act, step):
     """Goes through one part or the other one."""
     _, wanted, chosen, other = step
-    value = act.stack.pop()
+    value = act.pile.pop()
     if not isinstance(value, bool):
         run.send(value, "mustBeBoolean", ())
     elif value == wanted:
@@ -56,7 +56,7 @@ def begin_loop(run, act, step):
 def judge(run, act, step):
     """Goes through the other part, or leaves the loop."""
     loop = step[1]
-    value = act.stack.pop()
+    value = act.pile.pop()
     if not isinstance(value, bool):
         run.send(value, "mustBeBoolean", ())
     elif value == loop[2]:
@@ -64,7 +64,7 @@ def judge(run, act, step):
         act.steps.append(POP)
         act.steps.extend(loop[3])
     else:
-        act.stack.append(None)
+        act.pile.append(None)
 
 
 def go_round(run, act, step):

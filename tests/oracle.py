@@ -6,7 +6,8 @@ Each process is a generator that yields where a turn comes. Objects and what is 
 from imagetalk.image import Image
 from imagetalk.programread import read_program
 from imagetalk.telling import told
-from imagetalk.things import Kind, Method, Refused, Rule, Stopped, Thing
+from imagetalk.stock import Stock
+from imagetalk.things import Kind, Refused, Rule, Stopped, Thing
 
 CHOICES = {"ifTrue:": (True, None), "ifFalse:": (False, None), "and:": (True, False), "or:": (False, True), "ifTrue:ifFalse:": (True, 1),
            "ifFalse:ifTrue:": (False, 1)}
@@ -44,7 +45,7 @@ class Closure:
 class Task:
     def __init__(self, number):
         self.number, self.stack, self.ways, self.steps, self.thing = number, [], [], None, None
-        self.ended, self.waits_at = False, None
+        self.gone, self.waits_at = False, None
 
 
 def names_in(tree):
@@ -98,14 +99,14 @@ def is_in_place(tree):
 
 class Oracle(Image):
     def __init__(self, program, most_sends, in_place):
-        super().__init__(read_program(program), {})
+        super().__init__(Stock(program, read_program(program), {}))
         self.most_sends, self.in_place = most_sends, in_place
-        self.sends, self.trace, self.shown, self.rounds = 0, [], "", 0
+        self.sends, self.trace, self.output, self.rounds = 0, [], "", 0
         self.places = {}
         main = Task(0)
         self.tasks, self.ready, self.task = [main], [], main
-        method = Method(self.kind_named("UndefinedObject"), "doIt", self.book.main, self.put_all_literals())
-        main.steps = self.main_steps(method)
+        self.put_all_literals()
+        main.steps = self.main_steps(self.stock.main)
 
     def run(self):
         """The outcome."""
@@ -132,10 +133,10 @@ class Oracle(Image):
             self.task = self.ready.pop(0)
 
     def outcome(self, kind, word):
-        return (kind, word, self.shown, self.sends)
+        return (kind, word, self.output, self.sends)
 
     def end_task(self, task):
-        task.ended, task.stack = True, []
+        task.gone, task.stack = True, []
 
     def main_steps(self, method):
         try:
@@ -164,7 +165,7 @@ class Oracle(Image):
         _, _, parameters, variables, statements = method.parsed.tree
         frame = self.push(Frame("method", method=method, receiver=receiver))
         frame.names = dict(zip(parameters, arguments), **{name: None for name in variables})
-        frame.home, frame.plain = frame, not self.in_place and (is_main or method.kind.name in self.book.methods)
+        frame.home, frame.plain = frame, not self.in_place and (is_main or method.kind.name in self.stock.book.methods)
         try:
             value = yield from self.statements(statements, frame)
             if not statements or statements[-1][0] != "return":
@@ -190,7 +191,7 @@ class Oracle(Image):
                     if tree[0] == "sym" and tree[1] in symbols:
                         found[path] = symbols[tree[1]]
                     else:
-                        found[path] = method.literals[count]
+                        found[path] = self.literals[method][count]
                         count += 1
                     if tree[0] == "sym":
                         symbols[tree[1]] = found[path]
@@ -315,8 +316,8 @@ class Oracle(Image):
         owner = self.owner(name, frame)
         if owner is not None:
             return owner.names[name]
-        if name in frame.method.kind.fields:
-            return frame.receiver.fields[frame.method.kind.fields.index(name)]
+        if name in frame.method.kind.field_names:
+            return frame.receiver.parts[frame.method.kind.field_names.index(name)]
         return self.class_named(name)
 
     def write(self, name, frame, value):
@@ -324,7 +325,7 @@ class Oracle(Image):
         if owner is not None:
             owner.names[name] = value
         else:
-            frame.receiver.fields[frame.method.kind.fields.index(name)] = value
+            frame.receiver.parts[frame.method.kind.field_names.index(name)] = value
 
     def begin_leave(self, leave):
         leave.barred = [frame for frame in self.task.stack if frame.kind == "handle" and frame.index >= leave.low]
@@ -352,7 +353,7 @@ class Oracle(Image):
         if method is None:
             symbol = self.new_symbol(selector)
             message = self.new_instance(self.kind_named("Message"))
-            message.fields = [symbol, self.new_array(list(arguments))]
+            message.parts = [symbol, self.new_array(list(arguments))]
             return (yield from self.send(receiver, "doesNotUnderstand:", [message], start))
         if not isinstance(method, Rule):
             return (yield from self.method(method, receiver, arguments))
@@ -500,7 +501,7 @@ class Oracle(Image):
                     raise
                 self.begin_leave(Leave(guard, guard.index, "return:", value))
         if thing.kind.is_kind_of("Error"):
-            text = thing.fields[0]
+            text = thing.parts[0]
             raise Dies(thing.kind.name + (": " + text.data if is_thing(text, "String") or is_thing(text, "Symbol") else ""))
         return None
 
@@ -547,7 +548,7 @@ class Oracle(Image):
 
     def terminate(self, thing):
         task = thing.data
-        if task.ended:
+        if task.gone:
             return thing
         if task is self.task:
             self.begin_leave(Leave(task, -1, "end", None))

@@ -7,7 +7,7 @@ import unittest
 
 FOLDER = pathlib.Path(__file__).resolve().parent.parent / "imagetalk"
 BUILTINS = """len range enumerate zip min max sum abs sorted reversed int str bool list tuple dict set isinstance ord repr any
-all divmod super type Exception ValueError TypeError KeyError IndexError LookupError ZeroDivisionError
+all divmod super type property Exception ValueError TypeError KeyError IndexError LookupError ZeroDivisionError
 NotImplementedError""".split()
 METHODS = """append clear copy count endswith extend find get index insert isalnum isalpha isdigit islower isspace isupper items
 join keys ljust lower lstrip partition pop remove replace reverse rfind rjust rpartition rsplit rstrip setdefault split

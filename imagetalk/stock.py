@@ -1,0 +1,90 @@
+"""What all runs of one program have in common: its classes, and the methods that are found in them."""
+
+from imagetalk.book import CLASS_WORD
+from imagetalk.kernel import kernel_source
+from imagetalk.parsing import parsed_method
+from imagetalk.reader import BODY_SELECTOR
+from imagetalk.rules import rule_of
+from imagetalk.things import Kind, Method, Rule
+
+
+class Stock:
+    """The classes and methods of a program; placed has made methods by (class, selector).
+
+    own has the methods of the program itself that were needed so far, known what was found for (class, selector).
+    """
+
+    def __init__(self, program, book, placed):
+        self.source_program = program
+        self.book = book
+        self.placed = placed
+        self.kinds = {}
+        self.own = {}
+        self.known = {}
+        self.main = Method(self.kind_named("UndefinedObject"), BODY_SELECTOR, book.main, tuple(book.main.literals))
+
+    def kind_named(self, name):
+        """The class with this name."""
+        if name not in self.kinds:
+            above = self.book.parent_of_class(name)
+            parent = None if above is None else self.kind_named(above)
+            own = name in self.book.own_names
+            self.kinds[name] = Kind(name, parent, self.book.fields_of_class(name), own)
+        return self.kinds[name]
+
+    def method_for(self, kind, selector):
+        """The method that an instance works for a selector, None if there is none."""
+        key = (kind.name, selector)
+        if key not in self.known:
+            self.known[key] = self.searched(kind, selector)
+        return self.known[key]
+
+    def searched(self, kind, selector):
+        """As method_for, looked for from the class on."""
+        method = self.own_method(kind, selector)
+        if method is None and kind.parent is not None:
+            return self.method_for(kind.parent, selector)
+        return method
+
+    def own_method(self, kind, selector):
+        """The method that a class has itself, None if it has none."""
+        if selector in self.book.own_methods(kind.name):
+            return self.method_of_program(kind.name, selector)
+        action, direct = rule_of(kind.name, selector)
+        if action is not None:
+            return Rule((kind.name, selector), action, direct)
+        source = kernel_source(kind.name, selector)
+        if source is not None:
+            return Method(kind, selector, parsed_method(source), ())
+        return None
+
+    def method_of_program(self, name, selector):
+        """The method of the program's own, or the made one that is put in its place."""
+        key = (name, selector)
+        if key not in self.own:
+            parsed = self.book.methods[name][selector]
+            trees = self.placed[key][1] if key in self.placed else tuple(parsed.literals)
+            self.own[key] = Method(self.kind_named(name), selector, parsed, trees)
+            if key in self.placed:
+                self.own[key].body = self.placed[key][2]
+        return self.own[key]
+
+    def method_keys(self):
+        """The methods of the program's classes as (class, selector), in order."""
+        rows = []
+        for name in self.book.own_names:
+            for owner in (name, name + CLASS_WORD):
+                rows.extend([(owner, selector) for selector in self.book.methods[owner]])
+        return rows
+
+    def has_literals(self, key):
+        """Whether a method of the program has literals."""
+        if key in self.placed:
+            return len(self.placed[key][1]) > 0
+        return len(self.book.methods[key[0]][key[1]].literals) > 0
+
+    def methods_with_literals(self):
+        """The methods that have literals, main at the end in any case."""
+        rows = [self.method_of_program(name, selector) for name, selector in self.method_keys()
+                if self.has_literals((name, selector))]
+        return [*rows, self.main]
