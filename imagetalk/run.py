@@ -56,19 +56,21 @@ class Run(Image):
     def end_main(self, value):
         """The run has ended with this value."""
         self.final = value
-        self.strands[0].gone = True
+        main = self.strands[0]
+        main.gone = True
         self.end("value", told(value))
 
     def fail(self, exception):
         """The process that goes on ends by an Error that has no handler."""
-        if self.going.number > 0:
+        strand = self.going
+        if strand.number > 0:
             self.end_other()
             return
         word = exception.kind.name
         text = exception.parts[0]
         if isinstance(text, Thing) and (text.is_a("String") or text.is_a("Symbol")):
             word += ": " + text.data
-        self.going.gone = True
+        strand.gone = True
         self.end("error", word)
 
     def end_process(self, value):

@@ -12,64 +12,66 @@ def stands_in(strand, act):
     return act.index < len(strand.acts) and strand.acts[act.index] == act
 
 
-def late():
-    """Refuses to go on any longer."""
+class Moment:
+    """What is told of a run ahead of a code: the activations of the process that goes on, and how many have begun."""
+
+    def __init__(self, run):
+        self.acts = run.acts
+        self.many = len(run.acts)
+        self.begun = run.begun
+
+
+def go_by_codes(run, has_come):
+    """Goes on until something has come, as is told behind each code; whether that came ahead of the end."""
+    for _ in range(MOST_CODES_DONE):
+        before = Moment(run)
+        run.go(1)
+        if has_come(before):
+            return True
+        if run.ending is not None:
+            return False
     raise Late("too many codes")
 
 
 def go_into(run):
-    """Goes on until an activation begins or ends; whether that came ahead of the end."""
-    for _ in range(MOST_CODES_DONE):
-        acts = run.acts
-        many = len(acts)
-        begun = run.begun
-        run.go(1)
-        if run.begun > begun or len(acts) < many:
-            return True
-        if run.ending is not None:
-            return False
-    return late()
+    """Goes on until an activation begins or ends."""
+    def has_come(before):
+        """Whether the code has begun or ended one."""
+        return run.begun > before.begun or len(before.acts) < before.many
+    return go_by_codes(run, has_come)
 
 
 def go_over(run):
-    """Goes on until the topmost activation is on top again or has ended; whether that came ahead of the end."""
+    """Goes on until the topmost activation is on top again or has ended."""
     strand = run.going
     act = strand.acts[-1]
-    for _ in range(MOST_CODES_DONE):
-        run.go(1)
+
+    def has_come(before):
+        """Whether it is on top, or has ended."""
         if not stands_in(strand, act):
             return True
-        if run.ending is not None:
-            return False
-        if run.going == strand and strand.acts[-1] == act:
-            return True
-    return late()
+        return run.ending is None and run.going == strand and strand.acts[-1] == act
+    return go_by_codes(run, has_come)
 
 
 def go_out(run):
-    """Goes on until the topmost activation has ended; whether that came ahead of the end of the run."""
+    """Goes on until the topmost activation has ended."""
     strand = run.going
     act = strand.acts[-1]
-    for _ in range(MOST_CODES_DONE):
-        run.go(1)
-        if not stands_in(strand, act):
-            return True
-        if run.ending is not None:
-            return False
-    return late()
+
+    def has_come(before):
+        """Whether it has ended."""
+        return not stands_in(strand, act)
+    return go_by_codes(run, has_come)
 
 
 def go_to_method(run, name, selector):
-    """Goes on until an activation of a method begins; whether that came ahead of the end."""
-    for _ in range(MOST_CODES_DONE):
-        begun = run.begun
-        run.go(1)
-        newest = run.acts[len(run.acts) - (run.begun - begun):]
-        if any([is_activation_of(act, name, selector) for act in newest]):
-            return True
-        if run.ending is not None:
-            return False
-    return late()
+    """Goes on until an activation of a method begins."""
+    def has_come(before):
+        """Whether the code has begun one."""
+        newest = run.acts[len(run.acts) - (run.begun - before.begun):]
+        return any([is_activation_of(act, name, selector) for act in newest])
+    return go_by_codes(run, has_come)
 
 
 def is_activation_of(act, name, selector):
@@ -82,9 +84,9 @@ def is_activation_of(act, name, selector):
 def go_until(run, count):
     """Goes on until so many codes are done in all; whether that came ahead of the end."""
     run.go(min(count - run.done, MOST_CODES_DONE))
-    if run.done == count:
-        return True
-    return late() if run.ending is None else False
+    if run.done < count and run.ending is None:
+        raise Late("too many codes")
+    return run.done == count
 
 
 def restart_act(run, number):

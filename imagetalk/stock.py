@@ -64,9 +64,10 @@ class Stock:
         if key not in self.own:
             parsed = self.book.methods[name][selector]
             trees = self.placed[key][1] if key in self.placed else tuple(parsed.literals)
-            self.own[key] = Method(self.kind_named(name), selector, parsed, trees)
+            method = Method(self.kind_named(name), selector, parsed, trees)
             if key in self.placed:
-                self.own[key].body = self.placed[key][2]
+                method.body = self.placed[key][2]
+            self.own[key] = method
         return self.own[key]
 
     def method_keys(self):

@@ -2,6 +2,7 @@
 
 from imagetalk.engine import Machine
 from imagetalk.errors import BadSchedule
+from imagetalk.things import Thing
 from imagetalk.turning import go_on_with
 from imagetalk.watching import watched_codes, watched_rule
 
@@ -33,8 +34,9 @@ class Turner(Machine):
         """Starts the run with all its objects in the image, each one told by its number."""
         self.put_classes()
         self.start()
-        for number in range(3, len(self.things)):
-            self.things[number].serial = number
+        for number, thing in enumerate(self.things):
+            if isinstance(thing, Thing):
+                thing.serial = number
 
     def put_made(self, thing):
         """An object of the image that the process that goes on has made."""

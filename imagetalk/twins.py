@@ -65,9 +65,10 @@ class Twin:
         elif isinstance(data, Strand):
             there.data = self.strand_of(data)
         elif isinstance(data, Signals):
-            there.data = Signals()
-            there.data.count = data.count
-            there.data.waiting = [self.strand_of(strand) for strand in data.waiting]
+            signals = Signals()
+            signals.count = data.count
+            signals.waiting = [self.strand_of(strand) for strand in data.waiting]
+            there.data = signals
         else:
             there.data = data
 

@@ -59,8 +59,9 @@ def write_field(run, act, code):
 
 def note_owner(run, act, code):
     """A variable is read or written, perhaps one of another process's activation."""
+    watch = run.watch
     if owner_of(act, code[1]).process != run.going.number:
-        run.watch.strays = True
+        watch.strays = True
 
 
 def read_variable(run, act, code):

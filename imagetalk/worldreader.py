@@ -45,6 +45,7 @@ class WorldReader:
         self.named = {"n": None, "t": True, "f": False}
         self.made = []
         self.methods = {}
+        self.bodies = {}
         self.waiting = []
 
     def next_row(self):
@@ -128,7 +129,8 @@ class WorldReader:
         node_rows = self.next_rows(nodes)
         self.make_nodes(node_rows)
         for name, row in zip(run.stock.book.own_names, own):
-            run.classes[name].parts = self.all_values(row)
+            thing = run.classes[name]
+            thing.parts = self.all_values(row)
         for method, row in zip(methods, literals):
             run.literals[method] = self.all_values(row)
         run.final = self.value(final)
@@ -176,10 +178,16 @@ class WorldReader:
         number, body = [int(word) for word in row.split()[1:3]]
         first, cells, literals = parts
         act.method = self.method_of(number, literals)
-        act.body = all_bodies(act.method.body)[body]
+        act.body = self.body_of(act.method, body)
         act.steps = act.body[2]
         act.receiver, act.block, act.around = self.all_values(first)
         act.cells = self.all_values(cells)
+
+    def body_of(self, method, number):
+        """The body with this number in a method."""
+        if method not in self.bodies:
+            self.bodies[method] = all_bodies(method.body)
+        return self.bodies[method][number]
 
     def method_of(self, number, row):
         """The method with this number among those at work, with these literals."""
@@ -229,14 +237,16 @@ class WorldReader:
         elif name == "Block":
             number, around = rest.split()
             act = self.named[around]
-            body = all_bodies(act.method.body)[int(number)]
+            body = self.body_of(act.method, int(number))
             thing.data = Closure(act.body[3].index(body), body, act)
         elif name == "Process":
-            thing.data = self.run.strands[int(rest)]
-            thing.data.thing = thing
+            strand = self.run.strands[int(rest)]
+            strand.thing = thing
+            thing.data = strand
         elif name == "Semaphore":
-            thing.data = Signals()
-            thing.data.count = int(rest)
+            signals = Signals()
+            signals.count = int(rest)
+            thing.data = signals
         else:
             thing.parts = self.all_values(rest)
 
@@ -247,10 +257,12 @@ class WorldReader:
             if not strand.gone:
                 strand.thing, strand.block, strand.comes = self.all_values(row)
         for numbers in self.waiting:
-            semaphore = strands[numbers[0]].comes
-            semaphore.data.waiting = [strands[number] for number in numbers]
-            for number in numbers:
-                strands[number].waits_at = semaphore
+            waiting = [strands[number] for number in numbers]
+            semaphore = waiting[0].comes
+            signals = semaphore.data
+            signals.waiting = waiting
+            for strand in waiting:
+                strand.waits_at = semaphore
 
 
 def new_act(row):
