@@ -261,6 +261,9 @@ class PaperTest(unittest.TestCase):
         self.assertIs(reach_holds(program, (methods + (("A", "bar"), ("A", "foo")), classes)), True)
         self.assertIs(reach_holds(program, (methods + (("A", "baz"),), classes)), True)
         self.assertIs(reach_holds(program, (methods + (("A", "baz"), ("A", "bar"), ("A", "foo")), classes)), False)
+        spelled = ((one("A", methods=("foo ^ 1", "bar ^ 2")),), "#asSymbol. A. 3 perform: 4")
+        self.assertIs(reach_holds(spelled, self.paper(spelled)), True)
+        self.assertIs(reach_holds(spelled, (tuple(key for key in self.paper(spelled)[0] if key != ("A", "bar")), self.paper(spelled)[1])), False)
         everything = tuple(all_methods(program))
         self.assertIs(reach_holds(program, (everything, classes)), True)
 

@@ -185,6 +185,9 @@ class AllEndsTest(unittest.TestCase):
         self.assertIsNone(stuck_by(longer))
         self.assertIsNone(schedule_for(longer, ("stuck", "", "")))
         self.assertIs(is_orderless(longer), False)
+        main = "| k | k := 0. [k := 99] fork. [k < %d] whileTrue: [k := k + 1. Processor yield]. ^ k"
+        self.assertEqual(schedule_for(((), main % 60), ("value", "60", "")), [1] * 60)
+        self.assertIsNone(schedule_for(((), main % 61), ("value", "61", "")))
 
     def test_too_many_standings(self):
         for program in (yielding(6, 6, 6), ((), "[Processor yield. Processor yield] fork. " * 7 + "Semaphore new wait")):
@@ -360,6 +363,12 @@ class TouchesTest(unittest.TestCase):
         self.assertEqual(self.touched("'zo' asSymbol. (Array new: 3) at: 3"), ((((0, 1, 3),), (), False, False),))
         self.assertEqual(self.touched("3 foo"), (((), ((0, 3, 1), (0, 3, 2)), False, False),))
         self.assertEqual(self.touched("[Error new signal: 3] on: Error do: [:e | e text]"), ((((0, 2, 0),), ((0, 2, 0),), False, False),))
+
+    def test_what_was_written_is_read(self):
+        a = one("A", fields=("n",), methods=("n: x n := x", "n ^ n"))
+        self.assertEqual(self.touched("| a | a := A new n: #(5 6) copy; yourself. a n at: 2. [:x | x at: 1] value: a n", a)[0][0],
+                         ((-1, 57, 1), (-1, 57, 2), (0, 0, 0), (0, 1, 1), (0, 1, 2)))
+        self.assertEqual(self.touched("| a b | a := A new. b := a. b n: a. (b n == a) ifTrue: [a n]", a)[0][:2], (((0, 0, 0),), ((0, 0, 0),)))
 
     def test_several_processes(self):
         main = "| a p | a := Array new: 2. [a at: 1 put: Object new. (Array new: 1) at: 1] fork. p := [a at: 1] fork. Processor yield. a at: 2"

@@ -241,6 +241,8 @@ class RunToTest(unittest.TestCase):
         stepper = Stepper(program_of("a safe"))
         self.assertEqual([stepper.run_to("Block", "on:do:"), kinds(stepper)], [True, ["doIt", "safe", "handle", "block"]])
         self.assertIs(stepper.run_to("Block", "on:do:"), False)
+        for name, selector in (("A", "ensure:"), ("Block", "on:do:"), ("Object", "ensure:"), ("Block class", "ensure:")):
+            self.assertIs(Stepper(program_of("a guard")).run_to(name, selector), False)
 
     def test_what_never_begins(self):
         for name, selector in (("Block", "value"), ("Object", "=="), ("Integer", "+"), ("A", "isNil"), ("A", "zork"), ("UndefinedObject", "doIt"), ("Object class", "new"),
@@ -421,6 +423,15 @@ class RestartTest(unittest.TestCase):
         stepper.out()
         self.assertEqual((stepper.ended, stepper.shown), (True, "xx"))
 
+    def test_values_are_gone(self):
+        stepper = Stepper(program_of("^ 3 + (4 max: a go)"))
+        stepper.run_to("A", "go")
+        self.assertEqual(stepper.stack(0), ["3", "4"])
+        stepper.restart(0)
+        self.assertEqual(stepper.stack(0), [])
+        stepper.run_to("Integer", "max:")
+        self.assertEqual(stepper.stack(0), ["3"])
+
     def test_blocks_that_were_made_know_it_still(self):
         stepper = Stepper(((), "| b n | n := 1. b isNil ifTrue: [b := [n := 5. n]. Transcript show: b value]. ^ b value"))
         stepper.until(14)
@@ -539,6 +550,13 @@ class RestartTest(unittest.TestCase):
         self.assertEqual(kinds(stepper)[number], "block")
         stepper.restart(number)
         self.assertEqual((stepper.frames()[number][3], len(stepper.frames())), (0, number + 1))
+        while stepper.into():
+            pass
+        self.assertEqual((stepper.shown, stepper.ended), ("xx", True))
+        program = ((one("L", methods=("blk ^ [3 yourself. Transcript show: 'x'. ^ 1]",)),), program[1])
+        stepper = Stepper(program)
+        stepper.run_to("Object", "cannotReturn:")
+        stepper.restart(len(stepper.frames()) - 2)
         while stepper.into():
             pass
         self.assertEqual((stepper.shown, stepper.ended), ("xx", True))

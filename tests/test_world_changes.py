@@ -127,6 +127,16 @@ class MethodsTest(unittest.TestCase):
         self.assertEqual(world.program(), without_method(PROGRAM, "A class", "c"))
         self.assertEqual(world.unlike(World(PROGRAM)), "program")
 
+    def test_the_literals_of_main_stay(self):
+        for change in (lambda world: world.put_method("A", "go ^ 'new'"), lambda world: world.drop_method("A", "go"), lambda world: world.change_fields("A", ("m", "n"))):
+            world = World(((A,), "#('kept') yourself. ^ 3"))
+            world.step(1)
+            change(world)
+            world.step(20000)
+            world.collect()
+            self.assertIn("#('kept')", told(world))
+            self.assertEqual(read_world(world.write()), world)
+
     def test_on_a_world_that_has_ended(self):
         world = until_shown("^ A new go")
         world.step(20000)

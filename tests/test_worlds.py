@@ -107,6 +107,15 @@ class FinishTest(unittest.TestCase):
         self.assertEqual(world.trace(sends=5000), machine_trace(program, 5000))
         self.assertEqual(world.sends, 2)
 
+    def test_more_sends_than_the_bound_were_done(self):
+        """It is stopped at once, even if no send would come any more."""
+        world = World(((), "3 yourself. ^ 4"))
+        while world.sends < 1:
+            world.step(1)
+        self.assertEqual([world.finish(sends) for sends in (0, 1, 2)], [("stopped", "sends", "", 1), ("value", "4", "", 1), ("value", "4", "", 1)])
+        self.assertEqual(world.trace(0), [(1, "Integer", "yourself")])
+        self.assertIs(world.ended, False)
+
     def test_nothing_changes(self):
         world = World(BOX)
         world.step(20)
