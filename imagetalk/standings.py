@@ -52,7 +52,8 @@ class Standings:
         self.first = self.going_of(run, [])
         number = 0
         while number < len(self.runs):
-            self.goings.append([self.going_by(number, place) for place in range(len(self.runs[number].ready))])
+            many = len(self.runs[number].ready)
+            self.goings.append([self.going_by(number, place, place == many - 1) for place in range(many)])
             number += 1
         self.order = self.last_first()
 
@@ -63,9 +64,13 @@ class Standings:
             run.watch_by(Watch())
         return run
 
-    def going_by(self, number, place):
-        """The going from a standing by the place of a process."""
-        run = twin(self.runs[number], self.new_run())
+    def going_by(self, number, place, is_last):
+        """The going from a standing by the place of a process; the last one goes on with the run that stands there."""
+        run = self.runs[number]
+        if not is_last:
+            run = twin(run, self.new_run())
+        elif self.watches:
+            run.watch_by(Watch())
         go_on_with(run, place)
         return self.going_of(run, [*self.schedules[number], place])
 

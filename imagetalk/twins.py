@@ -28,15 +28,17 @@ class Twin:
     def copy_all(self):
         """Copies all that the run holds."""
         self.strands = [Strand(strand.number, None) for strand in self.run.strands]
+        hollow = []
         for thing in self.run.things:
             if isinstance(thing, Thing) and not is_lasting(thing):
                 self.things[thing] = new_thing(thing)
+                if not isinstance(thing.data, str):
+                    hollow.append(thing)
         for strand in self.run.strands:
             for act in strand.acts:
                 self.act_of(act)
-        for thing in self.run.things:
-            if thing in self.things:
-                self.fill_thing(thing)
+        for thing in hollow:
+            self.fill_thing(thing)
         self.copy_strands()
         self.copy_rest()
 
@@ -57,7 +59,8 @@ class Twin:
         """Copies what an object holds."""
         there = self.things[thing]
         data = thing.data
-        there.parts = self.values_of(thing.parts)
+        if thing.parts:
+            there.parts = self.values_of(thing.parts)
         if isinstance(data, list):
             there.data = self.values_of(data)
         elif isinstance(data, Closure):
@@ -69,8 +72,6 @@ class Twin:
             signals.count = data.count
             signals.waiting = [self.strand_of(strand) for strand in data.waiting]
             there.data = signals
-        else:
-            there.data = data
 
     def chain_of(self, act):
         """What stands for an activation in which a Block was made; it and those around it are copied first."""
@@ -167,8 +168,8 @@ class Twin:
 
 
 def new_thing(thing):
-    """An object of the same class that was made by the same process."""
-    there = Thing(thing.kind, None)
+    """An object of the same class, with the same signs or the same Kind, that was made by the same process."""
+    there = Thing(thing.kind, thing.data)
     there.maker = thing.maker
     there.serial = thing.serial
     return there
