@@ -59,6 +59,13 @@ def held_words(held):
     return ""
 
 
+def guard_word(guard):
+    """What an activation of on:do: catches, of the others whether the argument has begun."""
+    if guard.kind == "handle":
+        return guard.caught
+    return "1" if guard.begun else "0"
+
+
 class Standing:
     """A run that is looked at: the nodes that are reached, and the numbers by which rows tell of them."""
 
@@ -107,7 +114,7 @@ class Standing:
     def act_row(self, act):
         """Where an activation stands that has not ended."""
         if isinstance(act, Guard):
-            return f"{act.kind} {act.caught if act.kind == 'handle' else 1 if act.begun else 0}"
+            return f"{act.kind} {guard_word(act)}"
         after = act.after if act.after is not None else "-"
         return f"{act.kind} {self.method_words(act)} {act.place} {1 if act.waits else 0} {after}{held_words(act.held)}"
 

@@ -1,13 +1,16 @@
 """Point 39: made methods that go in step, and where they first do not."""
 
+import random
 import unittest
 
+import naive_steps
 from cases import all_programs
+from programmaker import ProgramMaker
 from test_judged import F, from_text
 from test_machine import made
 from test_making import codes_of
 
-from imagetalk.errors import BadMade, NotSound, TooMany
+from imagetalk.errors import BadMade, BadProgram, BadSource, NotSound, TooMany
 from imagetalk.instep import first_unlike, same_deeds
 from imagetalk.maker import made_of, make, make_main
 from imagetalk.passes import folded, least_made, peeped, tailed, tested, threaded, trimmed
@@ -247,6 +250,48 @@ class InStepTest(unittest.TestCase):
                     except TooMany:
                         with self.assertRaises(TooMany):
                             same_deeds(thing, thing)
+
+    def changed(self, chance, thing):
+        """A made method with one code that is another one."""
+        selector, literals, (parameters, variables, codes, blocks) = thing
+        place = chance.randrange(len(codes))
+        code = codes[place]
+        if code[0] == "int":
+            code = ("int", code[1] + 1)
+        elif code[0] == "send" and code[2] == 0:
+            code = ("send", "zork", 0)
+        elif code[0] == "test":
+            code = ("test", not code[1], *code[2:])
+        elif code[0] == "const":
+            code = ("const", chance.choice(("nil", "true", "false")))
+        elif code[0] == "lit":
+            code = ("lit", chance.randrange(len(literals)))
+        elif code[0] == "self":
+            code = ("int", 1)
+        return (selector, literals, (parameters, variables, codes[:place] + (code,) + codes[place + 1:], blocks))
+
+    def test_against_a_plain_writing(self):
+        chance, found = random.Random(6), {}
+        for _ in range(900):
+            source = "m: x | y | " + ProgramMaker(chance).body(["x"], ["y"], chance.randint(1, 4), 4, 0.6)
+            try:
+                thing = make(F, "F", source)
+                other = thing
+                for _ in range(chance.randint(1, 3)):
+                    change = chance.choice(PASSES + (None, None, None))
+                    other = self.changed(chance, other) if change is None else change(other)
+            except (BadProgram, BadSource, NotSound, TooMany):
+                continue
+            try:
+                way = naive_steps.Naive(thing, other).first_unlike()
+            except naive_steps.Round:
+                with self.assertRaises(TooMany):
+                    first_unlike(thing, other)
+                way = "too many"
+            else:
+                self.assertEqual(first_unlike(thing, other), way, source)
+            found[way] = found.get(way, 0) + 1
+        self.assertGreater(len(found), 4)
 
     def test_wrong_arguments(self):
         good = made(("self",), ("answer",))
