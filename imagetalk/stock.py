@@ -78,14 +78,12 @@ class Stock:
                 rows.extend([(owner, selector) for selector in self.book.methods[owner]])
         return rows
 
-    def has_literals(self, key):
-        """Whether a method of the program has literals."""
-        if key in self.placed:
-            return len(self.placed[key][1]) > 0
-        return len(self.book.methods[key[0]][key[1]].literals) > 0
-
     def methods_with_literals(self):
         """The methods that have literals, main at the end in any case."""
-        rows = [self.method_of_program(name, selector) for name, selector in self.method_keys()
-                if self.has_literals((name, selector))]
-        return [*rows, self.main]
+        rows = []
+        for name in self.book.own_names:
+            for owner in (name, name + CLASS_WORD):
+                for selector, parsed in self.book.methods[owner].items():
+                    if parsed.literals or self.placed:
+                        rows.append(self.method_of_program(owner, selector))
+        return [*[method for method in rows if method.trees], self.main]
