@@ -87,13 +87,13 @@ def handler_of(run, exception):
 def return_value(run, receiver, value):
     """Exception `return:`."""
     act = handler_of(run, receiver)
-    leave(run, act.held.guard.index, "return", value)
+    leave(run, act.held.guard.level, "return", value)
 
 
 def retry(run, receiver):
     """Exception `retry`."""
     act = handler_of(run, receiver)
-    leave(run, act.held.guard.index, "retry", None)
+    leave(run, act.held.guard.level, "retry", None)
 
 
 def resume(run, receiver, value):
@@ -101,13 +101,13 @@ def resume(run, receiver, value):
     act = handler_of(run, receiver)
     if receiver.kind.is_kind_of("Error"):
         raise Refused("CannotResume")
-    leave(run, act.index - 1, "resume", value)
+    leave(run, act.level - 1, "resume", value)
 
 
 def pass_on(run, receiver):
     """Exception `pass`."""
     act = handler_of(run, receiver)
-    signal_below(run, receiver, act.held.guard.index)
+    signal_below(run, receiver, act.held.guard.level)
 
 
 def fork(run, receiver):

@@ -20,7 +20,7 @@ def names_of(run):
         names[run.symbols[texts[number]]] = f"s{number}"
     for strand in run.strands:
         for act in strand.acts:
-            names[act] = f"a{strand.number}.{act.index}"
+            names[act] = f"a{strand.number}.{act.level}"
     return names
 
 

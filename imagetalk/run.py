@@ -93,14 +93,14 @@ class Run(Image):
 
     def push(self, act):
         """An activation begins on top of the others."""
-        act.index = len(self.acts)
-        if act.index >= MOST_DEPTH:
+        act.level = len(self.acts)
+        if act.level >= MOST_DEPTH:
             raise Stopped("depth")
         act.process = self.going.number
         self.acts.append(act)
         self.begun += 1
-        if act.index >= self.deepest:
-            self.deepest = act.index + 1
+        if act.level >= self.deepest:
+            self.deepest = act.level + 1
 
     def begin(self, method, receiver, arguments, after):
         """An activation of a method begins."""
@@ -158,7 +158,7 @@ class Run(Image):
         elif after == "way":
             go_on_way(self, act.held)
         elif after == "handler":
-            leave(self, act.held.guard.index, "return", value)
+            leave(self, act.held.guard.level, "return", value)
         else:
             work_remains(self, act.held)
 
@@ -178,7 +178,7 @@ class Run(Image):
         while home.around is not None:
             home = home.around
         if stands(self, home):
-            leave(self, home.index, "return", value)
+            leave(self, home.level, "return", value)
         else:
             act.waits = True
             self.send(act.block, "cannotReturn:", (value,))

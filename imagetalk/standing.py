@@ -48,12 +48,12 @@ def waiting_rows(run):
     return [str(len(groups)), *groups]
 
 
-def held_words(held):
+def bond_words(held):
     """The words for how an activation belongs to a way out, a handling or arguments."""
     if isinstance(held, Way):
         return f" {held.low} {held.arrival}"
     if isinstance(held, Handling):
-        return f" {held.guard.index}"
+        return f" {held.guard.level}"
     if isinstance(held, Remains):
         return f" {held.strand.number}"
     return ""
@@ -116,7 +116,7 @@ class Standing:
         if isinstance(act, Guard):
             return f"{act.kind} {guard_word(act)}"
         after = act.after if act.after is not None else "-"
-        return f"{act.kind} {self.method_words(act)} {act.place} {1 if act.waits else 0} {after}{held_words(act.held)}"
+        return f"{act.kind} {self.method_words(act)} {act.place} {1 if act.waits else 0} {after}{bond_words(act.held)}"
 
     def object_rows(self):
         """The objects that are reached, and what holds them."""

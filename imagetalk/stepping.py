@@ -9,7 +9,7 @@ from imagetalk.ways import gives_up_main
 
 def stands_in(strand, act):
     """Whether an activation of a process has not ended."""
-    return act.index < len(strand.acts) and strand.acts[act.index] == act
+    return act.level < len(strand.acts) and strand.acts[act.level] == act
 
 
 class Moment:

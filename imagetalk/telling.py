@@ -54,7 +54,7 @@ def items_told(items, depth, room):
 def value_tree(value):
     """The tree of a value."""
     counter = TreeCounter()
-    return counter.tree_of(value, 0)
+    return counter.told_tree(value, 0)
 
 
 class TreeCounter:
@@ -63,7 +63,7 @@ class TreeCounter:
     def __init__(self):
         self.many = 0
 
-    def tree_of(self, value, depth):
+    def told_tree(self, value, depth):
         """The tree of a value that lies within so many Arrays and objects."""
         self.many += 1
         if self.many > MOST_TREES:
@@ -77,9 +77,9 @@ class TreeCounter:
         if depth == DEEPEST_VALUE:
             return ("var", "nil")
         if value.is_a("Array"):
-            return ("arr", self.trees_of(value.data, depth + 1))
-        return ("object", value.kind.name, self.trees_of(value.parts, depth + 1))
+            return ("arr", self.told_trees(value.data, depth + 1))
+        return ("object", value.kind.name, self.told_trees(value.parts, depth + 1))
 
-    def trees_of(self, values, depth):
+    def told_trees(self, values, depth):
         """The trees of several values."""
-        return tuple([self.tree_of(value, depth) for value in values])
+        return tuple([self.told_tree(value, depth) for value in values])

@@ -131,7 +131,7 @@ class Activation:
         self.pile = []
         self.around = None
         self.block = None
-        self.index = 0
+        self.level = 0
         self.after = None
         self.held = None
         self.waits = False
@@ -152,7 +152,7 @@ class Guard:
         self.caught = caught
         self.begun = False
         self.kept = None
-        self.index = 0
+        self.level = 0
         self.after = None
         self.held = None
         self.process = 0

@@ -96,7 +96,7 @@ class Twin:
         there.receiver = self.value_of(act.receiver)
         there.block = self.value_of(act.block)
         there.cells = self.values_of(act.cells)
-        there.index = act.index
+        there.level = act.level
         there.process = act.process
         there.place = act.place
 
@@ -123,7 +123,7 @@ class Twin:
             there.argument = self.value_of(act.argument)
             there.begun = act.begun
             there.kept = self.value_of(act.kept)
-            there.index = act.index
+            there.level = act.level
             there.process = act.process
             return
         self.fill_act(act, there)

@@ -44,7 +44,7 @@ def arrive(run, way):
 
 def stands(run, act):
     """Whether an activation is one of the process that goes on."""
-    return act.index < len(run.acts) and run.acts[act.index] == act
+    return act.level < len(run.acts) and run.acts[act.level] == act
 
 
 def handler_for(run, exception, bound):
@@ -53,12 +53,12 @@ def handler_for(run, exception, bound):
     lowest = len(run.acts)
     for act in reversed(run.acts):
         if act.after == "handler":
-            bound = min(bound, act.held.guard.index)
-        elif act.after == "way" and lowest >= act.index:
+            bound = min(bound, act.held.guard.level)
+        elif act.after == "way" and lowest >= act.level:
             # A way out that was left for one further above bars its handlers again.
             lowest = act.held.low
             bound = min(bound, lowest)
-        elif act.kind == "handle" and act.index < bound and act.caught in line:
+        elif act.kind == "handle" and act.level < bound and act.caught in line:
             return act
     return None
 

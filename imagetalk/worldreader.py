@@ -105,9 +105,9 @@ class WorldReader:
             strand.gone = gone == 1
             for row in self.next_rows(acts):
                 act = new_act(row)
-                act.index = len(strand.acts)
+                act.level = len(strand.acts)
                 act.process = strand.number
-                self.named[f"a{strand.number}.{act.index}"] = act
+                self.named[f"a{strand.number}.{act.level}"] = act
                 strand.acts.append(act)
                 rows.append((act, row))
         run.acts = run.going.acts
