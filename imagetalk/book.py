@@ -8,7 +8,8 @@ CLASS_WORD = " class"
 class Book:
     """The classes of a program and of the kernel.
 
-    methods has what was read of the program's methods, by class and selector, sources what was read of each source.
+    methods has what was read of the program's methods, by class and selector, texts the sources of each class, sources
+    what was read of each source, None for what is none.
     """
 
     def __init__(self):
@@ -17,6 +18,7 @@ class Book:
         self.all_fields = {}
         self.own_names = []
         self.methods = {}
+        self.texts = {}
         self.main = None
         self.sources = {}
 

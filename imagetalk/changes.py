@@ -3,9 +3,8 @@
 from imagetalk.errors import BadClass, Busy
 from imagetalk.holding import names_of, reached_nodes
 from imagetalk.programs import changed_by_dropping, changed_by_fields, changed_by_method
-from imagetalk.standing import methods_at_work
 from imagetalk.stock import Stock
-from imagetalk.things import Kind, Thing
+from imagetalk.things import Activation, Closure, Kind
 
 
 def next_stock(stock, program, book, changed):
@@ -13,22 +12,25 @@ def next_stock(stock, program, book, changed):
     after = Stock(program, book, {})
     after.kinds = {name: kind for name, kind in stock.kinds.items() if name not in changed}
     after.own = {key: method for key, method in stock.own.items() if key[0] not in changed}
+    after.lasting = stock.lasting
     after.main = stock.main
     return after
 
 
 def put_method_in(run, name, source):
     """A class has this method from now on."""
-    program, book = changed_by_method(run.stock.source_program, name, source)
+    stock = run.stock
+    program, book = changed_by_method(stock.source_program, stock.book, name, source)
     selector = book.sources[source].tree[1]
-    run.stock = stock_without(run.stock, program, book, (name, selector))
+    run.stock = stock_without(stock, program, book, (name, selector))
     run.put_literals(run.stock.method_of_program(name, selector))
 
 
 def drop_method_of(run, name, selector):
     """A class has no method with this selector from now on."""
-    program, book = changed_by_dropping(run.stock.source_program, name, selector)
-    run.stock = stock_without(run.stock, program, book, (name, selector))
+    stock = run.stock
+    program, book = changed_by_dropping(stock.source_program, stock.book, name, selector)
+    run.stock = stock_without(stock, program, book, (name, selector))
 
 
 def stock_without(stock, program, book, key):
@@ -43,7 +45,7 @@ def change_fields_of(run, name, fields):
     stock = run.stock
     if not isinstance(name, str) or name not in stock.book.own_names:
         raise BadClass("no class of the program's own")
-    program, book = changed_by_fields(stock.source_program, name, fields)
+    program, book = changed_by_fields(stock.source_program, stock.book, name, fields)
     changed = [below for below in stock.book.own_names if name in stock.book.line_of_class(below)]
     if is_at_work(run, changed):
         raise Busy("a method of the class is at work")
@@ -51,15 +53,22 @@ def change_fields_of(run, name, fields):
     for key, method in list(stock.own.items()):
         if key[0] in changed and method in run.literals:
             run.literals[run.stock.method_of_program(*key)] = run.literals.pop(method)
-    for thing in run.things:
-        if isinstance(thing, Thing):
-            change_thing(run.stock, thing, changed)
+    for thing in [*run.classes.values(), *run.things]:
+        change_thing(run.stock, thing, changed)
 
 
 def is_at_work(run, names):
     """Whether an activation is of a method that one of these classes has, or had."""
+    for strand in run.strands:
+        for act in strand.acts:
+            if isinstance(act, Activation) and act.method.kind.name in names:
+                return True
+    # All activations in which a Block was made, and around that, are of one method.
+    blocks = [thing.data.around.method for thing in run.things if isinstance(thing.data, Closure)]
+    if not any([method.kind.name in names for method in blocks]):
+        return False
     nodes = reached_nodes(run, names_of(run))
-    return any([method.kind.name in names for method in methods_at_work(run, nodes)])
+    return any([isinstance(node, Activation) and node.method.kind.name in names for node in nodes])
 
 
 def change_thing(stock, thing, changed):

@@ -3,7 +3,7 @@
 from imagetalk.codes import DEEPEST_BODIES, head_fits, is_code, is_literal, is_selector
 from imagetalk.errors import BadSource, BadText
 from imagetalk.reader import parsed_array
-from imagetalk.writer import joined, tree_words
+from imagetalk.writer import literal_text
 
 # Longer runs of digits cannot have been written.
 MOST_DIGITS_READ = 4000
@@ -11,8 +11,7 @@ MOST_DIGITS_READ = 4000
 
 def literal_row(tree):
     """The row of a literal."""
-    text = joined(tree_words(tree))
-    return "= " + text.replace("\\", "\\\\").replace("\n", "\\n")
+    return "= " + literal_text(tree).replace("\\", "\\\\").replace("\n", "\\n")
 
 
 def code_row(place, code):

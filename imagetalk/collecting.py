@@ -2,13 +2,12 @@
 
 from imagetalk.holding import names_of, program_methods, reached_nodes
 from imagetalk.standing import methods_at_work
-from imagetalk.things import Thing
 
 
 def kept_things(run, names, nodes):
-    """The objects of the image that stay, in their order."""
+    """The objects of the image, behind the first ones, that stay, in their order."""
     found = {node: True for node in nodes}
-    return [thing for thing in run.things if not isinstance(thing, Thing) or thing in found or thing in names]
+    return [thing for thing in run.things if thing in found or thing in names]
 
 
 def garbage_many(run):

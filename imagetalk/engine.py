@@ -10,6 +10,13 @@ from imagetalk.things import Stopped
 NO_END = 1000000000000
 
 
+def begun(stock, sends, in_place):
+    """The run of a program, at its beginning."""
+    run = Machine(stock, sends, in_place)
+    run.start()
+    return run
+
+
 class Machine(Run):
     """A run that goes over codes."""
 

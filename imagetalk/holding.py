@@ -7,6 +7,31 @@ from imagetalk.book import CLASS_WORD
 from imagetalk.things import Activation, Closure, Guard, Handling, Remains, Thing, Way
 
 
+def made_row(method):
+    """What two methods have in common that do the same in the same class."""
+    return (method.kind.name, method.selector, method.trees, method.body)
+
+
+def waiting_rows(run):
+    """For each Semaphore that is waited at the numbers of the processes that wait, in their order."""
+    rows = []
+    for strand in run.strands:
+        if strand.waits_at is not None:
+            row = [other.number for other in strand.waits_at.data.waiting]
+            if row not in rows:
+                rows.append(row)
+    return rows
+
+
+def bond_parts(held):
+    """How an activation belongs to a way out, a handling or arguments."""
+    if isinstance(held, Way):
+        return (held.low, held.arrival)
+    if isinstance(held, Handling):
+        return (held.guard.level,)
+    return (held.strand.number,) if isinstance(held, Remains) else ()
+
+
 def class_word(name):
     """A word for a class, without a blank."""
     return "m" + name.removesuffix(CLASS_WORD) if name.endswith(CLASS_WORD) else "c" + name
@@ -27,7 +52,7 @@ def names_of(run):
 def program_methods(run):
     """The methods of the program as it is that have literals as objects, main at the end."""
     stock = run.stock
-    return [*[stock.own[key] for key in stock.method_keys() if key in stock.own], stock.main]
+    return [*[stock.own[key] for key in stock.literal_keys if key in stock.own], stock.main]
 
 
 def literals_of(run, method):
@@ -35,9 +60,10 @@ def literals_of(run, method):
     return run.literals.get(method, [])
 
 
-def class_values(run):
-    """What the fields of the program's classes hold."""
-    return [value for name in run.stock.book.own_names for value in run.classes[name].parts]
+def class_parts(run, name):
+    """What the fields of one of the program's classes hold, nothing if that is nil throughout."""
+    parts = run.classes[name].parts if name in run.classes else []
+    return parts if any([value is not None for value in parts]) else []
 
 
 def strand_values(strand):
@@ -56,11 +82,11 @@ def held_values(held):
     return []
 
 
-def act_values(run, act):
-    """What an activation holds that has not ended."""
+def act_rows(run, act):
+    """What an activation holds that has not ended, in rows."""
     if isinstance(act, Guard):
-        return [act.block, act.argument, act.kept]
-    return [*kept_values(run, act), *act.pile, *held_values(act.held)]
+        return [[act.block, act.argument, act.kept]]
+    return [kept_values(run, act), act.pile, held_values(act.held)]
 
 
 def kept_values(run, act):
@@ -68,13 +94,13 @@ def kept_values(run, act):
     return [act.receiver, act.block, act.around, *act.cells, *literals_of(run, act.method)]
 
 
-def roots(run):
-    """All that is held by the run itself and by what has not ended, in order."""
-    values = class_values(run)
-    literals = [value for method in program_methods(run) for value in literals_of(run, method)]
-    strands = [value for strand in run.strands for value in strand_values(strand)]
-    acts = [value for strand in run.strands for act in strand.acts for value in act_values(run, act)]
-    return [*values, *literals, *strands, *acts, run.final]
+def root_rows(run):
+    """All that is held by the run itself and by what has not ended, in order, in rows."""
+    rows = [class_parts(run, name) for name in run.stock.book.own_names]
+    rows.extend([literals_of(run, method) for method in program_methods(run)])
+    rows.extend([strand_values(strand) for strand in run.strands])
+    rows.extend([row for strand in run.strands for act in strand.acts for row in act_rows(run, act)])
+    return [*rows, [run.final]]
 
 
 def node_values(run, node):
@@ -88,7 +114,7 @@ def node_values(run, node):
 
 def reached_nodes(run, names):
     """The objects and ended activations that are reached, but for those with names of their own."""
-    waiting = list(roots(run))
+    waiting = [value for row in root_rows(run) for value in row]
     found = {}
     at = 0
     while at < len(waiting):

@@ -8,8 +8,16 @@ MOST_OBJECTS = 2000
 MOST_SIGNS = 2000
 
 
+# The objects ahead of the classes, by what is told of them.
+FIRST_OBJECTS = ("nil", "true", "false")
+
+
 class Image:
-    """The objects of a run of a program; things has them by their numbers, if all classes were put there at first."""
+    """The objects of a run of a program.
+
+    The first ones are nil, true, false and the classes, which are made when they are asked for; things has all others,
+    in the order of their numbers.
+    """
 
     def __init__(self, stock):
         self.stock = stock
@@ -28,7 +36,7 @@ class Image:
         """The object that is the class with this name."""
         if name not in self.classes:
             kind = self.stock.kind_named(class_of_class(name))
-            self.classes[name] = self.put(Thing(kind, self.stock.kind_named(name)))
+            self.classes[name] = Thing(kind, self.stock.kind_named(name))
         return self.classes[name]
 
     def class_thing(self, kind):
@@ -56,12 +64,20 @@ class Image:
         self.things.append(thing)
         return thing
 
-    def put_classes(self):
-        """nil, true, false and all classes become objects."""
-        self.things.extend([None, True, False])
+    def first_told(self):
+        """What is told of nil, true, false and the classes, by their numbers."""
+        rows = list(FIRST_OBJECTS)
         for name in self.stock.book.parents:
-            self.class_named(name)
-            self.class_named(name + CLASS_WORD)
+            rows.append(name)
+            rows.append(name + CLASS_WORD)
+        return rows
+
+    def thing_at(self, number):
+        """The object with this number, None for nil, true and false."""
+        first = self.first_told()
+        if number >= len(first):
+            return self.things[number - len(first)]
+        return None if number < len(FIRST_OBJECTS) else self.class_named(first[number])
 
     def put_literals(self, method):
         """The literals of a method become objects."""

@@ -2,19 +2,12 @@
 
 from imagetalk.classes import book_with, check_selector
 from imagetalk.counts import MOST_CODES_DONE, MOST_SENDS, check_codes, check_sends, is_integer
-from imagetalk.engine import NO_END, Machine
+from imagetalk.engine import NO_END, begun
 from imagetalk.errors import BadCount, BadPlaces
 from imagetalk.judged import can_have_places
 from imagetalk.moments import moment_of
 from imagetalk.programread import read_program
 from imagetalk.stock import Stock
-
-
-def begun(stock, sends, in_place):
-    """The run of a program, at its beginning."""
-    run = Machine(stock, sends, in_place)
-    run.start()
-    return run
 
 
 def worked(program, sends, in_place):

@@ -12,7 +12,7 @@ from imagetalk.programs import changed_by_method
 
 def make(program, name, source, *, in_place=True):
     """The made method that a source becomes in a class of the program's own."""
-    _, book = changed_by_method(program, name, source)
+    _, book = changed_by_method(program, read_program(program), name, source)
     return made_from(book.sources[source], book.fields_of_class(name), False, in_place)
 
 

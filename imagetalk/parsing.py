@@ -5,9 +5,6 @@ from imagetalk.reader import BODY_SELECTOR, Reader
 from imagetalk.treeparts import DEEPEST, declared_names, depth_of, free_names, has_own_variables, literal_trees
 from imagetalk.words import words_of
 
-OPENING = ("(", "[", "#(")
-CLOSING = (")", "]")
-
 
 class Parsed:
     """The tree of a source, of any depth; the names that are free and those that are declared; its literals.
@@ -37,13 +34,28 @@ def parsed_body(source):
 def parsed_source(source, with_pattern):
     """What is read of a source, quickly if it can be."""
     words = words_of(source)
+    parsed = parsed_quickly(source, words, with_pattern)
+    return parsed_slowly(source, words, with_pattern) if parsed is None else parsed
+
+
+def parsed_quickly(source, words, with_pattern):
+    """What is read of words, with places or without, by recursion; None if that cannot be or something bars it."""
     quick = Quick(words)
     try:
         tree = quick.read_method() if with_pattern else quick.read_body(BODY_SELECTOR, ())
     except Unsure:
-        return parsed_slowly(source, words, with_pattern)
-    shallow = surely_shallow(source, words, with_pattern) or depth_of(tree) <= DEEPEST
+        return None
+    shallow = surely_shallow(source, len(words) + 1, quick.longest) or depth_of(tree) <= DEEPEST
     return Parsed(tree, list(quick.free), quick.declared, quick.literals, quick.keeps, shallow)
+
+
+def surely_shallow(source, many, longest):
+    """Whether there are too few words for too many trees, in all or in a statement: each tree has one of its own."""
+    if longest < DEEPEST:
+        return True
+    if "'" in source or "\"" in source:
+        return False
+    return many - source.count(")") - source.count("]") - source.count(".") <= DEEPEST
 
 
 def parsed_slowly(source, words, with_pattern):
@@ -52,32 +64,3 @@ def parsed_slowly(source, words, with_pattern):
     tree = reader.read_pattern() if with_pattern else reader.read_method(BODY_SELECTOR, [])
     keeps = has_own_variables(tree)
     return Parsed(tree, free_names(tree), declared_names(tree), literal_trees(tree), keeps, depth_of(tree) <= DEEPEST)
-
-
-def surely_shallow(source, words, with_pattern):
-    """Whether there are too few words for too many trees: each tree has one of its own, the method in its pattern."""
-    many = len(words) if with_pattern else len(words) + 1
-    if many <= DEEPEST:
-        return True
-    if "'" not in source and "\"" not in source:
-        if many - source.count(")") - source.count("]") - source.count(".") <= DEEPEST:
-            return True
-    return longest_statement(words) < DEEPEST
-
-
-def longest_statement(words):
-    """How many words the longest one of the statements has that are in no brackets."""
-    longest = 0
-    many = 0
-    opened = 0
-    for kind, word, _ in words:
-        many += 1
-        if kind == "sign":
-            if word == "." and opened == 0:
-                longest = max(longest, many)
-                many = 0
-            elif word in OPENING:
-                opened += 1
-            elif word in CLOSING:
-                opened -= 1
-    return max(longest, many)

@@ -56,15 +56,19 @@ def without_strings(source, texts):
     return code
 
 
+def set_apart(code):
+    """The code with blanks around all signs but `:`, and a sign in the place of each `#(`."""
+    if "#(" in code:
+        code = code.replace("#(", f" {ARRAY} ")
+    code = code.replace("(", " ( ").replace(")", " ) ").replace("[", " [ ").replace("]", " ] ").replace(".", " . ")
+    return code.replace(";", " ; ").replace("^", " ^ ").replace("|", " | ").replace(":=", " := ")
+
+
 def words_in(source, code, texts):
     """The words of the code of a source, with the texts of its strings, the last one first; None if it is not plain."""
-    if "#(" in code:
-        code = code.replace("#(", " @ ")
-    code = code.replace("(", " ( ").replace(")", " ) ").replace("[", " [ ").replace("]", " ] ").replace(".", " . ")
-    code = code.replace(";", " ; ").replace("^", " ^ ").replace("|", " | ").replace(":=", " := ")
     words = []
     place = 0
-    for chunk in code.split():
+    for chunk in set_apart(code).split():
         kind = FIXED.get(chunk)
         value = chunk
         if kind is None and len(chunk) <= LONGEST_NAME:

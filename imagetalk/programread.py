@@ -3,8 +3,9 @@
 from imagetalk.book import CLASS_WORD, Book
 from imagetalk.errors import BadProgram, BadSource
 from imagetalk.kernel import IN_PLACE, PARENTS
+from imagetalk.manywords import words_of_all
 from imagetalk.names import are_fields, is_class_word
-from imagetalk.parsing import parsed_body, parsed_method
+from imagetalk.parsing import parsed_quickly, parsed_source
 
 MOST_CLASSES = 12
 MOST_METHODS = 20
@@ -13,21 +14,21 @@ DEFINITION_PARTS = 6
 
 def read_program(thing):
     """The Book of a program."""
-    judge = Judge({}, False)
+    judge = Judge(Book(), False)
     judge.read(thing)
     return judge.book
 
 
 def read_beside(thing, book):
     """The Book of a program that has perhaps the sources of another one, too."""
-    judge = Judge(book.sources, False)
+    judge = Judge(book, False)
     judge.read(thing)
     return judge.book
 
 
 def read_changed(thing, book):
     """The Book of a program that another one became; sources that are too deep are taken as well."""
-    judge = Judge(book.sources, True)
+    judge = Judge(book, True)
     judge.read(thing)
     return judge.book
 
@@ -43,13 +44,14 @@ def are_sources(thing):
 
 
 class Judge:
-    """What has been read of an object that should be a program."""
+    """What has been read of an object that should be a program, beside another program that has been read."""
 
-    def __init__(self, sources, any_depth):
+    def __init__(self, before, any_depth):
+        self.before = before
         self.any_depth = any_depth
         self.book = Book()
-        self.book.sources = sources
         self.defined = {}
+        self.same_names = False
 
     def read(self, thing):
         """Reads the whole, as far as it is right."""
@@ -58,17 +60,44 @@ class Judge:
         classes, main = thing
         if not isinstance(classes, tuple) or len(classes) > MOST_CLASSES:
             raise BadProgram(())
-        self.defined = {definition[0]: True for definition in classes if is_definition(definition)}
+        definitions = [definition for definition in classes if is_definition(definition)]
+        self.defined = {definition[0]: True for definition in definitions}
+        self.same_names = {name: True for name in self.before.own_names} == self.defined
+        self.read_sources(definitions, main)
+        book = self.book
         for index, definition in enumerate(classes):
             if not self.definition_fits(definition):
                 raise BadProgram((index,))
             name, parent, fields, class_fields, methods, class_methods = definition
-            self.book.put_class(name, parent, fields, class_fields)
+            book.put_class(name, parent, fields, class_fields)
             self.read_methods(index, 0, name, methods)
             self.read_methods(index, 1, name + CLASS_WORD, class_methods)
-        self.book.main = self.parsed_main(main)
-        if self.book.main is None or not self.names_fit(self.book.main, ()):
+        book.main = self.taken((main,)) if isinstance(main, str) else None
+        if book.main is None or not self.names_fit(book.main, ()):
             raise BadProgram(("main",))
+
+    def read_sources(self, definitions, main):
+        """Reads all sources; that of main is kept apart from those of methods, by itself in a tuple."""
+        wanted = {}
+        for definition in definitions:
+            for sources in definition[4:]:
+                if are_sources(sources):
+                    for source in sources:
+                        if isinstance(source, str):
+                            wanted[source] = True
+        if isinstance(main, str):
+            wanted[(main,)] = True
+        known = self.before.sources
+        found = self.book.sources
+        missing = []
+        for key in wanted:
+            if key in known:
+                found[key] = known[key]
+            else:
+                missing.append(key)
+        if missing:
+            for key, parsed in zip(missing, parsed_all(missing)):
+                found[key] = parsed
 
     def definition_fits(self, thing):
         """Whether it is a definition, apart from what its methods are."""
@@ -93,52 +122,57 @@ class Judge:
         return not any([field in above for field in thing])
 
     def read_methods(self, index, side, owner, sources):
-        """Reads the methods of a class or of its NAME class."""
-        fields = self.book.fields_of_class(owner)
+        """Takes the methods of a class or of its NAME class, if they fit."""
+        book = self.book
+        before = self.before
+        fields = book.fields_of_class(owner)
+        book.texts[owner] = sources
+        if self.same_names and before.texts[owner] == sources and before.fields_of_class(owner) == fields:
+            book.methods[owner] = before.methods[owner]
+            return
         methods = {}
         for number, source in enumerate(sources):
-            parsed = self.parsed_source(source)
+            parsed = self.taken(source) if isinstance(source, str) else None
             if parsed is None or not self.names_fit(parsed, fields):
                 raise BadProgram((index, side, number))
             selector = parsed.tree[1]
             if selector in methods or selector in IN_PLACE:
                 raise BadProgram((index, side, number))
             methods[selector] = parsed
-        self.book.methods[owner] = methods
+        book.methods[owner] = methods
 
-    def parsed_source(self, source):
-        """What is read of the source of a method, None if it is none or too deep."""
-        if not isinstance(source, str):
-            return None
-        sources = self.book.sources
-        if source not in sources:
-            sources[source] = parsed_or_none(parsed_method, source)
-        return self.if_taken(sources[source])
-
-    def parsed_main(self, source):
-        """As parsed_source, of main, which is kept apart from the methods."""
-        if not isinstance(source, str):
-            return None
-        sources = self.book.sources
-        if (source,) not in sources:
-            sources[(source,)] = parsed_or_none(parsed_body, source)
-        return self.if_taken(sources[(source,)])
-
-    def if_taken(self, parsed):
-        """What was read, None if it is too deep."""
+    def taken(self, key):
+        """What was read of a source, None if it is none or too deep."""
+        parsed = self.book.sources[key]
         return parsed if parsed is None or parsed.shallow or self.any_depth else None
 
     def names_fit(self, parsed, fields):
         """Whether a method reads and sets nothing but these fields and classes, and declares none of the fields."""
         for name in parsed.free:
-            if name not in fields and name not in self.book.parents and name not in self.defined:
+            if name not in fields and name not in self.defined and name not in self.book.parents:
                 return False
-        return not fields or not any([name in fields for name in parsed.declared])
+        for name in parsed.declared:
+            if name in fields:
+                return False
+        return True
 
 
-def parsed_or_none(parse, source):
+def parsed_all(keys):
+    """What is read of each of these sources of methods, or of main in a tuple, None for what is none."""
+    sources = [key if isinstance(key, str) else key[0] for key in keys]
+    rows = words_of_all(sources)
+    found = []
+    for number, source in enumerate(sources):
+        with_pattern = isinstance(keys[number], str)
+        words = None if rows is None else rows[number]
+        parsed = None if words is None else parsed_quickly(source, words, with_pattern)
+        found.append(parsed_or_none(source, with_pattern) if parsed is None else parsed)
+    return found
+
+
+def parsed_or_none(source, with_pattern):
     """What is read of a source, None if it is none."""
     try:
-        return parse(source)
+        return parsed_source(source, with_pattern)
     except BadSource:
         return None

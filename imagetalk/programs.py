@@ -57,13 +57,12 @@ def first_place_unlike(trees, others):
 
 def with_method(program, name, source):
     """The program in which a class has this method."""
-    changed, _ = changed_by_method(program, name, source)
+    changed, _ = changed_by_method(program, read_program(program), name, source)
     return changed
 
 
-def changed_by_method(program, name, source):
-    """The program in which a class has this method, and its Book."""
-    book = read_program(program)
+def changed_by_method(program, book, name, source):
+    """The program in which a class has this method, and its Book; that of the program is known."""
     index, side = own_place(book, name)
     parsed = parsed_method(source)
     sources = program[0][index][4 + side]
@@ -76,13 +75,12 @@ def changed_by_method(program, name, source):
 
 def without_method(program, name, selector):
     """The program in which a class has no method with this selector."""
-    changed, _ = changed_by_dropping(program, name, selector)
+    changed, _ = changed_by_dropping(program, read_program(program), name, selector)
     return changed
 
 
-def changed_by_dropping(program, name, selector):
-    """The program in which a class has no method with this selector, and its Book."""
-    book = read_program(program)
+def changed_by_dropping(program, book, name, selector):
+    """The program in which a class has no method with this selector, and its Book; that of the program is known."""
     index, side = own_place(book, name)
     if not isinstance(selector, str) or selector not in book.methods[name]:
         raise NoMethod("no method that the class itself has")
@@ -94,13 +92,12 @@ def changed_by_dropping(program, name, selector):
 
 def with_fields(program, name, fields):
     """The program in which a class has other own fields."""
-    changed, _ = changed_by_fields(program, name, fields)
+    changed, _ = changed_by_fields(program, read_program(program), name, fields)
     return changed
 
 
-def changed_by_fields(program, name, fields):
-    """The program in which a class has other own fields, and its Book."""
-    book = read_program(program)
+def changed_by_fields(program, book, name, fields):
+    """The program in which a class has other own fields, and its Book; that of the program is known."""
     index, side = own_place(book, name)
     if not are_fields(fields):
         raise BadFields("not a tuple of own fields")

@@ -3,6 +3,7 @@
 What cannot be read so, for whatever reason, raises Unsure.
 """
 
+from imagetalk.lines import CASCADED, SUPER, sent
 from imagetalk.names import LONGEST_SELECTOR, MOST_PARAMETERS, SPOKEN_WORDS
 
 # How many brackets and sets are read within one another.
@@ -10,6 +11,8 @@ MOST_NESTED = 30
 
 # The names that are never free; as if they were parameters, since they cannot be set.
 KNOWN = {"self": True, "nil": True, "true": True, "false": True}
+
+END = ("end", "", 0)
 
 
 class Unsure(Exception):
@@ -20,17 +23,19 @@ class Quick:
     """The words of a source that are left, the last one first, and what is known of those that were read.
 
     free has the names that are read or set where they are not declared, literals the strings, symbols and arrays, like
-    symbols once, keeps tells whether a block has variables of its own.
+    symbols once, keeps tells whether a block has variables of its own, longest how many words the longest one of the
+    statements has that are in no block.
     """
 
     def __init__(self, words):
-        self.words = [("end", "", 0)] + list(reversed(words))
+        self.words = [END, *words[::-1]]
         self.known = dict(KNOWN)
         self.free = {}
         self.declared = []
         self.literals = []
         self.keeps = False
         self.nested = 0
+        self.longest = 0
 
     def declare(self, names, as_parameter):
         """Reads a parameter or a variable."""
@@ -45,6 +50,8 @@ class Quick:
         """The tree of a method."""
         words = self.words
         kind, selector, _ = words.pop()
+        if kind == "name":
+            return self.read_body(selector, ())
         parameters = []
         if kind == "keyword":
             self.declare(parameters, True)
@@ -55,7 +62,7 @@ class Quick:
                 raise Unsure("too long a pattern")
         elif kind == "op":
             self.declare(parameters, True)
-        elif kind != "name":
+        else:
             raise Unsure("no pattern")
         return self.read_body(selector, tuple(parameters))
 
@@ -67,8 +74,7 @@ class Quick:
     def read_variables(self):
         """Reads the variables, if there are some."""
         words = self.words
-        kind, word, _ = words[-1]
-        if word != "|" or kind != "sign":
+        if not self.at_sign("|"):
             return ()
         words.pop()
         names = []
@@ -84,14 +90,17 @@ class Quick:
         trees = []
         kind, word, _ = words[-1]
         while kind != closer or word != value:
-            returns = kind == "sign" and word == "^"
+            many = len(words)
+            returns = word == "^" and kind == "sign"
             if returns:
                 words.pop()
                 trees.append(("return", self.read_expression()))
             else:
                 trees.append(self.read_expression())
+            if self.nested == 0 and many - len(words) > self.longest:
+                self.longest = many - len(words)
             kind, word, _ = words[-1]
-            if kind == "sign" and word == ".":
+            if word == "." and kind == "sign":
                 words.pop()
                 kind, word, _ = words[-1]
             elif kind != closer or word != value:
@@ -104,24 +113,30 @@ class Quick:
     def read_expression(self):
         """Reads an expression."""
         words = self.words
-        kind, word, _ = words[-1]
+        kind, word, _ = words.pop()
         if kind == "name":
-            words.pop()
             follows, sign, _ = words[-1]
-            if follows == "sign" and sign == ":=":
+            if sign == ":=" and follows == "sign":
                 words.pop()
                 return self.set_name(word)
-            tree = ("var", word)
-            if word not in self.known:
-                if word == "super":
-                    return self.read_super_expression()
-                self.free[word] = True
+            if word in self.known:
+                tree = ("var", word)
+            else:
+                tree = self.read_free(word, ("op", "keyword"))
+                follows, sign, _ = words[-1]
         else:
-            tree = self.read_primary()
+            tree = self.read_other(kind, word)
             follows, sign, _ = words[-1]
-        if follows == "end" or (follows == "sign" and sign != ";"):
+        if follows == "end":
             return tree
-        return self.read_messages(tree)
+        if follows != "sign":
+            tree = self.read_messages(tree)
+            if words[-1][1] != ";" or words[-1][0] != "sign":
+                return tree
+            return self.read_cascade(tree)
+        if sign == ";":
+            raise Unsure("no message ahead of a cascade")
+        return tree
 
     def set_name(self, name):
         """Reads what a name is set to."""
@@ -141,113 +156,74 @@ class Quick:
             raise Unsure("too deep")
 
     def read_messages(self, tree):
-        """Reads one or more messages to a tree, and perhaps a cascade of them."""
+        """Reads the messages to a tree, of which there is one at least unless the tree is to have a cascade's."""
         words = self.words
-        kind = words[-1][0]
-        if kind == "sign":
-            raise Unsure("no message ahead of a cascade")
-        while kind == "name":
-            tree = ("send", tree, words.pop()[1], ())
-            kind = words[-1][0]
-        while kind == "op":
-            operator = words.pop()[1]
-            tree = ("send", tree, operator, (self.read_unary(),))
-            kind = words[-1][0]
-        if kind == "keyword":
-            selector, arguments = self.read_keywords()
-            tree = ("send", tree, selector, arguments)
-            kind = words[-1][0]
-        if kind == "sign" and words[-1][1] == ";":
-            return self.read_cascade(tree)
-        return tree
-
-    def read_keywords(self):
-        """Reads keywords with their arguments."""
-        words = self.words
+        left = None
+        head = None
         selector = ""
         arguments = []
-        while words[-1][0] == "keyword":
-            selector += words.pop()[1]
-            arguments.append(self.read_operand())
+        while True:
+            newest = words.pop()
+            kind, word, _ = newest
+            while kind == "name":
+                tree = ("send", tree, word, ())
+                newest = words.pop()
+                kind, word, _ = newest
+            if left is not None:
+                tree = sent(left, operator, (tree,))
+                left = None
+            if kind == "op":
+                left = tree
+                operator = word
+            else:
+                if head is None:
+                    head = tree
+                else:
+                    arguments.append(tree)
+                if kind != "keyword":
+                    break
+                selector += word
+            tree = self.read_operand(() if kind == "op" else ("op",))
+        words.append(newest)
         if len(selector) > LONGEST_SELECTOR:
             raise Unsure("too long a selector")
-        return (selector, tuple(arguments))
+        return sent(head, selector, tuple(arguments)) if selector else tree
+
+    def read_operand(self, follows_super):
+        """Reads what stands behind an operator or a keyword, without its messages; but super with a unary one."""
+        kind, word, _ = self.words.pop()
+        if kind != "name":
+            return self.read_other(kind, word)
+        return ("var", word) if word in self.known else self.read_free(word, follows_super)
+
+    def read_free(self, name, follows_super):
+        """A name that is not known: perhaps super, with a unary message or ahead of a message of one of these kinds."""
+        if name != "super":
+            self.free[name] = True
+            return ("var", name)
+        kind, word, _ = self.words[-1]
+        if kind == "name":
+            self.words.pop()
+            return ("super", word, ())
+        if kind not in follows_super:
+            raise Unsure("no message to super")
+        return SUPER
 
     def read_cascade(self, tree):
         """Reads the messages behind the first one, which is this tree."""
-        words = self.words
+        if tree[0] != "send":
+            raise Unsure("a cascade to super")
         messages = [tree[2:]]
         while self.at_sign(";"):
-            words.pop()
-            kind, word, _ = words[-1]
-            if kind == "name":
-                words.pop()
-                messages.append((word, ()))
-            elif kind == "op":
-                words.pop()
-                messages.append((word, (self.read_unary(),)))
-            elif kind == "keyword":
-                messages.append(self.read_keywords())
-            else:
-                raise Unsure("no message in a cascade")
+            self.words.pop()
+            message = self.read_messages(CASCADED)
+            if message == CASCADED or message[1] != CASCADED:
+                raise Unsure("no message in a cascade, or more than one")
+            messages.append(message[2:])
         return ("cascade", tree[1], tuple(messages))
 
-    def read_super_expression(self):
-        """Reads the message to super, and those behind it."""
-        words = self.words
-        kind = words[-1][0]
-        if kind == "keyword":
-            selector, arguments = self.read_keywords()
-            tree = ("super", selector, arguments)
-        else:
-            tree = self.read_super_operand()
-        if words[-1][0] in ("name", "op", "keyword"):
-            return self.read_messages(tree)
-        if self.at_sign(";"):
-            raise Unsure("a cascade to super")
-        return tree
-
-    def read_super_operand(self):
-        """Reads a message to super that is a name or an operator."""
-        kind, word, _ = self.words.pop()
-        if kind == "name":
-            return ("super", word, ())
-        if kind == "op":
-            return ("super", word, (self.read_unary(),))
-        raise Unsure("no message to super")
-
-    def read_operand(self):
-        """Reads the argument of a keyword."""
-        words = self.words
-        if words[-1][:2] == ("name", "super"):
-            words.pop()
-            tree = self.read_super_operand()
-            while words[-1][0] == "name":
-                tree = ("send", tree, words.pop()[1], ())
-        else:
-            tree = self.read_unary()
-        while words[-1][0] == "op":
-            operator = words.pop()[1]
-            tree = ("send", tree, operator, (self.read_unary(),))
-        return tree
-
-    def read_unary(self):
-        """Reads a primary with unary messages."""
-        words = self.words
-        tree = self.read_primary()
-        while words[-1][0] == "name":
-            tree = ("send", tree, words.pop()[1], ())
-        return tree
-
-    def read_primary(self):
-        """Reads a primary; super with a unary message, too."""
-        kind, word, _ = self.words.pop()
-        if kind == "name":
-            if word not in self.known:
-                if word == "super":
-                    return self.read_super_unary()
-                self.free[word] = True
-            return ("var", word)
+    def read_other(self, kind, word):
+        """The primary that begins with a word that is no name."""
         if kind == "int":
             return ("int", word)
         if kind == "str" or kind == "sym":
@@ -258,13 +234,6 @@ class Quick:
         if kind != "sign":
             raise Unsure("no primary")
         return self.read_bracket(word)
-
-    def read_super_unary(self):
-        """Reads a message to super that is a name."""
-        kind, word, _ = self.words.pop()
-        if kind != "name":
-            raise Unsure("no message to super")
-        return ("super", word, ())
 
     def read_bracket(self, sign):
         """Reads what begins with a sign."""

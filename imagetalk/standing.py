@@ -1,20 +1,12 @@
-"""Where a run stands, told in rows that do not hang on the numbers of objects and activations.
-
-Nothing here changes anything, as worlds are compared by it.
-"""
+"""Where a run stands, told in rows that do not hang on the numbers of objects and activations."""
 
 from imagetalk.codes import all_bodies
-from imagetalk.holding import literals_of, names_of, program_methods, reached_nodes
-from imagetalk.programs import where_unlike
-from imagetalk.things import Activation, Closure, Guard, Handling, Remains, Signals, Strand, Way
+from imagetalk.holding import bond_parts, class_parts, held_values, literals_of, made_row, names_of, program_methods
+from imagetalk.holding import reached_nodes, waiting_rows
+from imagetalk.things import Activation, Closure, Guard, Signals, Strand
 
 # What stands between the parts of a row.
 PART = " |"
-
-
-def made_row(method):
-    """What two methods have in common that do the same in the same class."""
-    return (method.kind.name, method.selector, method.trees, method.body)
 
 
 def methods_at_work(run, nodes):
@@ -37,28 +29,6 @@ def made_rows(methods):
     return rows
 
 
-def waiting_rows(run):
-    """How many Semaphores are waited at, and for each one the processes that wait, in their order."""
-    groups = []
-    for strand in run.strands:
-        if strand.waits_at is not None:
-            row = " ".join([str(other.number) for other in strand.waits_at.data.waiting])
-            if row not in groups:
-                groups.append(row)
-    return [str(len(groups)), *groups]
-
-
-def bond_words(held):
-    """The words for how an activation belongs to a way out, a handling or arguments."""
-    if isinstance(held, Way):
-        return f" {held.low} {held.arrival}"
-    if isinstance(held, Handling):
-        return f" {held.guard.level}"
-    if isinstance(held, Remains):
-        return f" {held.strand.number}"
-    return ""
-
-
 def guard_word(guard):
     """What an activation of on:do: catches, of the others whether the argument has begun."""
     if guard.kind == "handle":
@@ -77,7 +47,6 @@ class Standing:
         self.run = run
         self.nodes = nodes
         self.made = rows
-        self.live = made_rows(methods_at_work(run, []))
         self.names = {**names, **{node: f"o{number}" for number, node in enumerate(nodes)}}
         self.numbers = {method: rows.index(made_row(method)) for method in methods}
         self.bodies = [all_bodies(row[3]) for row in rows]
@@ -105,7 +74,9 @@ class Standing:
         ending = ["on"] if run.ending is None else ["end", *run.ending]
         going = "-" if run.going is None or run.ending is not None else str(run.going.number)
         ready = "".join([f" {strand.number}" for strand in run.ready])
-        rows = [*ending, f"{len(run.strands)} {going}{PART}{ready}", *waiting_rows(run)]
+        waiting = waiting_rows(run)
+        rows = [*ending, f"{len(run.strands)} {going}{PART}{ready}", str(len(waiting))]
+        rows.extend([" ".join([str(number) for number in row]) for row in waiting])
         for strand in run.strands:
             rows.append(f"{1 if strand.gone else 0} {len(strand.acts)}")
             rows.extend([self.act_row(act) for act in strand.acts])
@@ -116,13 +87,14 @@ class Standing:
         if isinstance(act, Guard):
             return f"{act.kind} {guard_word(act)}"
         after = act.after if act.after is not None else "-"
-        return f"{act.kind} {self.method_words(act)} {act.place} {1 if act.waits else 0} {after}{bond_words(act.held)}"
+        bond = "".join([f" {part}" for part in bond_parts(act.held)])
+        return f"{act.kind} {self.method_words(act)} {act.place} {1 if act.waits else 0} {after}{bond}"
 
     def object_rows(self):
         """The objects that are reached, and what holds them."""
         run = self.run
         rows = [f"{len(run.symbols)} {len(self.nodes)}", *sorted(run.symbols)]
-        rows.extend([self.refs(run.classes[name].parts) for name in run.stock.book.own_names])
+        rows.extend([self.refs(class_parts(run, name)) for name in run.stock.book.own_names])
         rows.extend([self.refs(literals_of(run, method)) for method in program_methods(run) if method.trees])
         for strand in run.strands:
             rows.append(self.strand_row(strand))
@@ -141,22 +113,12 @@ class Standing:
         """What an activation holds that has not ended."""
         if isinstance(act, Guard):
             return self.refs([act.block, act.argument, act.kept])
-        return f"{self.kept_words(act)}{PART}{self.refs(act.pile)}{PART}{self.held_refs(act.held)}"
+        return f"{self.kept_words(act)}{PART}{self.refs(act.pile)}{PART}{self.refs(held_values(act.held))}"
 
     def kept_words(self, act):
         """What an activation of a method or a Block holds for good."""
         literals = self.refs(literals_of(self.run, act.method))
         return f"{self.refs([act.receiver, act.block, act.around])}{PART}{self.refs(act.cells)}{PART}{literals}"
-
-    def held_refs(self, held):
-        """The words for what the way out, the handling or the arguments hold to which an activation belongs."""
-        if isinstance(held, Way):
-            return self.refs([held.carried])
-        if isinstance(held, Handling):
-            return self.refs([held.exception])
-        if isinstance(held, Remains):
-            return self.refs([held.strand.thing, *held.blocks])
-        return ""
 
     def node_row(self, node):
         """An object or an activation that has ended."""
@@ -176,26 +138,3 @@ class Standing:
         if isinstance(data, Signals):
             return f"{name} {data.count}"
         return name + self.refs(node.parts)
-
-
-def plain_parts(run):
-    """What can be told of a run without a look at its processes and objects, by its words."""
-    return [("shown", run.output), ("sends", run.sent), ("trace", run.messages), ("made", run.made),
-            ("rounds", run.rounds)]
-
-
-def unlike_word(run, other):
-    """The first word that tells where two runs do not stand alike, None if they do."""
-    stock, against = run.stock, other.stock
-    if where_unlike(stock.source_program, stock.book, against.source_program, against.book) is not None:
-        return "program"
-    for (word, one), (_, two) in zip(plain_parts(run), plain_parts(other)):
-        if one != two:
-            return word
-    standing = Standing(run)
-    counterpart = Standing(other)
-    if standing.process_rows() != counterpart.process_rows() or standing.live != counterpart.live:
-        return "processes"
-    if standing.object_rows() != counterpart.object_rows() or standing.made != counterpart.made:
-        return "objects"
-    return None

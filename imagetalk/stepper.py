@@ -2,13 +2,13 @@
 
 from imagetalk.classes import check_selector
 from imagetalk.counts import MOST_SENDS, is_count, is_integer
-from imagetalk.engine import Machine
+from imagetalk.engine import begun
 from imagetalk.errors import BadClass, BadCount, BadLog, BadNumber, Late, NothingToUndo, NotThat, TalkError
 from imagetalk.history import History
+from imagetalk.likeness import unlike_word
 from imagetalk.moments import moment_of
 from imagetalk.plans import variables_scope
 from imagetalk.programread import read_program
-from imagetalk.standing import unlike_word
 from imagetalk.stepping import go_into, go_out, go_over, go_to_method, go_until, restart_act
 from imagetalk.stock import Stock
 from imagetalk.telling import told
@@ -56,10 +56,7 @@ class Stepper:
     """A run of a program by the machine, at its beginning at first."""
 
     def __init__(self, program):
-        book = read_program(program)
-        self.run = Machine(Stock(program, book, {}), MOST_SENDS, True)
-        self.run.put_classes()
-        self.run.start()
+        self.run = begun(Stock(program, read_program(program), {}), MOST_SENDS, True)
         self.history = History(self.run)
 
     def into(self):

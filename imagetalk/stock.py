@@ -11,7 +11,9 @@ from imagetalk.things import Kind, Method, Rule
 class Stock:
     """The classes and methods of a program; placed has made methods by (class, selector).
 
-    own has the methods of the program itself that were needed so far, known what was found for (class, selector).
+    own has the methods of the program itself that were needed so far, lasting those of the kernel's classes, None where
+    they have none, known what was found for (class, selector) from that class on. literal_keys tells the methods of the
+    program that can have literals.
     """
 
     def __init__(self, program, book, placed):
@@ -20,7 +22,9 @@ class Stock:
         self.placed = placed
         self.kinds = {}
         self.own = {}
+        self.lasting = {}
         self.known = {}
+        self.literal_keys = self.keys_with_literals()
         self.main = Method(self.kind_named("UndefinedObject"), BODY_SELECTOR, book.main, tuple(book.main.literals))
 
     def kind_named(self, name):
@@ -48,15 +52,13 @@ class Stock:
 
     def own_method(self, kind, selector):
         """The method that a class has itself, None if it has none."""
-        if selector in self.book.own_methods(kind.name):
-            return self.method_of_program(kind.name, selector)
-        action, direct = rule_of(kind.name, selector)
-        if action is not None:
-            return Rule((kind.name, selector), action, direct)
-        source = kernel_source(kind.name, selector)
-        if source is not None:
-            return Method(kind, selector, parsed_method(source), ())
-        return None
+        methods = self.book.methods
+        if kind.name in methods:
+            return self.method_of_program(kind.name, selector) if selector in methods[kind.name] else None
+        key = (kind.name, selector)
+        if key not in self.lasting:
+            self.lasting[key] = kernel_method(kind, selector)
+        return self.lasting[key]
 
     def method_of_program(self, name, selector):
         """The method of the program's own, or the made one that is put in its place."""
@@ -70,20 +72,26 @@ class Stock:
             self.own[key] = method
         return self.own[key]
 
-    def method_keys(self):
-        """The methods of the program's classes as (class, selector), in order."""
-        rows = []
-        for name in self.book.own_names:
-            for owner in (name, name + CLASS_WORD):
-                rows.extend([(owner, selector) for selector in self.book.methods[owner]])
-        return rows
-
-    def methods_with_literals(self):
-        """The methods that have literals, main at the end in any case."""
+    def keys_with_literals(self):
+        """The methods of the program's classes that can have literals, as (class, selector), in order."""
         rows = []
         for name in self.book.own_names:
             for owner in (name, name + CLASS_WORD):
                 for selector, parsed in self.book.methods[owner].items():
                     if parsed.literals or self.placed:
-                        rows.append(self.method_of_program(owner, selector))
-        return [*[method for method in rows if method.trees], self.main]
+                        rows.append((owner, selector))
+        return rows
+
+    def methods_with_literals(self):
+        """The methods that have literals, main at the end in any case."""
+        methods = [self.method_of_program(owner, selector) for owner, selector in self.literal_keys]
+        return [*[method for method in methods if method.trees], self.main]
+
+
+def kernel_method(kind, selector):
+    """The method that a class of the kernel has itself, None if it has none."""
+    action, direct = rule_of(kind.name, selector)
+    if action is not None:
+        return Rule((kind.name, selector), action, direct)
+    source = kernel_source(kind.name, selector)
+    return None if source is None else Method(kind, selector, parsed_method(source), ())

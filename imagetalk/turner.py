@@ -2,7 +2,7 @@
 
 from imagetalk.engine import Machine
 from imagetalk.errors import BadSchedule
-from imagetalk.things import Thing
+from imagetalk.image import FIRST_OBJECTS
 from imagetalk.turning import go_on_with
 from imagetalk.watching import watched_codes, watched_rule
 
@@ -32,11 +32,11 @@ class Turner(Machine):
 
     def start_whole(self):
         """Starts the run with all its objects in the image, each one told by its number."""
-        self.put_classes()
         self.start()
-        for number, thing in enumerate(self.things):
-            if isinstance(thing, Thing):
-                thing.serial = number
+        first = self.first_told()
+        classes = [self.class_named(name) for name in first[len(FIRST_OBJECTS):]]
+        for number, thing in enumerate([*classes, *self.things], start=len(FIRST_OBJECTS)):
+            thing.serial = number
 
     def put_made(self, thing):
         """An object of the image that the process that goes on has made."""

@@ -29,8 +29,8 @@ class Twin:
         """Copies all that the run holds."""
         self.strands = [Strand(strand.number, None) for strand in self.run.strands]
         hollow = []
-        for thing in self.run.things:
-            if isinstance(thing, Thing) and not is_lasting(thing):
+        for thing in [*self.run.classes.values(), *self.run.things]:
+            if not is_lasting(thing):
                 self.things[thing] = new_thing(thing)
                 if not isinstance(thing.data, str):
                     hollow.append(thing)

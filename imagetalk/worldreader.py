@@ -67,7 +67,6 @@ class WorldReader:
         program = self.read_program()
         run = Machine(Stock(program, read_program(program), {}), MOST_SENDS, True)
         self.run = run
-        run.put_classes()
         run.output = self.next_row()
         run.sent, run.made, run.rounds, many = self.next_numbers()
         for row in self.next_rows(many):
@@ -116,8 +115,6 @@ class WorldReader:
     def read_objects(self, act_rows):
         """Makes the objects, and puts all in its place."""
         run = self.run
-        for name, thing in run.classes.items():
-            self.named["m" + name.removesuffix(CLASS_WORD) if name.endswith(CLASS_WORD) else "c" + name] = thing
         symbols, nodes = self.next_numbers()
         for number, text in enumerate(self.next_rows(symbols)):
             self.named[f"s{number}"] = run.symbol_there(text)
@@ -129,8 +126,9 @@ class WorldReader:
         node_rows = self.next_rows(nodes)
         self.make_nodes(node_rows)
         for name, row in zip(run.stock.book.own_names, own):
-            thing = run.classes[name]
-            thing.parts = self.all_values(row)
+            if row:
+                thing = run.class_named(name)
+                thing.parts = self.all_values(row)
         for method, row in zip(methods, literals):
             run.literals[method] = self.all_values(row)
         run.final = self.value(final)
@@ -142,7 +140,11 @@ class WorldReader:
 
     def value(self, word):
         """The value for which a word stands."""
-        return int(word[1:]) if word.startswith("i") else self.named[word]
+        if word in self.named:
+            return self.named[word]
+        if word.startswith("i"):
+            return int(word[1:])
+        return self.run.class_named(word[1:] if word.startswith("c") else word[1:] + CLASS_WORD)
 
     def all_values(self, row):
         """The values for which the words of a row stand."""

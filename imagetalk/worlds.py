@@ -3,30 +3,20 @@
 from imagetalk.changes import change_fields_of, drop_method_of, put_method_in
 from imagetalk.collecting import collect_garbage, garbage_many
 from imagetalk.counts import MOST_SENDS, check_codes, check_sends, is_count
-from imagetalk.engine import NO_END, Machine
+from imagetalk.engine import NO_END, Machine, begun
 from imagetalk.errors import NoObject
+from imagetalk.likeness import unlike_word
 from imagetalk.programread import read_program
-from imagetalk.standing import unlike_word
 from imagetalk.stock import Stock
 from imagetalk.telling import told
-from imagetalk.things import Thing
 from imagetalk.twins import twin
 from imagetalk.worldreader import run_of_text
 from imagetalk.worldwriter import text_of_run
 
-NO_PROGRAM = ((), "")
-
 
 def read_world(text):
     """The World of a text that a World has written."""
-    return world_of(run_of_text(text))
-
-
-def world_of(run):
-    """The World that is this run."""
-    world = World(NO_PROGRAM)
-    world.run = run
-    return world
+    return World(run_of_text(text))
 
 
 def finished(run, sends):
@@ -42,10 +32,11 @@ class World:
     """A run of a program by the machine, at its beginning at first."""
 
     def __init__(self, program):
-        book = read_program(program)
-        self.run = Machine(Stock(program, book, {}), MOST_SENDS, True)
-        self.run.put_classes()
-        self.run.start()
+        # A run is no program, and is taken as it stands: so copies are made.
+        if isinstance(program, Machine):
+            self.run = program
+        else:
+            self.run = begun(Stock(program, read_program(program), {}), MOST_SENDS, True)
 
     def step(self, count):
         """Does at most so many codes, and tells how many it did."""
@@ -83,14 +74,14 @@ class World:
 
     def objects(self):
         """All objects of the image, each as (number, told)."""
-        return [(number, told(thing)) for number, thing in enumerate(self.run.things)]
+        return list(enumerate([*self.run.first_told(), *[told(thing) for thing in self.run.things]]))
 
     def fields(self, number):
         """The fields of an object, each as (name, told)."""
-        if not is_count(number, len(self.run.things) - 1):
+        if not is_count(number, len(self.run.first_told()) + len(self.run.things) - 1):
             raise NoObject("no number of an object")
-        thing = self.run.things[number]
-        if not isinstance(thing, Thing):
+        thing = self.run.thing_at(number)
+        if thing is None:
             return []
         if thing.is_a("Array"):
             return [(str(place), told(value)) for place, value in enumerate(thing.data, start=1)]
@@ -98,7 +89,7 @@ class World:
 
     def copy(self):
         """A World that stands at the same place."""
-        return world_of(twin(self.run, Machine(self.run.stock, MOST_SENDS, True)))
+        return World(twin(self.run, Machine(self.run.stock, MOST_SENDS, True)))
 
     def __eq__(self, other):
         """Whether the other one is a World that stands alike."""

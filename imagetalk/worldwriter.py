@@ -1,7 +1,8 @@
 """Runs written down."""
 
 from imagetalk.codetexts import write_made
-from imagetalk.standing import Standing, made_row
+from imagetalk.holding import made_row
+from imagetalk.standing import Standing
 from imagetalk.things import Method
 from imagetalk.writer import body_text, method_text
 

@@ -1,6 +1,6 @@
 """Trees of methods to their texts."""
 
-from imagetalk.names import OPERATORS, SPOKEN_WORDS, arity_of, is_keywords, is_name
+from imagetalk.names import OPERATORS, SPOKEN_WORDS, is_keywords, is_name
 
 # How tightly the parts of an expression hold together, the tightest first.
 PRIMARY = 0
@@ -10,131 +10,109 @@ KEYWORD = 3
 CASCADE = 4
 SET = 5
 
-NO_BLANK_BEHIND = ("(", "[", "#(", "^")
-NO_BLANK_AHEAD = (")", "]", ".", ";")
+LEVELS = {"set": SET, "cascade": CASCADE}
 
 
 def method_text(tree):
     """The text of a method."""
     _, selector, parameters, variables, statements = tree
-    words = pattern_words(selector, parameters)
-    body = body_words(variables, statements)
-    if body and body[0].startswith("-"):
+    pattern = paired(selector, parameters) if parameters else selector
+    text = statements_text(variables, statements)
+    if text.startswith("-"):
         # Directly behind the name with which each pattern ends the minus would be an operator.
-        body = ["(", body[0], ")", *body[1:]]
-    return joined([*words, *body])
+        end = digits_end(text)
+        text = f"({text[:end]}){text[end:]}"
+    return f"{pattern} {text}" if text else pattern
+
+
+def digits_end(text):
+    """Where the integer ends with which a text begins."""
+    end = 1
+    while end < len(text) and text[end].isdigit():
+        end += 1
+    return end
 
 
 def body_text(tree):
     """The text of a method without its pattern."""
-    return joined(body_words(tree[3], tree[4]))
+    return statements_text(tree[3], tree[4])
 
 
-def joined(words):
-    """The words with one blank between, but where none stands."""
-    text = ""
-    ahead = "("
-    for word in words:
-        if ahead not in NO_BLANK_BEHIND and word not in NO_BLANK_AHEAD:
-            text += " "
-        text += word
-        ahead = word
-    return text
+def statements_text(variables, statements):
+    """The text of variables and statements."""
+    text = ". ".join([tree_text(tree) for tree in statements])
+    if not variables:
+        return text
+    names = " ".join(variables)
+    return f"| {names} | {text}" if text else f"| {names} |"
 
 
-def pattern_words(selector, parameters):
-    """The words of the pattern."""
-    if not is_keywords(selector):
-        return [selector, *parameters]
-    return paired(selector, [[name] for name in parameters])
-
-
-def paired(selector, rows):
-    """The keywords of a selector, each with the words behind it."""
-    words = []
-    for keyword, row in zip(selector[:-1].split(":"), rows):
-        words.append(keyword + ":")
-        words.extend(row)
-    return words
-
-
-def body_words(variables, statements):
-    """The words of variables and statements."""
-    words = ["|", *variables, "|"] if variables else []
-    for number, tree in enumerate(statements):
-        if number > 0:
-            words.append(".")
-        words.extend(tree_words(tree))
-    return words
+def paired(selector, texts):
+    """The words of a selector, each with the text behind it."""
+    if not selector.endswith(":"):
+        return f"{selector} {texts[0]}"
+    return " ".join([f"{word}: {text}" for word, text in zip(selector[:-1].split(":"), texts)])
 
 
 def level_of(tree):
     """How tightly a tree holds together."""
-    if tree[0] == "set":
-        return SET
-    if tree[0] == "cascade":
-        return CASCADE
     if tree[0] in ("send", "super"):
         return message_level(tree[-2])
-    return PRIMARY
+    return LEVELS.get(tree[0], PRIMARY)
 
 
 def message_level(selector):
     """How tightly a message with this selector holds together."""
-    if is_keywords(selector):
+    if selector.endswith(":"):
         return KEYWORD
-    return BINARY if arity_of(selector) == 1 else UNARY
+    return UNARY if selector[0].isalpha() else BINARY
 
 
-def receiver_words(tree, selector):
-    """The words of what a message is sent to."""
-    most = UNARY if message_level(selector) == UNARY else BINARY
-    return held_words(tree, most)
+def receiver_text(tree, selector):
+    """The text of what a message is sent to."""
+    return held_text(tree, UNARY if message_level(selector) == UNARY else BINARY)
 
 
-def held_words(tree, most):
-    """The words of a tree, in parentheses if it does not hold together tightly enough."""
-    words = tree_words(tree)
-    return words if level_of(tree) <= most else ["(", *words, ")"]
+def held_text(tree, most):
+    """The text of a tree, in parentheses if it does not hold together tightly enough."""
+    text = tree_text(tree)
+    return text if level_of(tree) <= most else f"({text})"
 
 
-def message_words(selector, arguments):
-    """The words of a message, behind what it is sent to."""
-    level = message_level(selector)
-    if level == UNARY:
-        return [selector]
-    if level == BINARY:
-        return [selector, *held_words(arguments[0], UNARY)]
-    return paired(selector, [held_words(tree, BINARY) for tree in arguments])
+def message_text(selector, arguments):
+    """The text of a message, behind what it is sent to."""
+    if not arguments:
+        return selector
+    most = BINARY if message_level(selector) == KEYWORD else UNARY
+    return paired(selector, [held_text(tree, most) for tree in arguments])
 
 
-def tree_words(tree):
-    """The words of a tree, without parentheses around it."""
+def tree_text(tree):
+    """The text of a tree, without parentheses around it."""
     kind = tree[0]
+    if kind == "var":
+        return tree[1]
     if kind == "send":
-        return [*receiver_words(tree[1], tree[2]), *message_words(tree[2], tree[3])]
+        return f"{receiver_text(tree[1], tree[2])} {message_text(tree[2], tree[3])}"
     if kind == "super":
-        return ["super", *message_words(tree[1], tree[2])]
+        return f"super {message_text(tree[1], tree[2])}"
     if kind == "cascade":
-        return cascade_words(tree)
+        messages = "; ".join([message_text(selector, arguments) for selector, arguments in tree[2]])
+        return f"{receiver_text(tree[1], tree[2][0][0])} {messages}"
     if kind == "set":
-        return [tree[1], ":=", *tree_words(tree[2])]
+        return f"{tree[1]} := {tree_text(tree[2])}"
     if kind == "return":
-        return ["^", *tree_words(tree[1])]
-    if kind == "block":
-        return block_words(tree)
-    if kind == "arr":
-        return ["#(", *item_words(tree[1]), ")"]
-    if kind == "sym":
-        return ["#" + symbol_word(tree[1])]
-    return [leaf_word(tree)]
+        return "^" + tree_text(tree[1])
+    return block_text(tree) if kind == "block" else literal_text(tree)
 
 
-def leaf_word(tree):
-    """The word of an integer, a string or a name."""
+def literal_text(tree):
+    """The text of a literal."""
     if tree[0] == "int":
         return str(tree[1])
-    return quoted(tree[1]) if tree[0] == "str" else tree[1]
+    if tree[0] == "str":
+        return quoted(tree[1])
+    return "#" + (symbol_word(tree[1]) if tree[0] == "sym" else items_text(tree[1]))
 
 
 def quoted(text):
@@ -147,39 +125,26 @@ def symbol_word(text):
     return text if is_name(text) or is_keywords(text) or text in OPERATORS else quoted(text)
 
 
-def item_words(items):
-    """The words of the items of an array."""
-    words = []
-    for tree in items:
-        if tree[0] == "arr":
-            words.extend(["(", *item_words(tree[1]), ")"])
-        elif tree[0] == "sym":
-            words.append(item_symbol(tree[1]))
-        else:
-            words.append(leaf_word(tree))
-    return words
+def items_text(items):
+    """The text of an array, without its `#`."""
+    return "(" + " ".join([item_text(tree) for tree in items]) + ")"
 
 
-def item_symbol(text):
-    """A symbol in an array: without `#`, if that would be read as one."""
-    word = symbol_word(text)
-    return "#" + word if word.startswith("'") or text in SPOKEN_WORDS else word
+def item_text(tree):
+    """The text of an item of an array: of a symbol without `#`, if that would be read as one."""
+    if tree[0] == "arr":
+        return items_text(tree[1])
+    if tree[0] != "sym":
+        return tree_text(tree)
+    word = symbol_word(tree[1])
+    return "#" + word if word.startswith("'") or word in SPOKEN_WORDS else word
 
 
-def cascade_words(tree):
-    """The words of a cascade."""
-    words = receiver_words(tree[1], tree[2][0][0])
-    for number, (selector, arguments) in enumerate(tree[2]):
-        if number > 0:
-            words.append(";")
-        words.extend(message_words(selector, arguments))
-    return words
-
-
-def block_words(tree):
-    """The words of a block."""
+def block_text(tree):
+    """The text of a block."""
     _, parameters, variables, statements = tree
-    words = ["[", *[":" + name for name in parameters]]
-    if parameters and (variables or statements):
-        words.append("|")
-    return [*words, *body_words(variables, statements), "]"]
+    text = statements_text(variables, statements)
+    if not parameters:
+        return f"[{text}]"
+    names = " ".join([":" + name for name in parameters])
+    return f"[{names} | {text}]" if text else f"[{names}]"
