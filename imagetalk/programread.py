@@ -51,7 +51,7 @@ class Judge:
         self.any_depth = any_depth
         self.book = Book()
         self.defined = {}
-        self.same_names = False
+        self.names_alike = False
 
     def read(self, thing):
         """Reads the whole, as far as it is right."""
@@ -62,7 +62,7 @@ class Judge:
             raise BadProgram(())
         definitions = [definition for definition in classes if is_definition(definition)]
         self.defined = {definition[0]: True for definition in definitions}
-        self.same_names = {name: True for name in self.before.own_names} == self.defined
+        self.names_alike = {name: True for name in self.before.own_names} == self.defined
         self.read_sources(definitions, main)
         book = self.book
         for index, definition in enumerate(classes):
@@ -127,7 +127,7 @@ class Judge:
         before = self.before
         fields = book.fields_of_class(owner)
         book.texts[owner] = sources
-        if self.same_names and before.texts[owner] == sources and before.fields_of_class(owner) == fields:
+        if self.names_alike and before.texts[owner] == sources and before.fields_of_class(owner) == fields:
             book.methods[owner] = before.methods[owner]
             return
         methods = {}

@@ -10,8 +10,6 @@ KEYWORD = 3
 CASCADE = 4
 SET = 5
 
-LEVELS = {"set": SET, "cascade": CASCADE}
-
 
 def method_text(tree):
     """The text of a method."""
@@ -56,9 +54,12 @@ def paired(selector, texts):
 
 def level_of(tree):
     """How tightly a tree holds together."""
-    if tree[0] in ("send", "super"):
+    kind = tree[0]
+    if kind == "send" or kind == "super":
         return message_level(tree[-2])
-    return LEVELS.get(tree[0], PRIMARY)
+    if kind == "set":
+        return SET
+    return CASCADE if kind == "cascade" else PRIMARY
 
 
 def message_level(selector):
