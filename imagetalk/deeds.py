@@ -1,5 +1,7 @@
 """What codes do in both ways of working: each deed takes the run, its topmost activation and the code."""
 
+from imagetalk.things import Thing
+
 
 def push_self(run, act, code):
     """The receiver."""
@@ -81,8 +83,12 @@ def taken(stack, many):
 
 def send(run, act, code):
     """Sends a message."""
-    arguments = taken(act.pile, code[2])
-    run.send(act.pile.pop(), code[1], arguments)
+    _, selector, many = code
+    pile = act.pile
+    arguments = taken(pile, many) if many else ()
+    receiver = pile.pop()
+    kind = receiver.kind if isinstance(receiver, Thing) else run.kind_of(receiver)
+    run.send_from(kind, receiver, kind, selector, arguments)
 
 
 def send_super(run, act, code):

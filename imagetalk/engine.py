@@ -1,7 +1,6 @@
 """The machine: the codes of the topmost activation are done one by one."""
 
 from imagetalk.deeds import DEEDS, return_home, taken
-from imagetalk.flatten import flat_body
 from imagetalk.plans import planned
 from imagetalk.run import Run
 from imagetalk.things import Stopped
@@ -32,8 +31,8 @@ class Machine(Run):
 
     def prepared(self, method, is_main, in_place):
         """The body of a method, made of its tree."""
-        plan, _ = planned(method.parsed, method.kind.field_names, is_main, in_place)
-        return flat_body(plan)
+        plan, _ = planned(method.parsed, method.kind.field_names, is_main, in_place, True)
+        return plan
 
     def steps_of(self, body):
         """The codes that an activation has to do."""

@@ -26,7 +26,6 @@ class Image:
         self.symbols = {}
         self.literals = {}
         self.made = 0
-        self.integer = None
 
     def kind_named(self, name):
         """The class with this name."""
@@ -48,12 +47,10 @@ class Image:
         if isinstance(value, Thing):
             return value.kind
         if value is None:
-            return self.kind_named("UndefinedObject")
+            return self.stock.kind_named("UndefinedObject")
         if isinstance(value, bool):
-            return self.kind_named("True" if value else "False")
-        if self.integer is None:
-            self.integer = self.kind_named("Integer")
-        return self.integer
+            return self.stock.kind_named("True" if value else "False")
+        return self.stock.kind_named("Integer")
 
     def method_for(self, kind, selector):
         """The method that an instance works for a selector, None if there is none."""
@@ -72,12 +69,18 @@ class Image:
             rows.append(name + CLASS_WORD)
         return rows
 
-    def thing_at(self, number):
-        """The object with this number, None for nil, true and false."""
-        first = self.first_told()
-        if number >= len(first):
-            return self.things[number - len(first)]
-        return None if number < len(FIRST_OBJECTS) else self.class_named(first[number])
+    def first_many(self):
+        """How many these first objects are."""
+        return len(FIRST_OBJECTS) + 2 * len(self.stock.book.parents)
+
+    def holder_at(self, number):
+        """The object with this number, None for one of the first that is no class of the program's own by its name."""
+        first = self.first_many()
+        if number >= first:
+            return self.things[number - first]
+        names = self.stock.book.own_names
+        at = number - first + 2 * len(names)
+        return self.class_named(names[at // 2]) if at >= 0 and at & 1 == 0 else None
 
     def put_literals(self, method):
         """The literals of a method become objects."""

@@ -41,7 +41,8 @@ FIELDS_OF = {
 PARENTS = ("Object", "Exception", "Error")
 
 # The selectors that are done in place, so that no program has methods for them.
-IN_PLACE = ("ifTrue:", "ifFalse:", "ifTrue:ifFalse:", "ifFalse:ifTrue:", "and:", "or:", "whileTrue:", "whileFalse:")
+IN_PLACE = {"ifTrue:": True, "ifFalse:": True, "ifTrue:ifFalse:": True, "ifFalse:ifTrue:": True, "and:": True,
+            "or:": True, "whileTrue:": True, "whileFalse:": True}
 
 # The selectors that are done by rule, for each class.
 BY_RULE = {

@@ -2,7 +2,6 @@
 
 from imagetalk.classes import book_with
 from imagetalk.errors import NoMethod
-from imagetalk.flatten import flat_body
 from imagetalk.kernel import kernel_source
 from imagetalk.plans import planned
 from imagetalk.parsing import parsed_method
@@ -39,5 +38,5 @@ def made_of(program, name, selector, *, in_place=True):
 
 def made_from(parsed, fields, is_main, in_place):
     """The made method of what was read of a method of a class with these fields."""
-    plan, literals = planned(parsed, fields, is_main, in_place)
-    return (parsed.tree[1], literals, flat_body(plan))
+    plan, literals = planned(parsed, fields, is_main, in_place, True)
+    return (parsed.tree[1], literals, plan)

@@ -4,11 +4,20 @@ Each source is set apart from the next one by a sign that stands in none of them
 """
 
 from imagetalk.names import LONGEST_NAME, is_text
-from imagetalk.plainwords import ARRAY, FIXED, MOST_DIGITS, STRING, SYMBOL
+from imagetalk.plainwords import ARRAY, MOST_DIGITS, STRING, SYMBOL
 from imagetalk.plainwords import is_symbol, put_keywords, set_apart, surely_binds, without_strings
 from imagetalk.words import LONGEST_SOURCE
 
 BORDER = "_"
+
+# The chunks that are always the same words.
+WORDS = {
+    ":=": ("sign", ":=", 0), "(": ("sign", "(", 0), ")": ("sign", ")", 0), "[": ("sign", "[", 0), "]": ("sign", "]", 0),
+    ":": ("sign", ":", 0), "|": ("sign", "|", 0), "^": ("sign", "^", 0), ".": ("sign", ".", 0), ";": ("sign", ";", 0),
+    "@": ("sign", "#(", 0), "+": ("op", "+", 0), "-": ("op", "-", 0), "*": ("op", "*", 0), "//": ("op", "//", 0),
+    "\\\\": ("op", "\\\\", 0), "<": ("op", "<", 0), ">": ("op", ">", 0), "<=": ("op", "<=", 0), ">=": ("op", ">=", 0),
+    "=": ("op", "=", 0), "==": ("op", "==", 0), "~=": ("op", "~=", 0), "~~": ("op", "~~", 0), ",": ("op", ",", 0),
+}
 
 
 def words_of_all(sources):
@@ -23,26 +32,31 @@ def words_of_all(sources):
     # A string with a border in it is none: it would end in another source than it begins.
     if code is None or code.count(BORDER) != len(sources) - 1 or any([BORDER in found for found in texts]):
         return None
-    known = {chunk: (kind, chunk, 0) for chunk, kind in FIXED.items()}
-    return [words_of_one(part, known, texts) for part in set_apart(code).split(BORDER)]
+    return rows_in(set_apart(code).split(), texts)
 
 
-def words_of_one(code, known, texts):
-    """The words of the code of one source, None if it is not plain; known has the words that are known by now."""
+def rows_in(chunks, texts):
+    """The words of each source of which these are the chunks, None for one that is not plain."""
+    known = dict(WORDS)
+    rows = []
     words = []
-    left = len(texts) - code.count(STRING) - code.count(SYMBOL)
-    for chunk in code.split():
+    plain = True
+    for chunk in chunks:
         word = known.get(chunk)
-        if word is None:
+        if word is not None:
+            words.append(word)
+        elif chunk == BORDER:
+            rows.append(words if plain else None)
+            words = []
+            plain = True
+        else:
             word = single_word(chunk)
             if word is not None:
                 known[chunk] = word
+                words.append(word)
             elif not put_others(words, chunk, texts):
-                del texts[left:]
-                return None
-        if word is not None:
-            words.append(word)
-    return words
+                plain = False
+    return [*rows, words if plain else None]
 
 
 def single_word(chunk):
@@ -53,8 +67,6 @@ def single_word(chunk):
         return ("keyword", chunk, 0) if chunk[:-1].isidentifier() and len(chunk) <= LONGEST_NAME + 1 else None
     if chunk.isdigit():
         return ("int", int(chunk), 0) if len(chunk) <= MOST_DIGITS else None
-    if chunk == ARRAY:
-        return ("sign", "#(", 0)
     if chunk.startswith("#") and is_symbol(chunk[1:]):
         return ("sym", chunk[1:], 0)
     return None

@@ -62,6 +62,8 @@ def are_fields(thing):
     """Whether it is a tuple that can be the own fields of a class."""
     if not isinstance(thing, tuple) or len(thing) > MOST_FIELDS:
         return False
+    if len(thing) == 0:
+        return True
     if not all([is_local_word(field) for field in thing]):
         return False
     return len({field for field in thing}) == len(thing)

@@ -9,7 +9,8 @@ from imagetalk.words import words_of
 class Parsed:
     """The tree of a source, of any depth; the names that are free and those that are declared; its literals.
 
-    keeps tells whether a block has variables of its own, shallow whether not too many trees lie within one another.
+    keeps tells whether a block has variables of its own, shallow whether not too many trees lie within one another;
+    text is the text of the tree when it has been asked for.
     """
 
     def __init__(self, tree, free, declared, literals, keeps, shallow):
@@ -19,6 +20,7 @@ class Parsed:
         self.literals = literals
         self.keeps = keeps
         self.shallow = shallow
+        self.text = None
 
 
 def parsed_method(source):

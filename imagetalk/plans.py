@@ -1,36 +1,39 @@
 """Plans of methods: their trees laid out as steps, with the places of variables, literals and blocks.
 
-A step is a code (25), but for jumps and tests. In their place stand ("choose", wanted, steps, steps) and
-("loop", steps, wanted, steps), which hold the steps of the blocks that are done in place. A plan has the form of a
-body (26), with steps in the place of codes. All steps stand the last one first, as the walk takes them.
+A plan has the form of a body (26). In one for the machine the steps are its codes (25). In one for the walk there
+stand, in the place of jumps and tests, ("choose", wanted, steps, steps) and ("loop", steps, wanted, steps), which hold
+the steps of the blocks that are done in place, and all steps stand the last one first, as the walk takes them.
 """
 
-from imagetalk.inplace import in_place_form, marked
-from imagetalk.names import SPOKEN_WORDS
+from imagetalk.inplace import CHOICES, LOOPS, in_place_form, marked
 
 NIL = ("const", "nil")
 POP = ("pop",)
 
+# The names that mean the same everywhere.
+FIXED_NAMES = {"self": ("self",), "nil": ("const", "nil"), "true": ("const", "true"), "false": ("const", "false")}
 
-def planned(parsed, fields, is_main, in_place):
-    """The plan of the method of a class with these fields, and the tuple of its literals."""
-    planner, scope, steps = laid_out(parsed, fields, is_main, in_place)
-    return (scope.plan(len(parsed.tree[2]), steps), tuple(planner.literals))
+
+def planned(parsed, fields, is_main, in_place, flat):
+    """The plan of the method of a class with these fields, flat for the machine, and the tuple of its literals."""
+    planner, scope, steps = laid_out(parsed, fields, is_main, in_place, flat)
+    return (planner.plan(scope, len(parsed.tree[2]), steps), tuple(planner.literals))
 
 
 def variables_scope(parsed, fields, is_main, in_place):
     """The Scope that tells the names of the variables of a method, and within it those of its blocks."""
-    _, scope, _ = laid_out(parsed, fields, is_main, in_place)
+    _, scope, _ = laid_out(parsed, fields, is_main, in_place, True)
     return scope
 
 
-def laid_out(parsed, fields, is_main, in_place):
+def laid_out(parsed, fields, is_main, in_place, flat):
     """A method laid out as steps, with the Planner and the Scope that this took."""
-    planner = Planner(fields, in_place and not parsed.keeps)
+    planner = Planner(fields, in_place and not parsed.keeps, flat)
     tree = marked(parsed.tree) if in_place and parsed.keeps else parsed.tree
     _, _, parameters, variables, statements = tree
     scope = Scope(None, (*parameters, *variables))
-    steps = scope_steps(planner, statements, scope)
+    steps = []
+    put_statements(planner, statements, scope, steps)
     if not statements or statements[-1][0] != "return":
         if statements:
             steps.append(POP)
@@ -52,10 +55,6 @@ class Scope:
         self.blocks = []
         self.inner = []
 
-    def plan(self, parameters, steps):
-        """The plan with these steps."""
-        return (parameters, len(self.order), backwards(steps), tuple(self.blocks))
-
     def put_variable(self, name):
         """A variable of a block that is done in place begins."""
         self.places[name] = len(self.order)
@@ -65,14 +64,21 @@ class Scope:
 class Planner:
     """What is counted through a whole method: its literals, like symbols once.
 
-    judges tells whether each message is looked at for being done in place, where no variables can keep it from that.
+    judges tells whether each message is looked at for being done in place, where no variables can keep it from that,
+    flat whether the steps are codes.
     """
 
-    def __init__(self, fields, judges):
+    def __init__(self, fields, judges, flat):
         self.field_names = fields
         self.judges = judges
+        self.flat = flat
         self.literals = []
         self.symbols = {}
+
+    def plan(self, scope, parameters, steps):
+        """The plan with these steps."""
+        ordered = tuple(steps) if self.flat else backwards(steps)
+        return (parameters, len(scope.order), ordered, tuple(scope.blocks))
 
     def literal(self, tree):
         """The number of a literal."""
@@ -100,37 +106,49 @@ def backwards(steps):
     return tuple(reversed(steps))
 
 
-def scope_steps(planner, statements, scope):
-    """The steps of statements, of all but the last one with its value taken away."""
-    steps = []
+def put_statements(planner, statements, scope, steps):
+    """Puts the steps of statements behind these, of all but the last one with its value taken away."""
     for number, tree in enumerate(statements):
         if number > 0:
             steps.append(POP)
         put_steps(planner, tree, scope, steps)
-    return steps
 
 
 def put_steps(planner, tree, scope, steps):
     """Puts the steps that leave the value of a tree behind these."""
-    put = PUTS[tree[0]]
-    put(planner, tree, scope, steps)
-
-
-def put_name(planner, tree, scope, steps):
-    """Reads a name."""
-    name = tree[1]
-    if name == "self":
-        steps.append(("self",))
-    elif name in SPOKEN_WORDS:
-        steps.append(("const", name))
+    kind = tree[0]
+    if kind == "var":
+        steps.append(code_of_name(planner, tree[1], scope))
+    elif kind == "int":
+        steps.append(tree)
+    elif kind == "send":
+        selector = tree[2]
+        form = in_place_form(tree) if planner.judges and (selector in CHOICES or selector in LOOPS) else None
+        if form is None:
+            put_steps(planner, tree[1], scope, steps)
+            put_message(planner, "send", selector, tree[3], scope, steps)
+        else:
+            put_steps(planner, form, scope, steps)
     else:
-        place = planner.place_of(name, scope)
-        steps.append(("class", name) if place is None else place)
+        put = PUTS[kind]
+        put(planner, tree, scope, steps)
 
 
-def put_integer(planner, tree, scope, steps):
-    """An integer."""
-    steps.append(tree)
+def code_of_name(planner, name, scope):
+    """The code that reads a name."""
+    if name in scope.places:
+        return ("temp", 0, scope.places[name])
+    if name in FIXED_NAMES:
+        return FIXED_NAMES[name]
+    place = planner.place_of(name, scope)
+    return ("class", name) if place is None else place
+
+
+def put_message(planner, word, selector, arguments, scope, steps):
+    """A message, behind what it is sent to."""
+    for tree in arguments:
+        put_steps(planner, tree, scope, steps)
+    steps.append((word, selector, len(arguments)))
 
 
 def put_literal(planner, tree, scope, steps):
@@ -145,29 +163,10 @@ def put_set(planner, tree, scope, steps):
     steps.append(("set" + place[0], *place[1:]))
 
 
-def put_all(planner, trees, scope, steps):
-    """The steps of several trees, in order."""
-    for tree in trees:
-        put_steps(planner, tree, scope, steps)
-
-
-def put_send(planner, tree, scope, steps):
-    """A message."""
-    form = in_place_form(tree) if planner.judges else None
-    if form is not None:
-        put_steps(planner, form, scope, steps)
-        return
-    _, subject, selector, arguments = tree
-    put_steps(planner, subject, scope, steps)
-    put_all(planner, arguments, scope, steps)
-    steps.append(("send", selector, len(arguments)))
-
-
 def put_super(planner, tree, scope, steps):
     """A message to super."""
     steps.append(("self",))
-    put_all(planner, tree[2], scope, steps)
-    steps.append(("super", tree[1], len(tree[2])))
+    put_message(planner, "super", tree[1], tree[2], scope, steps)
 
 
 def put_cascade(planner, tree, scope, steps):
@@ -177,8 +176,7 @@ def put_cascade(planner, tree, scope, steps):
     for number, (selector, arguments) in enumerate(tree[2]):
         if number < last:
             steps.append(("dup",))
-        put_all(planner, arguments, scope, steps)
-        steps.append(("send", selector, len(arguments)))
+        put_message(planner, "send", selector, arguments, scope, steps)
         if number < last:
             steps.append(POP)
 
@@ -191,10 +189,13 @@ def put_block(planner, tree, scope, steps):
     steps.append(("block", number))
     scope.blocks.append(None)
     scope.inner.append(inner)
-    inside = scope_steps(planner, statements, inner) if statements else [NIL]
+    inside = []
+    put_statements(planner, statements, inner, inside)
+    if not statements:
+        inside.append(NIL)
     if not statements or statements[-1][0] != "return":
         inside.append(("answer",))
-    scope.blocks[number] = inner.plan(len(parameters), inside)
+    scope.blocks[number] = planner.plan(inner, len(parameters), inside)
 
 
 def put_return(planner, tree, scope, steps):
@@ -207,31 +208,63 @@ def put_choice(planner, tree, scope, steps):
     """One of two blocks is gone through."""
     _, subject, wanted, block, other = tree
     put_steps(planner, subject, scope, steps)
-    steps.append(("choose", wanted, gone_through(planner, block, scope), gone_through(planner, other, scope)))
+    if not planner.flat:
+        steps.append(("choose", wanted, part(planner, block, scope), part(planner, other, scope)))
+        return
+    test = held_place(steps)
+    put_part(planner, block, scope, steps)
+    jump = held_place(steps)
+    below = len(steps)
+    put_part(planner, other, scope, steps)
+    steps[test] = ("test", wanted, below, len(steps))
+    steps[jump] = ("jump", len(steps))
 
 
 def put_loop(planner, tree, scope, steps):
     """Two blocks are gone through again and again."""
     _, subject, wanted, block = tree
-    steps.append(("loop", gone_through(planner, subject, scope), wanted, gone_through(planner, block, scope)))
+    if not planner.flat:
+        steps.append(("loop", part(planner, subject, scope), wanted, part(planner, block, scope)))
+        return
+    begin = len(steps)
+    put_part(planner, subject, scope, steps)
+    test = held_place(steps)
+    put_part(planner, block, scope, steps)
+    steps.append(POP)
+    steps.append(("jump", begin))
+    below = len(steps)
+    steps.append(NIL)
+    steps[test] = ("test", wanted, below, len(steps))
 
 
-def gone_through(planner, tree, scope):
-    """The steps of a block that is gone through in place, or of a name in the place of one."""
+def held_place(codes):
+    """The place of a code whose targets are not known yet."""
+    codes.append(())
+    return len(codes) - 1
+
+
+def part(planner, tree, scope):
+    """The steps of a block that is gone through in place, or of a name in the place of one, the last one first."""
     steps = []
+    put_part(planner, tree, scope, steps)
+    return backwards(steps)
+
+
+def put_part(planner, tree, scope, steps):
+    """Puts the steps of a block that is gone through in place, or of a name in the place of one, behind these."""
     if tree[0] == "var":
-        put_name(planner, tree, scope, steps)
-        return backwards(steps)
+        steps.append(FIXED_NAMES[tree[1]])
+        return
     _, _, variables, statements = tree
     for name in variables:
         scope.put_variable(name)
         steps.extend([NIL, ("settemp", 0, scope.places[name]), POP])
-    steps.extend(scope_steps(planner, statements, scope) if statements else [NIL])
+    put_statements(planner, statements, scope, steps)
+    if not statements:
+        steps.append(NIL)
     for name in variables:
         del scope.places[name]
-    return backwards(steps)
 
 
-PUTS = {"var": put_name, "int": put_integer, "str": put_literal, "sym": put_literal, "arr": put_literal, "set": put_set,
-        "send": put_send, "super": put_super, "cascade": put_cascade, "block": put_block, "return": put_return,
-        "choice": put_choice, "loop": put_loop}
+PUTS = {"str": put_literal, "sym": put_literal, "arr": put_literal, "set": put_set, "super": put_super,
+        "cascade": put_cascade, "block": put_block, "return": put_return, "choice": put_choice, "loop": put_loop}

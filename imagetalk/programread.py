@@ -60,49 +60,41 @@ class Judge:
         classes, main = thing
         if not isinstance(classes, tuple) or len(classes) > MOST_CLASSES:
             raise BadProgram(())
-        definitions = [definition for definition in classes if is_definition(definition)]
+        formed = [is_definition(definition) for definition in classes]
+        definitions = [definition for definition, has_form in zip(classes, formed) if has_form]
         self.defined = {definition[0]: True for definition in definitions}
         self.names_alike = {name: True for name in self.before.own_names} == self.defined
         self.read_sources(definitions, main)
         book = self.book
         for index, definition in enumerate(classes):
-            if not self.definition_fits(definition):
+            if not formed[index] or not self.definition_fits(definition):
                 raise BadProgram((index,))
             name, parent, fields, class_fields, methods, class_methods = definition
             book.put_class(name, parent, fields, class_fields)
             self.read_methods(index, 0, name, methods)
             self.read_methods(index, 1, name + CLASS_WORD, class_methods)
-        book.main = self.taken((main,)) if isinstance(main, str) else None
-        if book.main is None or not self.names_fit(book.main, ()):
+        book.main = book.sources[(main,)] if isinstance(main, str) else None
+        if book.main is None or not self.method_fits(book.main, ()):
             raise BadProgram(("main",))
 
     def read_sources(self, definitions, main):
         """Reads all sources; that of main is kept apart from those of methods, by itself in a tuple."""
-        wanted = {}
+        wanted = [] if not isinstance(main, str) else [(main,)]
         for definition in definitions:
             for sources in definition[4:]:
                 if are_sources(sources):
-                    for source in sources:
-                        if isinstance(source, str):
-                            wanted[source] = True
-        if isinstance(main, str):
-            wanted[(main,)] = True
+                    wanted.extend([source for source in sources if isinstance(source, str)])
         known = self.before.sources
-        found = self.book.sources
-        missing = []
-        for key in wanted:
-            if key in known:
-                found[key] = known[key]
-            else:
-                missing.append(key)
+        found = {key: known[key] for key in wanted if key in known}
+        missing = list({key: True for key in wanted if key not in known})
         if missing:
             for key, parsed in zip(missing, parsed_all(missing)):
                 found[key] = parsed
+        book = self.book
+        book.sources = found
 
     def definition_fits(self, thing):
-        """Whether it is a definition, apart from what its methods are."""
-        if not is_definition(thing):
-            return False
+        """Whether what has the form of a definition is one, apart from what its methods are."""
         name, parent, fields, class_fields, methods, class_methods = thing
         if name in self.book.parents or not self.can_be_parent(parent):
             return False
@@ -132,8 +124,8 @@ class Judge:
             return
         methods = {}
         for number, source in enumerate(sources):
-            parsed = self.taken(source) if isinstance(source, str) else None
-            if parsed is None or not self.names_fit(parsed, fields):
+            parsed = book.sources[source] if isinstance(source, str) else None
+            if parsed is None or not self.method_fits(parsed, fields):
                 raise BadProgram((index, side, number))
             selector = parsed.tree[1]
             if selector in methods or selector in IN_PLACE:
@@ -141,13 +133,10 @@ class Judge:
             methods[selector] = parsed
         book.methods[owner] = methods
 
-    def taken(self, key):
-        """What was read of a source, None if it is none or too deep."""
-        parsed = self.book.sources[key]
-        return parsed if parsed is None or parsed.shallow or self.any_depth else None
-
-    def names_fit(self, parsed, fields):
-        """Whether a method reads and sets nothing but these fields and classes, and declares none of the fields."""
+    def method_fits(self, parsed, fields):
+        """Whether a method, not too deep, reads and sets but these fields and classes, and declares no field."""
+        if not parsed.shallow and not self.any_depth:
+            return False
         for name in parsed.free:
             if name not in fields and name not in self.defined and name not in self.book.parents:
                 return False

@@ -68,11 +68,11 @@ class Quick:
 
     def read_body(self, selector, parameters):
         """The tree of a method, behind its pattern."""
-        variables = self.read_variables()
+        variables = self.read_variables() if self.words[-1][1] == "|" else ()
         return ("method", selector, parameters, variables, self.read_statements("end", ""))
 
     def read_variables(self):
-        """Reads the variables, if there are some."""
+        """Reads the variables, if this is no string but the first bar of some."""
         words = self.words
         if not self.at_sign("|"):
             return ()
@@ -158,43 +158,57 @@ class Quick:
     def read_messages(self, tree):
         """Reads the messages to a tree, of which there is one at least unless the tree is to have a cascade's."""
         words = self.words
-        left = None
-        head = None
+        kind, word, _ = words[-1]
+        while kind == "name":
+            tree = ("send", tree, word, ())
+            words.pop()
+            kind, word, _ = words[-1]
+        if kind == "op":
+            tree = self.read_operators(tree)
+            kind, word, _ = words[-1]
+        if kind != "keyword":
+            return tree
         selector = ""
         arguments = []
-        while True:
-            newest = words.pop()
-            kind, word, _ = newest
-            while kind == "name":
-                tree = ("send", tree, word, ())
-                newest = words.pop()
-                kind, word, _ = newest
-            if left is not None:
-                tree = sent(left, operator, (tree,))
-                left = None
+        while kind == "keyword":
+            words.pop()
+            selector += word
+            argument = self.read_operand(("op",))
+            kind, word, _ = words[-1]
             if kind == "op":
-                left = tree
-                operator = word
-            else:
-                if head is None:
-                    head = tree
-                else:
-                    arguments.append(tree)
-                if kind != "keyword":
-                    break
-                selector += word
-            tree = self.read_operand(() if kind == "op" else ("op",))
-        words.append(newest)
+                argument = self.read_operators(argument)
+                kind, word, _ = words[-1]
+            arguments.append(argument)
         if len(selector) > LONGEST_SELECTOR:
             raise Unsure("too long a selector")
-        return sent(head, selector, tuple(arguments)) if selector else tree
+        return sent(tree, selector, tuple(arguments))
+
+    def read_operators(self, tree):
+        """Reads operators with their arguments."""
+        words = self.words
+        kind, word, _ = words[-1]
+        while kind == "op":
+            words.pop()
+            tree = sent(tree, word, (self.read_operand(()),))
+            kind, word, _ = words[-1]
+        return tree
 
     def read_operand(self, follows_super):
-        """Reads what stands behind an operator or a keyword, without its messages; but super with a unary one."""
-        kind, word, _ = self.words.pop()
+        """Reads a primary with unary messages, or super ahead of a message of one of these kinds."""
+        words = self.words
+        kind, word, _ = words.pop()
         if kind != "name":
-            return self.read_other(kind, word)
-        return ("var", word) if word in self.known else self.read_free(word, follows_super)
+            tree = self.read_other(kind, word)
+        elif word in self.known:
+            tree = ("var", word)
+        else:
+            tree = self.read_free(word, follows_super)
+        kind, word, _ = words[-1]
+        while kind == "name":
+            tree = ("send", tree, word, ())
+            words.pop()
+            kind, word, _ = words[-1]
+        return tree
 
     def read_free(self, name, follows_super):
         """A name that is not known: perhaps super, with a unary message or ahead of a message of one of these kinds."""
@@ -268,7 +282,7 @@ class Quick:
             words.pop()
             if self.at_sign("]"):
                 raise Unsure("nothing behind the bar")
-        variables = self.read_variables()
+        variables = self.read_variables() if words[-1][1] == "|" else ()
         self.keeps = self.keeps or variables != ()
         trees = self.read_statements("sign", "]")
         for name in parameters:

@@ -93,14 +93,16 @@ class Run(Image):
 
     def push(self, act):
         """An activation begins on top of the others."""
-        act.level = len(self.acts)
-        if act.level >= MOST_DEPTH:
+        acts = self.acts
+        level = len(acts)
+        if level >= MOST_DEPTH:
             raise Stopped("depth")
+        act.level = level
         act.process = self.going.number
-        self.acts.append(act)
+        acts.append(act)
         self.begun += 1
-        if act.level >= self.deepest:
-            self.deepest = act.level + 1
+        if level >= self.deepest:
+            self.deepest = level + 1
 
     def begin(self, method, receiver, arguments, after):
         """An activation of a method begins."""
@@ -148,7 +150,11 @@ class Run(Image):
         act = self.acts.pop()
         after = act.after
         if after is None:
-            self.deliver(value)
+            sender = self.acts[-1]
+            if sender.waits:
+                self.answer(value)
+            else:
+                sender.pile.append(value)
         elif after == "process":
             self.end_process(value)
         elif after == "receiver":
@@ -200,7 +206,7 @@ class Run(Image):
             raise Stopped("sends")
         self.sent += 1
         self.messages.append((len(self.acts), kind.name, selector))
-        method = self.method_for(start, selector)
+        method = self.stock.method_for(start, selector)
         if method is None:
             message = self.new_message(selector, arguments)
             self.send_from(start, receiver, kind, "doesNotUnderstand:", (message,))

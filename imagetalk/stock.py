@@ -1,7 +1,7 @@
 """What all runs of one program have in common: its classes, and the methods that are found in them."""
 
 from imagetalk.book import CLASS_WORD
-from imagetalk.kernel import kernel_source
+from imagetalk.kernel import BY_RULE, kernel_source
 from imagetalk.parsing import parsed_method
 from imagetalk.reader import BODY_SELECTOR
 from imagetalk.rules import rule_of
@@ -29,32 +29,40 @@ class Stock:
 
     def kind_named(self, name):
         """The class with this name."""
-        if name not in self.kinds:
-            above = self.book.parent_of_class(name)
+        kind = self.kinds.get(name)
+        if kind is None:
+            book = self.book
+            above = book.parent_of_class(name)
             parent = None if above is None else self.kind_named(above)
-            own = name in self.book.own_names
-            self.kinds[name] = Kind(name, parent, self.book.fields_of_class(name), own)
-        return self.kinds[name]
+            fields = () if parent is None else parent.field_names
+            kind = Kind(name, parent, fields + book.own_fields.get(name, ()), name in book.own_names)
+            self.kinds[name] = kind
+        return kind
 
     def method_for(self, kind, selector):
         """The method that an instance works for a selector, None if there is none."""
         key = (kind.name, selector)
-        if key not in self.known:
-            self.known[key] = self.searched(kind, selector)
-        return self.known[key]
+        found = self.known.get(key)
+        if found is None and key not in self.known:
+            found = self.searched(kind, selector)
+            self.known[key] = found
+        return found
 
     def searched(self, kind, selector):
         """As method_for, looked for from the class on."""
-        method = self.own_method(kind, selector)
-        if method is None and kind.parent is not None:
-            return self.method_for(kind.parent, selector)
-        return method
-
-    def own_method(self, kind, selector):
-        """The method that a class has itself, None if it has none."""
         methods = self.book.methods
-        if kind.name in methods:
-            return self.method_of_program(kind.name, selector) if selector in methods[kind.name] else None
+        while kind is not None:
+            if kind.name not in methods:
+                found = self.method_of_kernel(kind, selector)
+                if found is not None:
+                    return found
+            elif selector in methods[kind.name]:
+                return self.method_of_program(kind.name, selector)
+            kind = kind.parent
+        return None
+
+    def method_of_kernel(self, kind, selector):
+        """The method that a class of the kernel has itself, None if it has none."""
         key = (kind.name, selector)
         if key not in self.lasting:
             self.lasting[key] = kernel_method(kind, selector)
@@ -63,14 +71,17 @@ class Stock:
     def method_of_program(self, name, selector):
         """The method of the program's own, or the made one that is put in its place."""
         key = (name, selector)
-        if key not in self.own:
+        method = self.own.get(key)
+        if method is None:
             parsed = self.book.methods[name][selector]
-            trees = self.placed[key][1] if key in self.placed else tuple(parsed.literals)
-            method = Method(self.kind_named(name), selector, parsed, trees)
             if key in self.placed:
-                method.body = self.placed[key][2]
+                _, trees, body = self.placed[key]
+                method = Method(self.kind_named(name), selector, parsed, trees)
+                method.body = body
+            else:
+                method = Method(self.kind_named(name), selector, parsed, tuple(parsed.literals))
             self.own[key] = method
-        return self.own[key]
+        return method
 
     def keys_with_literals(self):
         """The methods of the program's classes that can have literals, as (class, selector), in order."""
@@ -90,8 +101,8 @@ class Stock:
 
 def kernel_method(kind, selector):
     """The method that a class of the kernel has itself, None if it has none."""
-    action, direct = rule_of(kind.name, selector)
-    if action is not None:
+    if selector in BY_RULE.get(kind.name, ()):
+        action, direct = rule_of(kind.name, selector)
         return Rule((kind.name, selector), action, direct)
     source = kernel_source(kind.name, selector)
     return None if source is None else Method(kind, selector, parsed_method(source), ())

@@ -11,7 +11,7 @@ class Walk(Run):
 
     def prepared(self, method, is_main, in_place):
         """The plan of a method."""
-        plan, _ = planned(method.parsed, method.kind.field_names, is_main, in_place)
+        plan, _ = planned(method.parsed, method.kind.field_names, is_main, in_place, False)
         return plan
 
     def steps_of(self, body):

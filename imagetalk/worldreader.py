@@ -24,7 +24,7 @@ def run_of_text(text):
     rows = body.split(ROW_END)
     if head != HEAD or sizes != f"{len(rows)} {len(body)}":
         raise BadWorld("not a text of a World")
-    reader = WorldReader([plain(row) for row in rows])
+    reader = WorldReader([plain(row) for row in rows] if "\\" in body else rows)
     reader.read_all()
     return reader.run
 
@@ -65,7 +65,10 @@ class WorldReader:
     def read_all(self):
         """Makes the run of all rows."""
         program = self.read_program()
-        run = Machine(Stock(program, read_program(program), {}), MOST_SENDS, True)
+        book = read_program(program)
+        for key, parsed in book.sources.items():
+            parsed.text = key if isinstance(key, str) else key[0]
+        run = Machine(Stock(program, book, {}), MOST_SENDS, True)
         self.run = run
         run.output = self.next_row()
         run.sent, run.made, run.rounds, many = self.next_numbers()

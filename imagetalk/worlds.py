@@ -78,9 +78,9 @@ class World:
 
     def fields(self, number):
         """The fields of an object, each as (name, told)."""
-        if not is_count(number, len(self.run.first_told()) + len(self.run.things) - 1):
+        if not is_count(number, self.run.first_many() + len(self.run.things) - 1):
             raise NoObject("no number of an object")
-        thing = self.run.thing_at(number)
+        thing = self.run.holder_at(number)
         if thing is None:
             return []
         if thing.is_a("Array"):

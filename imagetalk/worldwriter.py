@@ -23,7 +23,9 @@ def text_of_run(run):
     rows = [*program_rows(run.stock), *plain_rows(run), *method_rows(run, standing)]
     rows.extend(standing.process_rows())
     rows.extend(standing.object_rows())
-    text = ROW_END.join([escaped(row) for row in rows])
+    text = ROW_END.join(rows)
+    if "\\" in text or "\n" in text or text.count(ROW_END) >= len(rows):
+        text = ROW_END.join([escaped(row) for row in rows])
     return ROW_END.join([HEAD, f"{len(rows)} {len(text)}", text])
 
 
@@ -34,9 +36,23 @@ def program_rows(stock):
     for name, parent, fields, class_fields, methods, class_methods in classes:
         rows.extend([name, parent, " ".join(fields), " ".join(class_fields), f"{len(methods)} {len(class_methods)}"])
         for owner in (name, name + " class"):
-            rows.extend([method_text(parsed.tree) for parsed in stock.book.methods[owner].values()])
-    rows.append(body_text(stock.book.main.tree))
+            rows.extend([method_row(parsed) for parsed in stock.book.methods[owner].values()])
+    rows.append(main_row(stock.book.main))
     return rows
+
+
+def method_row(parsed):
+    """The row of a method of the program, which is kept, as it stays the same."""
+    if parsed.text is None:
+        parsed.text = method_text(parsed.tree)
+    return parsed.text
+
+
+def main_row(parsed):
+    """As method_row, of main."""
+    if parsed.text is None:
+        parsed.text = body_text(parsed.tree)
+    return parsed.text
 
 
 def plain_rows(run):
