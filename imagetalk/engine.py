@@ -41,17 +41,21 @@ class Machine(Run):
     def go(self, count):
         """Does so many codes, or fewer if the run ends."""
         actions = self.actions
-        last = self.done + count
+        done = self.done
+        last = done + count
         try:
-            while self.ending is None and self.done < last:
+            while self.ending is None and done < last:
                 act = self.acts[-1]
-                code = act.steps[act.place]
-                act.place += 1
-                self.done += 1
+                place = act.place
+                code = act.steps[place]
+                act.place = place + 1
+                done += 1
                 action = actions[code[0]]
                 action(self, act, code)
         except Stopped as stop:
             self.end("stopped", stop.word)
+        finally:
+            self.done = done
 
 
 def go_to(run, act, place):

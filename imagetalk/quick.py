@@ -5,6 +5,7 @@ What cannot be read so, for whatever reason, raises Unsure.
 
 from imagetalk.lines import CASCADED, SUPER, sent
 from imagetalk.names import LONGEST_SELECTOR, MOST_PARAMETERS, SPOKEN_WORDS
+from imagetalk.treeparts import DEEPEST
 
 # How many brackets and sets are read within one another.
 MOST_NESTED = 30
@@ -24,7 +25,7 @@ class Quick:
 
     free has the names that are read or set where they are not declared, literals the strings, symbols and arrays, like
     symbols once, keeps tells whether a block has variables of its own, longest how many words the longest one of the
-    statements has that are in no block.
+    statements has that are in no block, if there are many words.
     """
 
     def __init__(self, words):
@@ -88,54 +89,53 @@ class Quick:
         """Reads statements, and what closes them."""
         words = self.words
         trees = []
-        kind, word, _ = words[-1]
+        watched = self.nested == 0 and len(words) >= DEEPEST
+        kind, word, _ = words.pop()
         while kind != closer or word != value:
-            many = len(words)
+            many = len(words) + 1
             returns = word == "^" and kind == "sign"
             if returns:
-                words.pop()
-                trees.append(("return", self.read_expression()))
+                kind, word, _ = words.pop()
+                trees.append(("return", self.read_expression(kind, word)))
             else:
-                trees.append(self.read_expression())
-            if self.nested == 0 and many - len(words) > self.longest:
-                self.longest = many - len(words)
-            kind, word, _ = words[-1]
+                trees.append(self.read_expression(kind, word))
+            if watched:
+                self.longest = max(self.longest, many - len(words))
+            kind, word, _ = words.pop()
             if word == "." and kind == "sign":
-                words.pop()
-                kind, word, _ = words[-1]
+                kind, word, _ = words.pop()
             elif kind != closer or word != value:
                 raise Unsure("no dot behind a statement")
             if returns and (kind != closer or word != value):
                 raise Unsure("a statement behind a return")
-        words.pop()
         return tuple(trees)
 
-    def read_expression(self):
-        """Reads an expression."""
+    def read_expression(self, kind, word):
+        """Reads an expression that begins with this word."""
         words = self.words
-        kind, word, _ = words.pop()
         if kind == "name":
             follows, sign, _ = words[-1]
             if sign == ":=" and follows == "sign":
                 words.pop()
                 return self.set_name(word)
-            if word in self.known:
-                tree = ("var", word)
-            else:
-                tree = self.read_free(word, ("op", "keyword"))
+            if word == "super":
+                tree = self.read_super(("op", "keyword"))
                 follows, sign, _ = words[-1]
+            else:
+                if word not in self.known:
+                    self.free[word] = True
+                tree = ("var", word)
         else:
-            tree = self.read_other(kind, word)
+            tree = ("int", word) if kind == "int" else self.read_other(kind, word)
             follows, sign, _ = words[-1]
-        if follows == "end":
+        if follows == "sign":
+            if sign == ";":
+                raise Unsure("no message ahead of a cascade")
             return tree
-        if follows != "sign":
+        if follows != "end":
             tree = self.read_messages(tree)
-            if words[-1][1] != ";" or words[-1][0] != "sign":
-                return tree
-            return self.read_cascade(tree)
-        if sign == ";":
-            raise Unsure("no message ahead of a cascade")
+            if words[-1][1] == ";" and words[-1][0] == "sign":
+                return self.read_cascade(tree)
         return tree
 
     def set_name(self, name):
@@ -145,7 +145,8 @@ class Quick:
         elif self.known.get(name, True):
             raise Unsure("a name that cannot be set")
         self.enter()
-        tree = ("set", name, self.read_expression())
+        kind, word, _ = self.words.pop()
+        tree = ("set", name, self.read_expression(kind, word))
         self.nested -= 1
         return tree
 
@@ -198,11 +199,13 @@ class Quick:
         words = self.words
         kind, word, _ = words.pop()
         if kind != "name":
-            tree = self.read_other(kind, word)
-        elif word in self.known:
-            tree = ("var", word)
+            tree = ("int", word) if kind == "int" else self.read_other(kind, word)
+        elif word == "super":
+            tree = self.read_super(follows_super)
         else:
-            tree = self.read_free(word, follows_super)
+            if word not in self.known:
+                self.free[word] = True
+            tree = ("var", word)
         kind, word, _ = words[-1]
         while kind == "name":
             tree = ("send", tree, word, ())
@@ -210,16 +213,13 @@ class Quick:
             kind, word, _ = words[-1]
         return tree
 
-    def read_free(self, name, follows_super):
-        """A name that is not known: perhaps super, with a unary message or ahead of a message of one of these kinds."""
-        if name != "super":
-            self.free[name] = True
-            return ("var", name)
+    def read_super(self, follows):
+        """A unary message to super, or super itself ahead of a message of one of these kinds."""
         kind, word, _ = self.words[-1]
         if kind == "name":
             self.words.pop()
             return ("super", word, ())
-        if kind not in follows_super:
+        if kind not in follows:
             raise Unsure("no message to super")
         return SUPER
 
@@ -237,9 +237,7 @@ class Quick:
         return ("cascade", tree[1], tuple(messages))
 
     def read_other(self, kind, word):
-        """The primary that begins with a word that is no name."""
-        if kind == "int":
-            return ("int", word)
+        """The primary that begins with a word that is no name and no integer."""
         if kind == "str" or kind == "sym":
             tree = (kind, word)
             if kind == "str" or tree not in self.literals:
@@ -257,7 +255,8 @@ class Quick:
             return tree
         self.enter()
         if sign == "(":
-            tree = self.read_expression()
+            kind, word, _ = self.words.pop()
+            tree = self.read_expression(kind, word)
             if self.words.pop()[:2] != ("sign", ")"):
                 raise Unsure("not closed")
         elif sign == "[":

@@ -106,9 +106,10 @@ class Run(Image):
 
     def begin(self, method, receiver, arguments, after):
         """An activation of a method begins."""
-        if method.body is None:
-            self.prepare(method, after == "process")
         body = method.body
+        if body is None:
+            self.prepare(method, after == "process")
+            body = method.body
         cells = list(arguments) + [None] * (body[1] - body[0])
         act = Activation(method, body, receiver, cells, self.steps_of(body))
         act.after = after
@@ -206,7 +207,11 @@ class Run(Image):
             raise Stopped("sends")
         self.sent += 1
         self.messages.append((len(self.acts), kind.name, selector))
-        method = self.stock.method_for(start, selector)
+        # Most methods have been found before.
+        stock = self.stock
+        method = stock.known.get((start.name, selector))
+        if method is None:
+            method = stock.method_for(start, selector)
         if method is None:
             message = self.new_message(selector, arguments)
             self.send_from(start, receiver, kind, "doesNotUnderstand:", (message,))

@@ -3,7 +3,7 @@
 from imagetalk.codes import all_bodies
 from imagetalk.holding import bond_parts, class_parts, held_values, literals_of, made_row, names_of, program_methods
 from imagetalk.holding import reached_nodes, waiting_rows
-from imagetalk.things import Activation, Closure, Guard, Signals, Strand
+from imagetalk.things import Activation, Closure, Guard, Signals, Strand, Thing
 
 # What stands between the parts of a row.
 PART = " |"
@@ -36,6 +36,15 @@ def guard_word(guard):
     return "1" if guard.begun else "0"
 
 
+def plain_word(value):
+    """The word for nil, a truth or an integer."""
+    if value is None:
+        return "n"
+    if isinstance(value, bool):
+        return "t" if value else "f"
+    return f"i{value}"
+
+
 class Standing:
     """A run that is looked at: the nodes that are reached, and the numbers by which rows tell of them."""
 
@@ -53,15 +62,13 @@ class Standing:
 
     def ref(self, value):
         """The word for a value."""
-        if value is None:
-            return "n"
-        if isinstance(value, bool):
-            return "t" if value else "f"
-        return f"i{value}" if isinstance(value, int) else self.names[value]
+        return self.names[value] if isinstance(value, (Thing, Activation)) else plain_word(value)
 
     def refs(self, values):
         """The words for several values, each with a blank ahead."""
-        return "".join([" " + self.ref(value) for value in values])
+        names = self.names
+        words = [names[value] if isinstance(value, (Thing, Activation)) else plain_word(value) for value in values]
+        return " " + " ".join(words) if words else ""
 
     def method_words(self, act):
         """The words for the method and the body that an activation works."""

@@ -1,11 +1,9 @@
-"""Runs copied: a twin stands where the run stands, and goes on apart from it."""
+"""Runs copied: a twin stands where the run stands, and goes on apart from it.
+
+Symbols, and the classes that hold nothing, never change, and so both share them.
+"""
 
 from imagetalk.things import Activation, Closure, Guard, Handling, Kind, Remains, Signals, Strand, Thing, Way
-
-
-def is_lasting(thing):
-    """Whether an object never changes, so that a run and its twins can share it."""
-    return thing.is_a("Symbol") or (isinstance(thing.data, Kind) and not thing.data.own)
 
 
 def twin(run, other):
@@ -28,17 +26,17 @@ class Twin:
     def copy_all(self):
         """Copies all that the run holds."""
         self.strands = [Strand(strand.number, None) for strand in self.run.strands]
-        hollow = []
-        for thing in [*self.run.classes.values(), *self.run.things]:
-            if not is_lasting(thing):
-                self.things[thing] = new_thing(thing)
-                if not isinstance(thing.data, str):
-                    hollow.append(thing)
+        pairs = [(thing, new_thing(thing)) for thing in self.run.classes.values() if thing.data.own]
+        pairs.extend([(thing, new_thing(thing)) for thing in self.run.things if thing.kind.name != "Symbol"])
+        self.things = {thing: there for thing, there in pairs}
         for strand in self.run.strands:
             for act in strand.acts:
                 self.act_of(act)
-        for thing in hollow:
-            self.fill_thing(thing)
+        for thing, there in pairs:
+            if thing.parts:
+                there.parts = self.values_of(thing.parts)
+            if thing.data is not None and not isinstance(thing.data, (str, Kind)):
+                there.data = self.data_of(thing.data)
         self.copy_strands()
         self.copy_rest()
 
@@ -55,23 +53,18 @@ class Twin:
         """What stands for a process."""
         return None if strand is None else self.strands[strand.number]
 
-    def fill_thing(self, thing):
-        """Copies what an object holds."""
-        there = self.things[thing]
-        data = thing.data
-        if thing.parts:
-            there.parts = self.values_of(thing.parts)
+    def data_of(self, data):
+        """What stands for the data of an Array, a Block, a Process or a Semaphore."""
         if isinstance(data, list):
-            there.data = self.values_of(data)
-        elif isinstance(data, Closure):
-            there.data = Closure(data.number, data.body, self.chain_of(data.around))
-        elif isinstance(data, Strand):
-            there.data = self.strand_of(data)
-        elif isinstance(data, Signals):
-            signals = Signals()
-            signals.count = data.count
-            signals.waiting = [self.strand_of(strand) for strand in data.waiting]
-            there.data = signals
+            return self.values_of(data)
+        if isinstance(data, Closure):
+            return Closure(data.number, data.body, self.chain_of(data.around))
+        if isinstance(data, Strand):
+            return self.strand_of(data)
+        signals = Signals()
+        signals.count = data.count
+        signals.waiting = [self.strand_of(strand) for strand in data.waiting]
+        return signals
 
     def chain_of(self, act):
         """What stands for an activation in which a Block was made; it and those around it are copied first."""
@@ -170,6 +163,7 @@ class Twin:
 def new_thing(thing):
     """An object of the same class, with the same signs or the same Kind, that was made by the same process."""
     there = Thing(thing.kind, thing.data)
-    there.maker = thing.maker
-    there.serial = thing.serial
+    if thing.maker >= 0 or thing.serial > 0:
+        there.maker = thing.maker
+        there.serial = thing.serial
     return there

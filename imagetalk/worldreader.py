@@ -72,12 +72,19 @@ class WorldReader:
         self.run = run
         run.output = self.next_row()
         run.sent, run.made, run.rounds, many = self.next_numbers()
-        for row in self.next_rows(many):
-            depth, selector, name = row.split(" ", 2)
-            run.messages.append((int(depth), name, selector))
+        run.messages = self.messages_in(self.next_rows(many))
         self.made = [self.next_rows(3) for _ in range(self.next_numbers()[0])]
         act_rows = self.read_processes()
         self.read_objects(act_rows)
+
+    def messages_in(self, rows):
+        """The messages of which these are the rows, many of them perhaps alike."""
+        known = {}
+        for row in rows:
+            if row not in known:
+                depth, selector, name = row.split(" ", 2)
+                known[row] = (int(depth), name, selector)
+        return [known[row] for row in rows]
 
     def read_program(self):
         """The program."""
@@ -143,24 +150,30 @@ class WorldReader:
 
     def value(self, word):
         """The value for which a word stands."""
-        if word in self.named:
-            return self.named[word]
+        if word not in self.named:
+            self.named[word] = self.unnamed_value(word)
+        return self.named[word]
+
+    def unnamed_value(self, word):
+        """The integer or the class for which a word stands."""
         if word.startswith("i"):
             return int(word[1:])
         return self.run.class_named(word[1:] if word.startswith("c") else word[1:] + CLASS_WORD)
 
     def all_values(self, row):
         """The values for which the words of a row stand."""
-        return [self.value(word) for word in row.split()]
+        named = self.named
+        return [named[word] if word in named else self.value(word) for word in row.split()]
 
     def make_nodes(self, rows):
         """Makes objects, and activations that have ended, that hold nothing yet."""
+        stock = self.run.stock
         for number, row in enumerate(rows):
             if row.startswith(ACT):
                 node = new_act(row.removeprefix(ACT))
             else:
-                kind = self.run.kind_named(row.partition(" ")[0])
-                node = self.run.put(Thing(kind, None))
+                name, _, _ = row.partition(" ")
+                node = self.run.put(Thing(stock.kind_named(name), None))
             self.named[f"o{number}"] = node
 
     def fill_acts(self, act_rows, value_rows, node_rows):
