@@ -63,13 +63,11 @@ def single_word(chunk):
     """The word that is all of this, whatever stands around, None if it is none."""
     if chunk.isidentifier():
         return ("name", chunk, 0) if len(chunk) <= LONGEST_NAME else None
+    if chunk.startswith("#"):
+        return ("sym", chunk[1:], 0) if is_symbol(chunk[1:]) else None
     if chunk.endswith(":"):
         return ("keyword", chunk, 0) if chunk[:-1].isidentifier() and len(chunk) <= LONGEST_NAME + 1 else None
-    if chunk.isdigit():
-        return ("int", int(chunk), 0) if len(chunk) <= MOST_DIGITS else None
-    if chunk.startswith("#") and is_symbol(chunk[1:]):
-        return ("sym", chunk[1:], 0)
-    return None
+    return ("int", int(chunk), 0) if chunk.isdigit() and len(chunk) <= MOST_DIGITS else None
 
 
 def put_others(words, chunk, texts):

@@ -7,10 +7,10 @@ from imagetalk.words import words_of
 
 
 class Parsed:
-    """The tree of a source, of any depth; the names that are free and those that are declared; its literals.
+    """The tree of a source, of any depth; the free names, each once, and those that are declared; its literals.
 
     keeps tells whether a block has variables of its own, shallow whether not too many trees lie within one another;
-    text is the text of the tree when it has been asked for.
+    text is the text of the tree when it has been asked for. A Quick that has read a source tells the same.
     """
 
     def __init__(self, tree, free, declared, literals, keeps, shallow):
@@ -47,8 +47,9 @@ def parsed_quickly(source, words, with_pattern):
         tree = quick.read_method() if with_pattern else quick.read_body(BODY_SELECTOR, ())
     except Unsure:
         return None
-    shallow = surely_shallow(source, len(words) + 1, quick.longest) or depth_of(tree) <= DEEPEST
-    return Parsed(tree, list(quick.free), quick.declared, quick.literals, quick.keeps, shallow)
+    quick.tree = tree
+    quick.shallow = surely_shallow(source, len(words) + 1, quick.longest) or depth_of(tree) <= DEEPEST
+    return quick
 
 
 def surely_shallow(source, many, longest):

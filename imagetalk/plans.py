@@ -50,13 +50,15 @@ class Scope:
 
     def __init__(self, around, names):
         self.around = around
-        self.places = {name: place for place, name in enumerate(names)}
-        self.order = list(names)
+        self.places = {}
+        self.order = []
         self.blocks = []
         self.inner = []
+        for name in names:
+            self.put_variable(name)
 
     def put_variable(self, name):
-        """A variable of a block that is done in place begins."""
+        """A variable begins."""
         self.places[name] = len(self.order)
         self.order.append(name)
 

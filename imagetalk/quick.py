@@ -23,20 +23,22 @@ class Unsure(Exception):
 class Quick:
     """The words of a source that are left, the last one first, and what is known of those that were read.
 
-    free has the names that are read or set where they are not declared, literals the strings, symbols and arrays, like
-    symbols once, keeps tells whether a block has variables of its own, longest how many words the longest one of the
-    statements has that are in no block, if there are many words.
+    longest tells how many words the longest one of the statements has that are in no block, if there are many words.
+    All else is as in a Parsed, in the place of which it stands when all is read.
     """
 
     def __init__(self, words):
         self.words = [END, *words[::-1]]
         self.known = dict(KNOWN)
+        self.nested = 0
+        self.longest = 0
+        self.tree = None
         self.free = {}
         self.declared = []
         self.literals = []
         self.keeps = False
-        self.nested = 0
-        self.longest = 0
+        self.shallow = False
+        self.text = None
 
     def declare(self, names, as_parameter):
         """Reads a parameter or a variable."""
