@@ -14,21 +14,30 @@ DEFINITION_PARTS = 6
 
 def read_program(thing):
     """The Book of a program."""
-    judge = Judge(Book(), False)
+    judge = Judge(None, {}, False)
     judge.read(thing)
     return judge.book
 
 
 def read_beside(thing, book):
     """The Book of a program that has perhaps the sources of another one, too."""
-    judge = Judge(book, False)
+    judge = Judge(book, book.sources, False)
     judge.read(thing)
     return judge.book
 
 
 def read_changed(thing, book):
     """The Book of a program that another one became; sources that are too deep are taken as well."""
-    judge = Judge(book, True)
+    judge = Judge(book, book.sources, True)
+    judge.read(thing)
+    return judge.book
+
+
+def read_changed_by(thing, book, key, parsed):
+    """As read_changed, of a program that has one source more, of which this has been read."""
+    sources = {known: book.sources[known] for known in book.sources}
+    sources[key] = parsed
+    judge = Judge(book, sources, True)
     judge.read(thing)
     return judge.book
 
@@ -44,10 +53,14 @@ def are_sources(thing):
 
 
 class Judge:
-    """What has been read of an object that should be a program, beside another program that has been read."""
+    """What has been read of an object that should be a program.
 
-    def __init__(self, before, any_depth):
+    before is the Book of another program that is perhaps much the same, or None, sources what is known of sources.
+    """
+
+    def __init__(self, before, sources, any_depth):
         self.before = before
+        self.sources = sources
         self.any_depth = any_depth
         self.book = Book()
         self.defined = {}
@@ -63,7 +76,8 @@ class Judge:
         formed = [is_definition(definition) for definition in classes]
         definitions = [definition for definition, has_form in zip(classes, formed) if has_form]
         self.defined = {definition[0]: True for definition in definitions}
-        self.names_alike = {name: True for name in self.before.own_names} == self.defined
+        if self.before is not None:
+            self.names_alike = {name: True for name in self.before.own_names} == self.defined
         self.read_sources(definitions, main)
         book = self.book
         for index, definition in enumerate(classes):
@@ -84,7 +98,7 @@ class Judge:
             for sources in definition[4:]:
                 if are_sources(sources):
                     wanted.extend([source for source in sources if isinstance(source, str)])
-        known = self.before.sources
+        known = self.sources
         found = {key: known[key] for key in wanted if key in known}
         missing = list({key: True for key in wanted if key not in known})
         if missing:
@@ -149,7 +163,7 @@ class Judge:
 def parsed_all(keys):
     """What is read of each of these sources of methods, or of main in a tuple, None for what is none."""
     sources = [key if isinstance(key, str) else key[0] for key in keys]
-    rows = words_of_all(sources)
+    rows = words_of_all(sources) if len(sources) > 1 else None
     found = []
     for number, source in enumerate(sources):
         with_pattern = isinstance(keys[number], str)

@@ -5,7 +5,7 @@ from imagetalk.errors import BadClass, BadFields, BadParent, BadProgram, NoMetho
 from imagetalk.kernel import PARENTS
 from imagetalk.names import are_fields
 from imagetalk.parsing import parsed_body, parsed_method
-from imagetalk.programread import read_beside, read_changed, read_program
+from imagetalk.programread import read_beside, read_changed, read_changed_by, read_program
 from imagetalk.trees import check_depth
 
 
@@ -68,7 +68,7 @@ def changed_by_method(program, book, name, source):
     sources = program[0][index][4 + side]
     number = number_of(book, name, parsed.tree[1])
     changed = with_part(program, index, 4 + side, (*sources[:number], source, *sources[number + 1:]))
-    against = read_changed(changed, book)
+    against = read_changed_by(changed, book, source, parsed)
     check_depth(parsed)
     return (changed, against)
 
@@ -129,7 +129,7 @@ def with_main(program, source):
     book = read_program(program)
     parsed = parsed_body(source)
     changed = (program[0], source)
-    read_changed(changed, book)
+    read_changed_by(changed, book, (source,), parsed)
     check_depth(parsed)
     return changed
 

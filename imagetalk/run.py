@@ -110,8 +110,7 @@ class Run(Image):
         if body is None:
             self.prepare(method, after == "process")
             body = method.body
-        cells = list(arguments) + [None] * (body[1] - body[0])
-        act = Activation(method, body, receiver, cells, self.steps_of(body))
+        act = Activation(method, body, receiver, new_cells(body, arguments), self.steps_of(body))
         act.after = after
         self.push(act)
 
@@ -125,8 +124,7 @@ class Run(Image):
         closure = block.data
         around = closure.around
         body = closure.body
-        cells = list(arguments) + [None] * (body[1] - body[0])
-        act = Activation(around.method, body, around.receiver, cells, self.steps_of(body))
+        act = Activation(around.method, body, around.receiver, new_cells(body, arguments), self.steps_of(body))
         act.kind = "block"
         act.around = around
         act.block = block
@@ -238,3 +236,9 @@ class Run(Image):
         message = self.new_instance(self.kind_named("Message"))
         message.parts = [symbol, self.new_array(list(arguments))]
         return message
+
+
+def new_cells(body, arguments):
+    """The variables of a new activation of a body."""
+    cells = list(arguments)
+    return cells + [None] * (body[1] - body[0]) if body[1] > body[0] else cells
