@@ -53,7 +53,7 @@ def change_fields_of(run, name, fields):
     for key, method in list(stock.own.items()):
         if key[0] in changed and method in run.literals:
             run.literals[run.stock.method_of_program(*key)] = run.literals.pop(method)
-    for thing in [*run.classes.values(), *run.things]:
+    for thing in list(run.classes.values()) + run.things:
         change_thing(run.stock, thing, changed)
 
 

@@ -9,6 +9,7 @@ from imagetalk.plainwords import is_symbol, put_keywords, set_apart, surely_bind
 from imagetalk.words import LONGEST_SOURCE
 
 BORDER = "_"
+BETWEEN = " _ "
 
 # The chunks that are always the same words.
 WORDS = {
@@ -22,7 +23,7 @@ WORDS = {
 
 def words_of_all(sources):
     """The words of each of these sources, None for one that is not surely plain; None if nothing can be told."""
-    text = f" {BORDER} ".join(sources)
+    text = BETWEEN.join(sources)
     if not all([len(source) <= LONGEST_SOURCE for source in sources]) or not is_text(text):
         return None
     if ARRAY in text or "\"" in text or STRING in text or SYMBOL in text:

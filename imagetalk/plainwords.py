@@ -59,7 +59,7 @@ def without_strings(source, texts):
 def set_apart(code):
     """The code with blanks around all signs but `:`, and a sign in the place of each `#(`."""
     if "#(" in code:
-        code = code.replace("#(", f" {ARRAY} ")
+        code = code.replace("#(", " @ ")
     code = code.replace("(", " ( ").replace(")", " ) ").replace("[", " [ ").replace("]", " ] ").replace(".", " . ")
     return code.replace(";", " ; ").replace("^", " ^ ").replace("|", " | ").replace(":=", " := ")
 
