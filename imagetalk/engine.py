@@ -40,18 +40,20 @@ class Machine(Run):
 
     def go(self, count):
         """Does so many codes, or fewer if the run ends."""
+        if self.ending is not None:
+            return
         actions = self.actions
         done = self.done
-        last = done + count
         try:
-            while self.ending is None and done < last:
+            for done in range(done + 1, done + count + 1):
                 act = self.acts[-1]
                 place = act.place
                 code = act.steps[place]
                 act.place = place + 1
-                done += 1
                 action = actions[code[0]]
                 action(self, act, code)
+                if self.ending is not None:
+                    break
         except Stopped as stop:
             self.end("stopped", stop.word)
         finally:
